@@ -1,0 +1,1 @@
+"""Keptedits: documents that programs of many versions read, change and write back."""

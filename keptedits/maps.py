@@ -1,0 +1,353 @@
+"""Maps, which take each value of a kind to a value of this kind and never change."""
+
+from keptedits.errors import InvalidMap, InvalidValue, Unlike
+from keptedits.sets import Numbers, Texts, check_set, full_set, is_name, is_number, is_stretch, is_value
+from keptedits.sets import is_within, overlap
+
+
+class Map:
+    """The common part of NumberMap and TextMap, which give KIND and the methods with an underscore."""
+
+    KIND = ""
+
+    @property
+    def kind(self):
+        """The kind of the values that are taken."""
+        return self.KIND
+
+    def at(self, value):
+        """Return the value to which a value is taken."""
+        if not is_value(value, self.KIND):
+            raise InvalidValue(value)
+        return self._result(value)
+
+    def then(self, other):
+        """Return the map that takes a value by this map, and the result by the other one."""
+        check_map(other, self.KIND)
+        return self._followed(other)
+
+    def image(self, values):
+        """Return the set of the results at all values of a set."""
+        check_set(values, self.KIND)
+        return self._results(values)
+
+    def before(self, values):
+        """Return the set of the values whose results are in a set."""
+        check_set(values, self.KIND)
+        return self._origins(values)
+
+    def constant(self, among=None):
+        """Return the one value to which all values of a set are taken, None if there is none."""
+        results = self.image(self._chosen(among))
+        return results.least() if results.size == 1 else None
+
+    def apart(self, other, among=None):
+        """Return the least value of a set at which the maps differ, None if there is none."""
+        check_map(other, self.KIND)
+        return self._chosen(among).shared(self._differing(other)).least()
+
+    def __eq__(self, other):
+        return isinstance(other, Map) and self.KIND == other.KIND and self._content() == other._content()
+
+    def _chosen(self, among):
+        values = full_set(self.KIND) if among is None else among
+        check_set(values, self.KIND)
+        return values
+
+
+class NumberMap(Map):
+    """A map of integers, made of pieces (first, last, what)."""
+
+    KIND = "number"
+
+    def __init__(self, pieces):
+        if not isinstance(pieces, (list, tuple)) or len(pieces) == 0:
+            raise InvalidMap(-1)
+        for position in range(len(pieces)):
+            if not _is_piece(pieces, position):
+                raise InvalidMap(position)
+        self._pieces = _normal_pieces(pieces)
+
+    @classmethod
+    def same(cls):
+        """Return the map that takes each integer to itself."""
+        return cls([(None, None, None)])
+
+    @classmethod
+    def constant_map(cls, value):
+        """Return the map that takes all integers to one value."""
+        if not is_number(value):
+            raise InvalidValue(value)
+        return cls([(None, None, value)])
+
+    @classmethod
+    def cut(cls, first, last):
+        """Return the map that takes integers outside of a stretch to its nearer bound."""
+        if not is_stretch(first, last):
+            raise InvalidMap(-1)
+        return cls(_pieces_around(first, last, first, last))
+
+    @classmethod
+    def reset(cls, first, last, value):
+        """Return the map that takes integers outside of a stretch to one value."""
+        if not is_stretch(first, last):
+            raise InvalidMap(-1)
+        if not is_number(value):
+            raise InvalidValue(value)
+        return cls(_pieces_around(first, last, value, value))
+
+    def pieces(self):
+        """Return the normal pieces."""
+        return list(self._pieces)
+
+    def __repr__(self):
+        return f"NumberMap({list(self._pieces)!r})"
+
+    def _result(self, value):
+        for first, last, what in self._pieces:
+            if is_within(value, first, last):
+                return _taken(what, value)
+
+    def _followed(self, other):
+        found = []
+        for first, last, what in self._pieces:
+            if what is None:
+                found.extend(_pieces_within(other._pieces, first, last))
+            else:
+                found.append((first, last, other._result(what)))
+        return NumberMap(found)
+
+    def _results(self, values):
+        found = []
+        for stretch in values.stretches():
+            for first, last, what in _pieces_within(self._pieces, stretch[0], stretch[1]):
+                found.append((first, last) if what is None else (what, what))
+        return Numbers(found)
+
+    def _origins(self, values):
+        found = []
+        for first, last, what in self._pieces:
+            if what is None:
+                found.extend(Numbers([(first, last)]).shared(values).stretches())
+            elif what in values:
+                found.append((first, last))
+        return Numbers(found)
+
+    def _differing(self, other):
+        found = []
+        for first, last, what in self._pieces:
+            for low, high, other_what in _pieces_within(other._pieces, first, last):
+                found.extend(_stretches_apart(low, high, what, other_what))
+        return Numbers(found)
+
+    def _content(self):
+        return self._pieces
+
+
+class TextMap(Map):
+    """A map of texts, made of exceptions and the rest."""
+
+    KIND = "text"
+
+    def __init__(self, exceptions=None, rest=None):
+        given = {} if exceptions is None else exceptions
+        if not isinstance(given, dict) or not (rest is None or is_value(rest, "text")):
+            raise InvalidMap(-1)
+        for old, new in given.items():
+            if not is_value(old, "text") or not is_value(new, "text"):
+                raise InvalidMap(-1)
+        self._rest = rest
+        self._exceptions = {old: given[old] for old in sorted(given) if given[old] != self._usual(old)}
+
+    @classmethod
+    def same(cls):
+        """Return the map that takes each text to itself."""
+        return cls()
+
+    @classmethod
+    def constant_map(cls, value):
+        """Return the map that takes all texts to one value."""
+        if not is_value(value, "text"):
+            raise InvalidValue(value)
+        return cls({}, value)
+
+    @property
+    def rest(self):
+        """What all texts but the exceptions are taken to, None for themselves."""
+        return self._rest
+
+    def exceptions(self):
+        """Return the normal exceptions, sorted."""
+        return {old: self._exceptions[old] for old in self._exceptions}
+
+    def __repr__(self):
+        return f"TextMap({self._exceptions!r}, {self._rest!r})"
+
+    def _usual(self, value):
+        return value if self._rest is None else self._rest
+
+    def _result(self, value):
+        return self._exceptions.get(value, self._usual(value))
+
+    def _followed(self, other):
+        found = {} if self._rest is not None else other.exceptions()
+        for old, new in self._exceptions.items():
+            found[old] = other._result(new)
+        return TextMap(found, other._rest if self._rest is None else other._result(self._rest))
+
+    def _ordinary(self):
+        return Texts(list(self._exceptions), others=True)
+
+    def _results(self, values):
+        usual = values.shared(self._ordinary())
+        if self._rest is not None and not usual.is_empty:
+            usual = Texts.of(self._rest)
+        return usual.united(Texts([new for old, new in self._exceptions.items() if old in values]))
+
+    def _origins(self, values):
+        usual = self._ordinary()
+        if self._rest is None:
+            usual = usual.shared(values)
+        elif self._rest not in values:
+            usual = Texts()
+        return usual.united(Texts([old for old, new in self._exceptions.items() if new in values]))
+
+    def _differing(self, other):
+        special = list(self._exceptions) + list(other._exceptions)
+        unlike = Texts([text for text in special if self._result(text) != other._result(text)])
+        return unlike.united(_usually_apart(special, self._rest, other._rest))
+
+    def _content(self):
+        return (self._exceptions, self._rest)
+
+
+def same_map(kind):
+    """Return the map that takes each value of a kind to itself."""
+    return NumberMap.same() if kind == "number" else TextMap.same()
+
+
+def constant_map_to(kind, value):
+    """Return the map that takes all values of a kind to one value."""
+    return NumberMap.constant_map(value) if kind == "number" else TextMap.constant_map(value)
+
+
+def is_map(value, kind):
+    """Tell whether a value is a map of a kind."""
+    return isinstance(value, Map) and value.kind == kind
+
+
+def check_map(value, kind):
+    """Raise Unlike for any value that is not a map of a kind."""
+    if not is_map(value, kind):
+        raise Unlike()
+
+
+def bad_entry(entries, kind):
+    """Return the position of the first entry that is no tuple (new name, map of the kind), None if all are."""
+    seen = set()
+    for position, entry in enumerate(entries):
+        if not isinstance(entry, tuple) or len(entry) != 2:
+            return position
+        if not is_name(entry[0]) or entry[0] in seen or not is_map(entry[1], kind):
+            return position
+        seen.add(entry[0])
+    return None
+
+
+def _is_piece(pieces, position):
+    """Tell whether an element is a piece that follows the one ahead of it, which is a piece."""
+    piece = pieces[position]
+    if not isinstance(piece, tuple) or len(piece) != 3:
+        return False
+    first, last, what = piece
+    if not is_stretch(first, last) or not (what is None or is_number(what)):
+        return False
+    if (last is None) != (position == len(pieces) - 1):
+        return False
+    if position == 0:
+        return first is None
+    return first is not None and first == pieces[position - 1][1] + 1
+
+
+def _normal_pieces(pieces):
+    """Return the normal pieces, found from below, of pieces that follow each other."""
+    found = []
+    start, at = None, 0
+    while True:
+        what = _normal_what(pieces, at, start)
+        last, at = _described(pieces, at, start, what)
+        found.append((start, last, what))
+        if last is None:
+            return tuple(found)
+        start = last + 1
+
+
+def _normal_what(pieces, at, start):
+    """Return the what of the normal piece that begins at start, within the piece at a position."""
+    last, what = pieces[at][1], pieces[at][2]
+    if start is None or (what is not None and what != start):
+        return what
+    # From here on start is taken to itself, so what comes behind it decides.
+    follower = what if last is None or last > start else pieces[at + 1][2]
+    return start if follower == start else None
+
+
+def _described(pieces, at, start, what):
+    """Return the last integer that what describes without a gap, and the position of the piece behind it."""
+    while True:
+        last, own_what = pieces[at][1], pieces[at][2]
+        if own_what != what:
+            # A fixed what and the integers themselves agree at one integer only.
+            if _taken(own_what, start) != _taken(what, start):
+                return start - 1, at
+            if last != start:
+                return start, at
+        if last is None:
+            return None, at
+        at += 1
+        start = last + 1
+
+
+def _taken(what, value):
+    """Return the integer to which a piece with this what takes an integer."""
+    return value if what is None else what
+
+
+def _pieces_around(first, last, below, above):
+    """Return pieces that take a stretch to itself, what is below it to below, what is above it to above."""
+    pieces = [(first, last, None)]
+    if first is not None:
+        pieces = [(None, first - 1, below)] + pieces
+    if last is not None:
+        pieces = pieces + [(last + 1, None, above)]
+    return pieces
+
+
+def _pieces_within(pieces, first, last):
+    """Return the parts of pieces that lie in a stretch."""
+    found = []
+    for low, high, what in pieces:
+        part = overlap((low, high), (first, last))
+        if part is not None:
+            found.append((part[0], part[1], what))
+    return found
+
+
+def _stretches_apart(first, last, one, other):
+    """Return the stretches of a stretch in which two whats take an integer to different ones."""
+    if one == other:
+        return []
+    if one is not None and other is not None:
+        return [(first, last)]
+    fixed = other if one is None else one
+    return Numbers([(first, last)]).without(Numbers.of(fixed)).stretches()
+
+
+def _usually_apart(special, one, other):
+    """Return the texts beside the special ones that two rests take to different texts."""
+    if one == other:
+        return Texts()
+    if one is not None and other is not None:
+        return Texts(special, others=True)
+    fixed = other if one is None else one
+    return Texts(special + [fixed], others=True)

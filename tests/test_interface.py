@@ -1,0 +1,108 @@
+"""Tests that each name of the interface is defined where it is listed, with the listed parameters."""
+
+import ast
+import unittest
+from pathlib import Path
+
+PACKAGE = Path(__file__).resolve().parent.parent / "keptedits"
+
+FUNCTIONS = {
+    "sets": {"is_value": "value, kind", "kind_of": "value", "natural": "value"},
+    "maps": {},
+    "programs": {},
+}
+
+CLASSES = {
+    "sets": {
+        "ValueSet": {"kind": "self", "is_empty": "self", "size": "self", "least": "self", "united": "self, other",
+                     "shared": "self, other", "without": "self, other", "__contains__": "self, value",
+                     "__eq__": "self, other"},
+        "Numbers": {"__init__": "self, stretches=()", "stretches": "self", "full": "cls", "of": "cls, *values",
+                    "__repr__": "self"},
+        "Texts": {"__init__": "self, words=(), *, others=False", "words": "self", "others": "self", "full": "cls",
+                  "of": "cls, *values", "__repr__": "self"},
+    },
+    "maps": {
+        "Map": {"kind": "self", "at": "self, value", "then": "self, other", "image": "self, values",
+                "before": "self, values", "constant": "self, among=None", "apart": "self, other, among=None",
+                "__eq__": "self, other"},
+        "NumberMap": {"__init__": "self, pieces", "pieces": "self", "same": "cls", "constant_map": "cls, value",
+                      "cut": "cls, first, last", "reset": "cls, first, last, value", "__repr__": "self"},
+        "TextMap": {"__init__": "self, exceptions=None, rest=None", "exceptions": "self", "rest": "self", "same": "cls",
+                    "constant_map": "cls, value", "__repr__": "self"},
+    },
+    "programs": {
+        "Own": {"__init__": "self, kind, sources=(), *, default=None, settable=None, removable=False", "kind": "self",
+                "sources": "self", "default": "self", "settable": "self", "removable": "self", "__eq__": "self, other"},
+        "Write": {"__init__": "self, own, mapping, *, leaves=False", "own": "self", "mapping": "self", "leaves": "self",
+                  "__eq__": "self, other"},
+        "Program": {"__init__": "self, name, own=None, writes=None, *, keeps=True", "name": "self", "keeps": "self",
+                    "own_fields": "self", "writes": "self", "own_field": "self, own", "known_fields": "self",
+                    "__eq__": "self, other", "__repr__": "self"},
+    },
+}
+
+BASES = {"Numbers": ["ValueSet"], "Texts": ["ValueSet"], "NumberMap": ["Map"], "TextMap": ["Map"]}
+
+PROPERTIES = {
+    "ValueSet": ["is_empty", "kind", "size"], "Numbers": [], "Texts": ["others"], "Map": ["kind"], "NumberMap": [],
+    "TextMap": ["rest"], "Own": ["default", "kind", "removable", "settable", "sources"],
+    "Write": ["leaves", "mapping", "own"], "Program": ["keeps", "name"],
+}
+
+CLASS_VALUES = {"Program": {"MAX_OWN": 4}}
+
+
+def body_of(name):
+    """Return the statements of a file of the package."""
+    return ast.parse((PACKAGE / f"{name}.py").read_text(encoding="utf-8")).body
+
+
+def parameters(function):
+    """Return the parameters of a function as they are written."""
+    return ast.unparse(function.args)
+
+
+def decorated(function):
+    """Return the names of the decorators over a method."""
+    return [ast.unparse(one) for one in function.decorator_list]
+
+
+class InterfaceTest(unittest.TestCase):
+    def test_functions(self):
+        for file, wanted in FUNCTIONS.items():
+            found = {one.name: parameters(one) for one in body_of(file) if isinstance(one, ast.FunctionDef)}
+            for name, told in wanted.items():
+                self.assertEqual(found.get(name), told, (file, name))
+
+    def test_methods_stand_in_the_class_itself(self):
+        for file, classes in CLASSES.items():
+            found = {one.name: one for one in body_of(file) if isinstance(one, ast.ClassDef)}
+            for name, wanted in classes.items():
+                methods = {one.name: one for one in found[name].body if isinstance(one, ast.FunctionDef)}
+                for method, told in wanted.items():
+                    self.assertIn(method, methods, name)
+                    self.assertEqual(parameters(methods[method]), told, (name, method))
+
+    def test_properties_class_methods_and_bases(self):
+        for file, classes in CLASSES.items():
+            found = {one.name: one for one in body_of(file) if isinstance(one, ast.ClassDef)}
+            for name, wanted in classes.items():
+                self.assertEqual([ast.unparse(base) for base in found[name].bases], BASES.get(name, []))
+                methods = [one for one in found[name].body if isinstance(one, ast.FunctionDef)]
+                told = sorted(one.name for one in methods if "property" in decorated(one))
+                self.assertEqual(told, PROPERTIES[name], name)
+                for one in methods:
+                    self.assertIs("classmethod" in decorated(one), one.args.args[0].arg == "cls", one.name)
+
+    def test_class_values(self):
+        for file, classes in CLASSES.items():
+            found = {one.name: one for one in body_of(file) if isinstance(one, ast.ClassDef)}
+            for name in classes:
+                values = {one.targets[0].id: one.value.value for one in found[name].body if isinstance(one, ast.Assign)}
+                for key, value in CLASS_VALUES.get(name, {}).items():
+                    self.assertEqual(values.get(key), value)
+
+
+if __name__ == "__main__":
+    unittest.main()
