@@ -266,7 +266,7 @@ def _is_piece(pieces, position):
         return False
     if position == 0:
         return first is None
-    return first is not None and first == pieces[position - 1][1] + 1
+    return first == pieces[position - 1][1] + 1
 
 
 def _normal_pieces(pieces):

@@ -2,9 +2,11 @@
 
 import unittest
 
+from keptedits.lists import SourceList
 from keptedits.maps import NumberMap, TextMap
 from keptedits.programs import Own, Program, Write
 from keptedits.sets import Numbers, Texts
+from keptedits.worlds import World
 
 WORDS = ["a", "b", "c", "ab", "ba"]
 LOW, HIGH = -6, 7
@@ -23,6 +25,19 @@ def odd_values():
     """Return values that are neither numbers nor texts, names, tuples, lists or dicts of such."""
     return [None, True, False, "", "A", "a b", "a1", "\n", "\u00e9", b"a", 1j, object(), EqualToAll(), {1}, [True],
             (True,), {True: True}, [[]], ([],), {"a": []}, range(2), len, int, Numbers(), TextMap()]
+
+
+class LikeName:
+    """A dict key that says to be equal to a name."""
+
+    def __init__(self, name):
+        self.name = name
+
+    def __hash__(self):
+        return hash(self.name)
+
+    def __eq__(self, other):
+        return other == self.name
 
 
 class KeptCase(unittest.TestCase):
@@ -123,3 +138,35 @@ def drawn_program(draw, name, fields):
         elif draw.random() < 0.2:
             writes[field] = None
     return Program(name, own, writes, keeps=draw.random() < 0.6)
+
+
+def drawn_world(draw):
+    """Return a drawn world of few fields, mostly of one kind, and of few programs."""
+    main = draw.choice(["number", "text"])
+    other = "text" if main == "number" else "number"
+    fields = {field: draw.choice([main, main, main, other]) for field in ["u", "v", "w", "x"][:draw.randint(1, 4)]}
+    names = ["p", "q", "r"][:draw.randint(1, 3)]
+    return World(fields, [drawn_program(draw, name, fields) for name in names])
+
+
+def drawn_document(draw, world):
+    """Return a drawn document of a world."""
+    return {field: drawn_value(draw, kind) for field, kind in world.fields().items() if draw.random() < 0.5}
+
+
+def drawn_edit(draw, world, name):
+    """Return a drawn edit of a program of a world."""
+    edit = {}
+    for own, told in world.program(name).own_fields().items():
+        given = [value for value in some_values(told.kind) if value in told.settable]
+        given = draw.sample(given, min(2, len(given))) + ([None] if told.removable else [])
+        if given and draw.random() < 0.6:
+            edit[own] = draw.choice(given)
+    return edit
+
+
+def drawn_list(draw, kind, fields):
+    """Return a drawn source list of a kind over some of these fields."""
+    entries = [(field, drawn_map(draw, kind)) for field in draw.sample(fields, draw.randint(0, len(fields)))]
+    end = draw.choice([None, drawn_value(draw, kind), some_values(kind)[draw.randint(0, 2)]])
+    return SourceList(kind, entries, end)

@@ -10,6 +10,14 @@ FUNCTIONS = {
     "sets": {"is_value": "value, kind", "kind_of": "value", "natural": "value"},
     "maps": {},
     "programs": {},
+    "worlds": {},
+    "passes": {"is_document": "world, value", "is_edit": "world, name, value", "read": "world, name, document",
+               "passed": "world, name, document", "effect": "world, name, document, edit",
+               "edited": "world, name, document, edit", "made_new": "world, name, edit=None",
+               "run": "world, steps, document", "run_all": "world, steps, document"},
+    "lists": {"parting": "one, other"},
+    "putting": {"own_list": "world, name, own", "field_list": "world, field", "pass_lists": "world, name",
+                "put_back": "world, name, first", "over_row": "world, row, first"},
 }
 
 CLASSES = {
@@ -40,6 +48,18 @@ CLASSES = {
                     "own_fields": "self", "writes": "self", "own_field": "self, own", "known_fields": "self",
                     "__eq__": "self, other", "__repr__": "self"},
     },
+    "worlds": {
+        "World": {"__init__": "self, fields, programs=()", "fields": "self", "programs": "self", "names": "self",
+                  "program": "self, name", "kind_of_field": "self, field", "only": "self, *names",
+                  "with_program": "self, program", "__contains__": "self, name", "__len__": "self",
+                  "__eq__": "self, other"},
+    },
+    "lists": {
+        "SourceList": {"__init__": "self, kind, entries=(), end=None", "kind": "self", "entries": "self", "end": "self",
+                       "fields": "self", "decider": "self, presence", "at": "self, document",
+                       "is_always": "self, value", "__len__": "self", "__contains__": "self, field",
+                       "__eq__": "self, other", "__repr__": "self"},
+    },
 }
 
 BASES = {"Numbers": ["ValueSet"], "Texts": ["ValueSet"], "NumberMap": ["Map"], "TextMap": ["Map"]}
@@ -47,10 +67,11 @@ BASES = {"Numbers": ["ValueSet"], "Texts": ["ValueSet"], "NumberMap": ["Map"], "
 PROPERTIES = {
     "ValueSet": ["is_empty", "kind", "size"], "Numbers": [], "Texts": ["others"], "Map": ["kind"], "NumberMap": [],
     "TextMap": ["rest"], "Own": ["default", "kind", "removable", "settable", "sources"],
-    "Write": ["leaves", "mapping", "own"], "Program": ["keeps", "name"],
+    "Write": ["leaves", "mapping", "own"], "Program": ["keeps", "name"], "World": [],
+    "SourceList": ["end", "entries", "kind"],
 }
 
-CLASS_VALUES = {"Program": {"MAX_OWN": 4}}
+CLASS_VALUES = {"Program": {"MAX_OWN": 4}, "World": {"MAX_FIELDS": 8, "MAX_PROGRAMS": 8}}
 
 
 def body_of(name):
