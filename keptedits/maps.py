@@ -2,7 +2,6 @@
 
 from keptedits.errors import InvalidMap, InvalidValue, Unlike
 from keptedits.sets import Numbers, Texts, check_set, full_set, is_name, is_number, is_stretch, is_value
-from keptedits.sets import is_within, overlap
 
 
 class Map:
@@ -38,21 +37,20 @@ class Map:
 
     def constant(self, among=None):
         """Return the one value to which all values of a set are taken, None if there is none."""
-        results = self.image(self._chosen(among))
+        if among is None:
+            return self._fixed()
+        results = self.image(among)
         return results.least() if results.size == 1 else None
 
     def apart(self, other, among=None):
         """Return the least value of a set at which the maps differ, None if there is none."""
         check_map(other, self.KIND)
-        return self._chosen(among).shared(self._differing(other)).least()
+        values = full_set(self.KIND) if among is None else among
+        check_set(values, self.KIND)
+        return values.shared(self._differing(other)).least()
 
     def __eq__(self, other):
         return isinstance(other, Map) and self.KIND == other.KIND and self._content() == other._content()
-
-    def _chosen(self, among):
-        values = full_set(self.KIND) if among is None else among
-        check_set(values, self.KIND)
-        return values
 
 
 class NumberMap(Map):
@@ -104,9 +102,10 @@ class NumberMap(Map):
         return f"NumberMap({list(self._pieces)!r})"
 
     def _result(self, value):
-        for first, last, what in self._pieces:
-            if is_within(value, first, last):
-                return _taken(what, value)
+        return _taken(self._pieces[_place_of(self._pieces, value)][2], value)
+
+    def _fixed(self):
+        return self._pieces[0][2] if len(self._pieces) == 1 else None
 
     def _followed(self, other):
         found = []
@@ -125,13 +124,9 @@ class NumberMap(Map):
         return Numbers(found)
 
     def _origins(self, values):
-        found = []
-        for first, last, what in self._pieces:
-            if what is None:
-                found.extend(Numbers([(first, last)]).shared(values).stretches())
-            elif what in values:
-                found.append((first, last))
-        return Numbers(found)
+        untouched = Numbers([(first, last) for first, last, what in self._pieces if what is None])
+        fixed = Numbers([(first, last) for first, last, what in self._pieces if what in values])
+        return fixed.united(untouched.shared(values))
 
     def _differing(self, other):
         found = []
@@ -194,6 +189,9 @@ class TextMap(Map):
         for old, new in self._exceptions.items():
             found[old] = other._result(new)
         return TextMap(found, other._rest if self._rest is None else other._result(self._rest))
+
+    def _fixed(self):
+        return self._rest if len(self._exceptions) == 0 else None
 
     def _ordinary(self):
         return Texts(list(self._exceptions), others=True)
@@ -323,13 +321,30 @@ def _pieces_around(first, last, below, above):
     return pieces
 
 
+def _place_of(pieces, value):
+    """Return the position of the piece that an integer lies in; None lies in the first one."""
+    if value is None:
+        return 0
+    low, high = 0, len(pieces) - 1
+    while low < high:
+        middle = (low + high) // 2
+        if pieces[middle][1] < value:
+            low = middle + 1
+        else:
+            high = middle
+    return low
+
+
 def _pieces_within(pieces, first, last):
     """Return the parts of pieces that lie in a stretch."""
     found = []
-    for low, high, what in pieces:
-        part = overlap((low, high), (first, last))
-        if part is not None:
-            found.append((part[0], part[1], what))
+    start = first
+    for _, high, what in pieces[_place_of(pieces, first):]:
+        if high is None or (last is not None and last <= high):
+            found.append((start, last, what))
+            break
+        found.append((start, high, what))
+        start = high + 1
     return found
 
 

@@ -252,15 +252,6 @@ def is_within(value, first, last):
     return (first is None or first <= value) and (last is None or value <= last)
 
 
-def overlap(one, other):
-    """Return the stretch that two stretches share, None if they share nothing."""
-    firsts = [first for first, _ in (one, other) if first is not None]
-    lasts = [last for _, last in (one, other) if last is not None]
-    first = max(firsts, default=None)
-    last = min(lasts, default=None)
-    return (first, last) if is_stretch(first, last) else None
-
-
 def _is_stretch_tuple(value):
     return isinstance(value, tuple) and len(value) == 2 and is_stretch(value[0], value[1])
 

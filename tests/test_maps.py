@@ -22,6 +22,15 @@ def plain_result(pieces, value):
     raise AssertionError("a gap")
 
 
+def many_pieces(draw):
+    """Return many drawn pieces."""
+    pieces, first = [], None
+    for last in sorted(draw.sample(range(-100, 100), 60)) + [None]:
+        pieces.append((first, last, draw.choice([None, draw.randint(-100, 100)])))
+        first = None if last is None else last + 1
+    return pieces
+
+
 class DocumentTest(unittest.TestCase):
     def test_the_example(self):
         low = NumberMap.cut(0, 9)
@@ -262,6 +271,16 @@ class BothTest(KeptCase):
         self.assertEqual(one.apart(other, among), least)
         self.assertEqual(one.apart(other), next((v for v in values if one.at(v) != other.at(v)), None))
         self.assertEqual(one.constant(among), reached.pop() if len(reached) == 1 and image.size == 1 else None)
+
+    def test_maps_of_many_pieces(self):
+        draw = random.Random(15)
+        for _ in range(10):
+            one, other = many_pieces(draw), many_pieces(draw)
+            self.assertGreater(len(NumberMap(one).pieces()), 20)
+            behind = NumberMap(one).then(NumberMap(other))
+            for value in range(-110, 111):
+                self.assertEqual(NumberMap(one).at(value), plain_result(one, value))
+                self.assertEqual(behind.at(value), plain_result(other, plain_result(one, value)))
 
     def test_then_keeps_huge_bounds(self):
         draw = random.Random(5)
