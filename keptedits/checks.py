@@ -1,6 +1,6 @@
-"""Checks of documents, edits and rows against a world."""
+"""Checks of documents, edits, rows and presences against a world."""
 
-from keptedits.errors import InvalidDocument, InvalidEdit, InvalidRow
+from keptedits.errors import InvalidDocument, InvalidEdit, InvalidPresence, InvalidRow
 from keptedits.sets import is_name, is_value
 
 
@@ -31,6 +31,22 @@ def check_row(world, row):
     for position, name in enumerate(row):
         if name not in world:
             raise InvalidRow(position)
+
+
+def is_presence(world, value):
+    """Tell whether a value is a sorted tuple of different fields of the world."""
+    if not isinstance(value, tuple):
+        return False
+    kinds = world.fields()
+    if not all([is_name(field) and field in kinds for field in value]):
+        return False
+    return all([value[place - 1] < value[place] for place in range(1, len(value))])
+
+
+def check_presence(world, value):
+    """Raise InvalidPresence for any value that is no sorted tuple of different fields of the world."""
+    if not is_presence(world, value):
+        raise InvalidPresence(value)
 
 
 def _has_keys_among(value, known):

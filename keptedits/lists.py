@@ -1,7 +1,7 @@
 """Source lists: from which fields, by which maps, a value comes."""
 
 from keptedits.errors import InvalidList, Unlike
-from keptedits.maps import bad_entry, constant_map_to
+from keptedits.maps import bad_entry, constant_map_to, values_apart
 from keptedits.sets import full_set, is_kind, is_name, is_value
 
 
@@ -17,7 +17,7 @@ class SourceList:
         if position is not None:
             raise InvalidList(position)
         self._kind = kind
-        self._entries = tuple(sorted_runs(entries_that_count(entries, end)))
+        self._entries = tuple(normal_entries(entries, [mapping.constant() for _, mapping in entries], end))
         self._end = end
 
     @property
@@ -78,25 +78,21 @@ class SourceList:
         return (self._kind, self._entries, self._end)
 
 
-def entries_that_count(entries, end):
-    """Return the entries without those at the back that say what the end says."""
+def normal_entries(entries, constants, end):
+    """Return the normal ones of some entries, which begin with a field, with the constants of their maps."""
     count = len(entries)
-    while end is not None and count > 0 and entries[count - 1][1].constant() == end:
+    while end is not None and count > 0 and constants[count - 1] == end:
         count -= 1
-    return list(entries[:count])
-
-
-def sorted_runs(entries):
-    """Return the entries with neighbours that take all values to the same one sorted by field."""
-    found, run, shared = [], [], None
-    for field, mapping in entries:
-        fixed = mapping.constant()
-        if fixed is None or fixed != shared:
-            found.extend(sorted(run, key=_field_of))
-            run = []
-        run.append((field, mapping))
-        shared = fixed
-    return found + sorted(run, key=_field_of)
+    found = list(entries[:count])
+    start = 0
+    while start < count:
+        behind = start + 1
+        while behind < count and constants[start] is not None and constants[behind] == constants[start]:
+            behind += 1
+        if behind - start > 1:
+            found[start:behind] = sorted(found[start:behind], key=_field_of)
+        start = behind
+    return found
 
 
 def parting(one, other):
@@ -146,11 +142,6 @@ def _pair_apart(one, other, first, second):
     if here not in presence or there not in presence or here == there:
         return None
     maps = {here: _map_at(one, here), there: _map_at(other, there)}
-    fixed = maps[second].constant()
-    value = full_set(one.kind).least()
-    if fixed is not None:
-        value = maps[first].apart(constant_map_to(one.kind, fixed))
-    if value is None:
-        return None
-    result = constant_map_to(one.kind, maps[first].at(value))
-    return {first: value, second: maps[second].apart(result)}
+    everything = full_set(one.kind)
+    values = values_apart(maps[first], everything, maps[second], everything)
+    return None if values is None else {first: values[0], second: values[1]}

@@ -240,6 +240,17 @@ def check_map(value, kind):
         raise Unlike()
 
 
+def values_apart(one, values, other, partners):
+    """Return the least values of two sets, the first one first, that two maps take apart, None if there are none."""
+    if values.is_empty or partners.is_empty:
+        return None
+    fixed = other.constant(partners)
+    value = values.least() if fixed is None else one.apart(constant_map_to(one.kind, fixed), values)
+    if value is None:
+        return None
+    return (value, other.apart(constant_map_to(one.kind, one.at(value)), partners))
+
+
 def bad_entry(entries, kind):
     """Return the position of the first entry that is no tuple (new name, map of the kind), None if all are."""
     seen = set()

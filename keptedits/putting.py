@@ -4,6 +4,7 @@ from keptedits.checks import check_row
 from keptedits.errors import InvalidList
 from keptedits.lists import SourceList
 from keptedits.maps import same_map
+from keptedits.tables import ListTable
 
 
 def own_list(world, name, own):
@@ -20,26 +21,24 @@ def field_list(world, field):
 
 def pass_lists(world, name):
     """Return the dict from the fields to the lists of their values behind a pass, sorted."""
-    program = world.program(name)
-    return {field: _list_behind(world, program, field) for field in world.fields()}
+    world.program(name)
+    fields = world.fields()
+    tables = {kind: ListTable(world, kind) for kind in ("number", "text")}
+    return {field: tables[kind].list_of(tables[kind].behind(name, field)) for field, kind in fields.items()}
 
 
 def put_back(world, name, first):
     """Return a list put back before a pass of the program."""
-    lists = pass_lists(world, name)
+    world.program(name)
     check_list(world, first)
-    return put_through(lists, first)
+    return _over([name], world, first)
 
 
 def over_row(world, row, first):
     """Return a list put back over a row, before its last pass first."""
     check_row(world, row)
     check_list(world, first)
-    lists = {name: pass_lists(world, name) for name in sorted(set(row))}
-    found = first
-    for name in reversed(row):
-        found = put_through(lists[name], found)
-    return found
+    return _over(row, world, first)
 
 
 def check_list(world, first):
@@ -52,36 +51,6 @@ def check_list(world, first):
             raise InvalidList(position)
 
 
-def put_through(lists, first):
-    """Return a list put back before a pass with these lists of its fields."""
-    found = []
-    seen = set()
-    for field, mapping in first.entries:
-        for source, behind in lists[field].entries:
-            if source not in seen:
-                seen.add(source)
-                found.append((source, behind.then(mapping)))
-        if lists[field].end is not None:
-            # Behind the pass this field is always present, so no later entry decides.
-            return SourceList(first.kind, found, mapping.at(lists[field].end))
-    return SourceList(first.kind, found, first.end)
-
-
-def _list_behind(world, program, field):
-    """Return the list of the value of a field behind a pass."""
-    writes = program.writes()
-    if field not in writes and program.keeps:
-        return field_list(world, field)
-    write = writes.get(field)
-    if write is None:
-        return SourceList(world.kind_of_field(field))
-    return _list_written(program.own_field(write.own), write, field)
-
-
-def _list_written(own, write, field):
-    """Return the list of what a program writes into a field."""
-    entries = [(source, mapping.then(write.mapping)) for source, mapping in own.sources]
-    end = None if own.default is None else write.mapping.at(own.default)
-    if write.leaves and end is None and field not in [source for source, _ in entries]:
-        entries.append((field, same_map(own.kind)))
-    return SourceList(own.kind, entries, end)
+def _over(row, world, first):
+    table = ListTable(world, first.kind)
+    return table.list_of(table.over(row, table.short(first)))

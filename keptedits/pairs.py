@@ -1,0 +1,171 @@
+"""Pairs of values that two fields have in one document: for each presence that comes about, which ones come about."""
+
+from keptedits.atoms import image
+from keptedits.moves import can_go_together
+from keptedits.spread import Fact
+
+
+class Relation:
+    """Pairs of atoms: all pairs of each block (bits, bits of partners), and equal values of the atoms of equal."""
+
+    def __init__(self):
+        self.blocks = []
+        self.equal = 0
+
+    def pieces(self):
+        """Return the tuples (bits, partners), with None as partners for equal values."""
+        return self.blocks + ([(self.equal, None)] if self.equal else [])
+
+    def widen(self, bits, partners):
+        """Add all pairs of two sets of atoms, or (partners is None) of equal values; return the bits with new pairs."""
+        rest = bits & ~self.equal if partners is None else bits
+        for row, known in self.blocks:
+            if partners is None:
+                rest &= ~(row & known)
+            elif partners & ~known == 0:
+                rest &= ~row
+        if partners is None:
+            self.equal |= rest
+        elif rest and partners:
+            self.blocks = _with_block(self.blocks, rest, partners)
+        return rest if partners != 0 else 0
+
+
+class Pairs:
+    """For each presence that comes about, and two fields of one kind, the pairs of their values."""
+
+    def __init__(self, spread):
+        self._spread = spread
+        self._relations = {}
+        self._reasons = {}
+        self._links = {}
+        self._pending = {}
+        if not spread.can_be_any():
+            self._seed_documents()
+            for how, name, presence in spread.starts():
+                self._seed_move(how, name, presence)
+            # Pairs are sent on in rounds, since many small ones take far longer than few large ones.
+            while self._pending:
+                pending = self._pending
+                self._pending = {}
+                for asked, found in pending.items():
+                    self._send_on(asked, found)
+
+    def relation(self, presence, one, other):
+        """Return the pairs of two different fields, the first one in sorted order first."""
+        if self._spread.can_be_any():
+            found = Relation()
+            everything = self._spread.values_bits(presence, one)
+            if everything and self._spread.values_bits(presence, other):
+                found.widen(everything, everything)
+            return found
+        return self._relations.get((presence, one, other), Relation())
+
+    def reasons(self, presence, one, other):
+        """Return the facts that tell these pairs, as they were found."""
+        if self._spread.can_be_any():
+            everything = self._spread.values_bits(presence, one)
+            return [Fact(everything, everything, ("any",))]
+        return list(self._reasons[(presence, one, other)])
+
+    def _seed_documents(self):
+        for position, presence, document in self._spread.documents_with_presences():
+            for one, other in self._spread.pairs_of_fields(presence):
+                atoms = self._spread.atoms_for(one)
+                found = (atoms.bit_of(document[one]), atoms.bit_of(document[other]))
+                self._tell((presence, one, other), found, ("document", position))
+
+    def _seed_move(self, how, name, presence):
+        """Find the pairs that the values of single fields and the edits make, and link those that pairs make."""
+        move = self._spread.move(presence, name)
+        for at, (one, ends) in enumerate(move.routes):
+            for other, more in move.routes[at + 1:]:
+                if ends & more and self._are_paired(one, other):
+                    self._seed_routes((how, presence, name), ends & more, one, other)
+
+    def _are_paired(self, one, other):
+        if one.target == other.target or not can_go_together(one, other):
+            return False
+        return self._spread.are_of_one_kind(one.target, other.target)
+
+    def _seed_routes(self, start, ends, one, other):
+        if one.source is not None and other.source is not None and one.source != other.source:
+            if one.source > other.source:
+                one, other = other, one
+            self._links.setdefault((start[1], one.source, other.source), []).append((start, ends, one, other))
+            return
+        given = Relation()
+        joined = one.source == other.source and (one.source is not None or one.by_own == other.by_own)
+        given.widen(self._bits_for(start[1], one), None if joined else self._bits_for(start[1], other))
+        self._send(start, ends, (one, other), given)
+
+    def _bits_for(self, presence, route):
+        return route.raw if route.source is None else self._spread.values_bits(presence, route.source)
+
+    def _send_on(self, asked, found):
+        """Send new pairs through the steps of all programs."""
+        given = Relation()
+        for bits, partners in found:
+            given.widen(bits, partners)
+        for start, ends, one, other in self._links.get(asked, []):
+            self._send(start, ends, (one, other), given)
+
+    def _send(self, start, ends, routes, given):
+        """Send pairs along two routes to all of their ends."""
+        results = _taken(routes, given).pieces()
+        fields = tuple(sorted([routes[0].target, routes[1].target]))
+        for end, told in enumerate(self._spread.move(start[1], start[2]).ends):
+            if ends >> end & 1:
+                for piece in results:
+                    self._tell((told[0],) + fields, piece, start + (end,), routes, given)
+
+    def _tell(self, asked, found, cause, routes=(), given=None):
+        """Keep pairs (bits, partners, None for equal values) as far as they are new, with the reason."""
+        if asked not in self._relations:
+            self._relations[asked] = Relation()
+            self._reasons[asked] = []
+        rest = self._relations[asked].widen(found[0], found[1])
+        if rest:
+            self._reasons[asked].append(Fact(rest, found[1], cause, routes, given))
+            self._pending.setdefault(asked, []).append((rest, found[1]))
+
+
+def _with_block(blocks, rest, other):
+    """Return blocks of different partners, to which all pairs of rest and other are added."""
+    found = {}
+    left = rest
+    for bits, partners in blocks:
+        if bits & rest:
+            wider = partners | other
+            found[wider] = found.get(wider, 0) | (bits & rest)
+        if bits & ~rest:
+            found[partners] = found.get(partners, 0) | (bits & ~rest)
+        left &= ~bits
+    if left:
+        found[other] = found.get(other, 0) | left
+    return [(bits, partners) for partners, bits in found.items()]
+
+
+def _taken(routes, given):
+    """Return the pairs of the results of pairs that two routes take, the field first in sorted order first."""
+    found = Relation()
+    one, other = routes[0].taking, routes[1].taking
+    turned = routes[0].target > routes[1].target
+    for bits, partners in given.blocks:
+        _widen_turned(found, image(one, bits), image(other, partners), turned)
+    bits = given.equal
+    found.widen(bits & one[0] & other[0], None)
+    for taken, result in one[1]:
+        if bits & taken:
+            _widen_turned(found, result, image(other, bits & taken), turned)
+    for taken, result in other[1]:
+        if bits & taken & one[0]:
+            _widen_turned(found, bits & taken & one[0], result, turned)
+    return found
+
+
+def _widen_turned(relation, bits, partners, turned):
+    if turned:
+        relation.widen(partners, bits)
+    else:
+        relation.widen(bits, partners)
