@@ -6,7 +6,7 @@ from keptedits.here import Here
 from keptedits.maps import values_apart
 from keptedits.putting import own_list
 from keptedits.readings import reading_of_list, way_apart
-from keptedits.sets import full_set
+from keptedits.sets import full_set, natural
 
 KINDS = ("lost", "made", "changed", "taken", "filled", "reset", "moved")
 
@@ -71,6 +71,17 @@ def first_harm_here(reached, graph):
         if found:
             return (row, here.presence_at(min([place for place, _, _ in found.values()])))
     return None
+
+
+def least_change(elder, later):
+    """Return the least document at which an elder list has a value and a later one not this value, or None."""
+    found = _least_documents(elder, later, [kind for kind in KINDS if kind != "made"])
+    return min(list(found.values()), key=_place_of, default=None)
+
+
+def _place_of(document):
+    fields = sorted(document)
+    return (len(fields), fields, [natural(document[field]) for field in fields])
 
 
 def _check_alike(direct, behind):

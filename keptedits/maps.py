@@ -111,7 +111,7 @@ class NumberMap(Map):
         found = []
         for first, last, what in self._pieces:
             if what is None:
-                found.extend(_pieces_within(other._pieces, first, last))
+                found.extend(pieces_within(other._pieces, first, last))
             else:
                 found.append((first, last, other._result(what)))
         return NumberMap(found)
@@ -119,7 +119,7 @@ class NumberMap(Map):
     def _results(self, values):
         found = []
         for stretch in values.stretches():
-            for first, last, what in _pieces_within(self._pieces, stretch[0], stretch[1]):
+            for first, last, what in pieces_within(self._pieces, stretch[0], stretch[1]):
                 found.append((first, last) if what is None else (what, what))
         return Numbers(found)
 
@@ -131,7 +131,7 @@ class NumberMap(Map):
     def _differing(self, other):
         found = []
         for first, last, what in self._pieces:
-            for low, high, other_what in _pieces_within(other._pieces, first, last):
+            for low, high, other_what in pieces_within(other._pieces, first, last):
                 found.extend(_stretches_apart(low, high, what, other_what))
         return Numbers(found)
 
@@ -346,7 +346,7 @@ def _place_of(pieces, value):
     return low
 
 
-def _pieces_within(pieces, first, last):
+def pieces_within(pieces, first, last):
     """Return the parts of pieces that lie in a stretch."""
     found = []
     start = first

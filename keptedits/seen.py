@@ -1,0 +1,165 @@
+"""Edits that are seen, and removals that are kept, by a reader behind every row of programs."""
+
+from keptedits.errors import NotRemovable, NotSettable
+from keptedits.graphs import ListGraph
+from keptedits.here import Here, first_place
+from keptedits.maps import constant_map_to
+from keptedits.marks import EditedPass
+from keptedits.putting import own_list
+from keptedits.sets import full_set
+
+
+def problem(world, writer, edited, name, own):
+    """Return the tuple (kind, row, document, value) of the problem of an edit, None if the reader sees it."""
+    graph = _graph_for_edit(world, writer, edited, name, own)
+    return problem_in(world, graph, writer, edited)
+
+
+def problem_here(reached, writer, edited, name, own):
+    """Return the tuple (kind, row, presence) of the problem of an edit where something comes about, or None."""
+    graph = _graph_for_edit(reached.world, writer, edited, name, own)
+    return problem_here_in(reached, graph, writer, edited)
+
+
+def echo(world, writer, edited, name, own):
+    """Return the tuple (row, document) of the echo of a removal, None if it is kept for the reader."""
+    graph = _graph_for_removal(world, writer, edited, name, own)
+    return echo_in(world, graph, writer, edited)
+
+
+def echo_here(reached, writer, edited, name, own):
+    """Return the tuple (row, presence) of the echo of a removal where something comes about, or None."""
+    graph = _graph_for_removal(reached.world, writer, edited, name, own)
+    return echo_here_in(reached, graph, writer, edited)
+
+
+def problem_in(world, graph, writer, edited):
+    """Return the problem of an edit for the reader of a list graph under all programs."""
+    step = EditedPass(world, writer, edited)
+    first = step.marked(graph.first)
+    kind = _first_kind(step, first)
+    if kind is not None:
+        return (kind, [], {}, first.settable.least())
+    for row, told in graph.walk():
+        found = step.marked(told)
+        kind = _kind_of(found, first)
+        if kind is not None:
+            document = _least_masked(found) if kind == "masked" else {}
+            return (kind, row, document, _least_missed(found, first, document))
+    return None
+
+
+def problem_here_in(reached, graph, writer, edited):
+    """Return the problem of an edit, where something comes about, for the reader of a list graph."""
+    if len(reached) == 0:
+        return None
+    here = Here(reached)
+    step = EditedPass(reached.world, writer, edited)
+    first = step.marked(graph.first)
+    kind = _first_kind(step, first)
+    if kind is not None:
+        return (kind, [], here.presence_at(0))
+    for row, told in graph.walk():
+        kind, place = _kind_here(here, step.marked(told), first)
+        if kind is not None:
+            return (kind, row, here.presence_at(place))
+    return None
+
+
+def echo_in(world, graph, writer, edited):
+    """Return the echo of a removal for the reader of a list graph under all programs."""
+    own_field = world.program(writer).own_field(edited)
+    if own_field.default is None and len(own_field.sources) == 0:
+        return None
+    step = EditedPass(world, writer, edited)
+    for row, told in graph.walk():
+        fields = step.without(told).fields()
+        if fields:
+            presence = _least_echoed(own_field, sorted(fields))
+            return (row, {field: full_set(world.kind_of_field(field)).least() for field in presence})
+    return None
+
+
+def echo_here_in(reached, graph, writer, edited):
+    """Return the echo of a removal, where something comes about, for the reader of a list graph."""
+    own_field = reached.world.program(writer).own_field(edited)
+    here = Here(reached)
+    having = here.everywhere()
+    if own_field.default is None:
+        having = here.places_with([field for field, _ in own_field.sources])
+    step = EditedPass(reached.world, writer, edited)
+    for row, told in graph.walk():
+        places = having & here.places_with(step.without(told).fields())
+        if places:
+            return (row, here.presence_at(first_place(places)))
+    return None
+
+
+def _graph_for_edit(world, writer, edited, name, own):
+    own_field = world.program(writer).own_field(edited)
+    first = own_list(world, name, own)
+    if own_field.settable.is_empty:
+        raise NotSettable(edited)
+    return ListGraph(world, first)
+
+
+def _graph_for_removal(world, writer, edited, name, own):
+    own_field = world.program(writer).own_field(edited)
+    first = own_list(world, name, own)
+    if not own_field.removable:
+        raise NotRemovable(edited)
+    return ListGraph(world, first)
+
+
+def _first_kind(step, first):
+    """Return the kind of problem that the edit has without any row, None if it has none."""
+    if step.writes_nothing():
+        return "unwritten"
+    return "unread" if first.mark is None else None
+
+
+def _kind_of(found, first):
+    """Return the kind of problem of a marked list beside that of the empty row, None if it has none."""
+    if found.mark is None:
+        return "lost"
+    if len(found.entries) > 0:
+        return "masked"
+    return None if found.alike(first) else "changed"
+
+
+def _kind_here(here, found, first):
+    """Return the kind of problem of a marked list and the first place that has it, (None, None) if it has none."""
+    if found.mark is None:
+        return "lost", 0
+    masked = here.places_with([field for field, _ in found.entries])
+    if not found.has_mark_of(first):
+        # Every presence has a problem, the first one, too.
+        return ("masked", 0) if masked & 1 else ("changed", 0)
+    return ("masked", first_place(masked)) if masked else (None, None)
+
+
+def _least_masked(found):
+    """Return the document with only the first field of an entry, with its least value."""
+    return {min([field for field, _ in found.entries]): full_set(found.kind).least()}
+
+
+def _least_missed(found, first, document):
+    """Return the least settable value at which a list has another value at a document than the first mark tells."""
+    values = first.settable
+    if found.mark is not None and len(document) == 0:
+        return found.mark.apart(first.mark, values)
+    worth = found.shows(document, values.least())
+    if worth is None:
+        return values.least()
+    return first.mark.apart(constant_map_to(first.kind, worth), values)
+
+
+def _least_echoed(own_field, fields):
+    """Return the least presence that has one of some sorted fields, and with which an own field has a value."""
+    if own_field.default is not None:
+        return (fields[0],)
+    sources = [field for field, _ in own_field.sources]
+    both = [field for field in fields if field in sources]
+    if both:
+        return (both[0],)
+    return min([tuple(sorted([field, source])) for field in fields for source in sources])

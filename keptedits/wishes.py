@@ -1,0 +1,163 @@
+"""Wishes: what shall hold in a world, and what shows that it does not hold."""
+
+from keptedits.errors import InvalidChoice, InvalidWish, Unlike
+from keptedits.graphs import ListGraph
+from keptedits.harms import first_harm_here, least_change
+from keptedits.lists import parting
+from keptedits.putting import own_list
+from keptedits.reached import Beginnings, Reached
+from keptedits.seen import echo_here_in, echo_in, problem_here_in, problem_in
+from keptedits.sets import is_name, is_number, is_set
+from keptedits.sure import shown, way_showing, way_unlike, way_without
+from keptedits.worlds import World
+
+
+class Wishes:
+    """Wishes of a world, with the beginnings from which documents come about; they never change."""
+
+    MAX_WISHES = 12
+
+    def __init__(self, world, wishes, beginnings):
+        if not isinstance(wishes, (list, tuple)) or len(wishes) > self.MAX_WISHES:
+            raise InvalidWish(-1)
+        for position, wish in enumerate(wishes):
+            if not is_wish(world, wish):
+                raise InvalidWish(position)
+        self._own_answers = Answers(world, Reached(world, beginnings))
+        self._world = world
+        self._beginnings = beginnings
+        self._wishes = list(wishes)
+
+    @property
+    def world(self):
+        """The world that has the wishes."""
+        return self._world
+
+    @property
+    def beginnings(self):
+        """The beginnings."""
+        return self._beginnings
+
+    def all_wishes(self):
+        """Return the wishes."""
+        return list(self._wishes)
+
+    def fault(self, position, world=None):
+        """Return the fault of a wish in this or another world, None if it holds there."""
+        if not is_number(position) or not 0 <= position < len(self._wishes):
+            raise InvalidChoice(position)
+        return self._answers_in(world).fault(self._wishes[position])
+
+    def first_fault(self, world=None):
+        """Return the tuple (position, fault) of the first wish that does not hold, None if all hold."""
+        answers = self._answers_in(world)
+        for position, wish in enumerate(self._wishes):
+            found = answers.fault(wish)
+            if found is not None:
+                return (position, found)
+        return None
+
+    def __len__(self):
+        return len(self._wishes)
+
+    def _answers_in(self, world):
+        if world is None:
+            return self._own_answers
+        if not isinstance(world, World) or world.fields() != self._world.fields():
+            raise Unlike()
+        new = [name for name in self._beginnings.new if name in world]
+        documents = self._beginnings.documents()
+        beginnings = Beginnings(new=new, documents=documents, anything=self._beginnings.anything)
+        return Answers(self._world, Reached(world, beginnings))
+
+
+class Answers:
+    """The faults of wishes in a world, beside an elder one."""
+
+    def __init__(self, elder, reached):
+        self._elder = elder
+        self._reached = reached
+        self._world = reached.world
+        self._graphs = {}
+
+    def fault(self, wish):
+        """Return the fault of a wish of the elder world, None if it holds."""
+        if not is_wish(self._world, wish):
+            return ()
+        kind, parts = wish[0], wish[1:]
+        if kind in ("safe", "safe here"):
+            return self._harm(kind, parts)
+        if kind in ("seen", "seen here", "kept", "kept here"):
+            return self._loss(kind, parts)
+        if kind == "sure":
+            return way_without(self._reached, parts[0], parts[1])
+        if kind == "within":
+            return self._outside(parts)
+        if kind == "alike":
+            return way_unlike(self._reached, parts[0], parts[1], parts[2], parts[3])
+        return self._change(parts)
+
+    def _graph(self, name, own):
+        # Several wishes often speak of one reader.
+        asked = (name, own)
+        if asked not in self._graphs:
+            self._graphs[asked] = ListGraph(self._world, own_list(self._world, name, own))
+        return self._graphs[asked]
+
+    def _harm(self, kind, parts):
+        graph = self._graph(parts[0], parts[1])
+        if kind == "safe here":
+            return first_harm_here(self._reached, graph)
+        if len(graph) == 1:
+            return None
+        return (graph.rows()[1], parting(graph.first, graph.lists()[1]))
+
+    def _loss(self, kind, parts):
+        """Return the row, and the document or presence, of a problem or echo, None if there is none."""
+        writer, edited, name, own = parts
+        graph = self._graph(name, own)
+        if kind == "seen":
+            found = problem_in(self._world, graph, writer, edited)
+            return None if found is None else (found[1], found[2])
+        if kind == "seen here":
+            found = problem_here_in(self._reached, graph, writer, edited)
+            return None if found is None else (found[1], found[2])
+        if kind == "kept":
+            return echo_in(self._world, graph, writer, edited)
+        return echo_here_in(self._reached, graph, writer, edited)
+
+    def _outside(self, parts):
+        name, own, values = parts
+        outside = shown(self._reached, name, own).without(values)
+        return None if outside.is_empty else way_showing(self._reached, name, own, outside.least())
+
+    def _change(self, parts):
+        elder, later = own_list(self._elder, parts[0], parts[1]), own_list(self._world, parts[0], parts[1])
+        return () if elder.kind != later.kind else least_change(elder, later)
+
+
+def is_wish(world, wish):
+    """Tell whether a value is a wish of a world."""
+    if not isinstance(wish, tuple) or len(wish) < 3 or not isinstance(wish[0], str):
+        return False
+    kind, first = wish[0], own_or_none(world, wish[1], wish[2])
+    if first is None:
+        return False
+    if kind in ("safe", "safe here", "sure", "as"):
+        return len(wish) == 3
+    if kind == "within":
+        return len(wish) == 4 and is_set(wish[3], first.kind)
+    if len(wish) != 5 or own_or_none(world, wish[3], wish[4]) is None:
+        return False
+    if kind in ("seen", "seen here"):
+        return not first.settable.is_empty
+    if kind in ("kept", "kept here"):
+        return first.removable
+    return kind == "alike" and own_or_none(world, wish[3], wish[4]).kind == first.kind
+
+
+def own_or_none(world, name, own):
+    """Return the own field of these names, None for any two values that name none."""
+    if name not in world or not is_name(own):
+        return None
+    return world.program(name).own_fields().get(own)
