@@ -23,7 +23,7 @@ def pass_lists(world, name):
     """Return the dict from the fields to the lists of their values behind a pass, sorted."""
     world.program(name)
     fields = world.fields()
-    tables = {kind: ListTable(world, kind) for kind in ("number", "text")}
+    tables = {kind: ListTable(world, kind) for kind in sorted(set(list(fields.values())))}
     return {field: tables[kind].list_of(tables[kind].behind(name, field)) for field, kind in fields.items()}
 
 
