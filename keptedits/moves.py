@@ -51,15 +51,13 @@ class OwnPlan:
         self._bits = sum([spots[field] for field in written])
         self._by_source = []
         for field, mapping in own.sources:
-            self._by_source.append((spots[field], self._routes(written, atoms, field, 0, mapping)))
+            self._by_source.append((spots[field], self._routes_from(field, mapping, written, atoms)))
         self._by_default = None
         if own.default is not None:
-            self._by_default = self._routes(written, atoms, None, atoms.bit_of(own.default), None)
+            self._by_default = self._routes_of(atoms.bit_of(own.default), False, written, atoms)
         self._by_edit = []
         if not own.settable.is_empty:
-            self._by_edit = self._routes(written, atoms, None, atoms.bits_of(own.settable), None)
-            for route in self._by_edit:
-                route.given = True
+            self._by_edit = self._routes_of(atoms.bits_of(own.settable), True, written, atoms)
         leaving = [field for field in written if written[field].leaves]
         self._by_leaving = [(spots[field], staying_route(field, atoms)) for field in leaving]
 
@@ -84,13 +82,20 @@ class OwnPlan:
                 return routes
         return self._by_default
 
-    def _routes(self, written, atoms, source, raw, mapping):
+    def _routes_from(self, source, mapping, written, atoms):
+        """Return the routes that take the value of a field to the written fields."""
         found = []
         for field, write in written.items():
-            maps, taking = (write.mapping,), atoms.taking_of(write.mapping)
-            if mapping is not None:
-                maps, taking = (mapping, write.mapping), taking_both(atoms.taking_of(mapping), taking)
-            found.append(Route(field, self._name, source, raw, maps, taking, False))
+            taking = taking_both(atoms.taking_of(mapping), atoms.taking_of(write.mapping))
+            found.append(Route(field, self._name, source, 0, (mapping, write.mapping), taking, False))
+        return found
+
+    def _routes_of(self, raw, given, written, atoms):
+        """Return the routes that take a default, or what an edit gives, to the written fields."""
+        found = []
+        for field, write in written.items():
+            taking = atoms.taking_of(write.mapping)
+            found.append(Route(field, self._name, None, raw, (write.mapping,), taking, given))
         return found
 
 
@@ -136,4 +141,4 @@ def staying_route(field, atoms):
 
 def can_go_together(one, other):
     """Tell whether two fields can get their values by these routes in one step, as far as edits are concerned."""
-    return one.by_own is None or one.by_own != other.by_own or one.given == other.given
+    return one.by_own != other.by_own or one.given == other.given

@@ -151,7 +151,7 @@ def _taken(routes, given):
     found = Relation()
     one, other = routes[0].taking, routes[1].taking
     turned = routes[0].target > routes[1].target
-    for bits, partners in given.blocks:
+    for bits, partners in list(given.blocks):
         _widen_turned(found, image(one, bits), image(other, partners), turned)
     bits = given.equal
     found.widen(bits & one[0] & other[0], None)

@@ -18,6 +18,20 @@ FUNCTIONS = {
     "lists": {"parting": "one, other"},
     "putting": {"own_list": "world, name, own", "field_list": "world, field", "pass_lists": "world, name",
                 "put_back": "world, name, first", "over_row": "world, row, first"},
+    "reached": {},
+    "sure": {"shown": "reached, name, own", "is_sure": "reached, name, own", "way_without": "reached, name, own",
+             "way_showing": "reached, name, own, value", "implies": "reached, name, own, other_name, other",
+             "always_alike": "reached, name, own, other_name, other",
+             "way_unlike": "reached, name, own, other_name, other", "covers": "reached, name"},
+    "graphs": {"alike": "world, one, other", "parting_rows": "world, one, other"},
+    "harms": {"harms": "world, name, own, programs=None", "harm_kind": "direct, behind, document",
+              "least_of_kind": "direct, behind, kind", "is_safe": "world, name, own, programs=None",
+              "harms_here": "reached, name, own", "is_safe_here": "reached, name, own"},
+    "marks": {"edited_list": "world, name, own, first", "removed_list": "world, name, own, first"},
+    "seen": {"problem": "world, writer, edited, name, own", "problem_here": "reached, writer, edited, name, own",
+             "echo": "world, writer, edited, name, own", "echo_here": "reached, writer, edited, name, own"},
+    "wishes": {},
+    "offers": {"fits": "world, offer", "applied": "world, offers"},
 }
 
 CLASSES = {
@@ -60,6 +74,34 @@ CLASSES = {
                        "is_always": "self, value", "__len__": "self", "__contains__": "self, field",
                        "__eq__": "self, other", "__repr__": "self"},
     },
+    "reached": {
+        "Beginnings": {"__init__": "self, *, new=(), documents=(), anything=False", "new": "self", "anything": "self",
+                       "documents": "self", "__eq__": "self, other"},
+        "Reached": {"__init__": "self, world, beginnings", "world": "self", "beginnings": "self", "presences": "self",
+                    "values_of": "self, presence, field", "way_to": "self, presence",
+                    "way_with": "self, presence, field, value",
+                    "can_part": "self, presence, one, first, other, second",
+                    "way_parting": "self, presence, one, first, other, second", "document_of": "self, way",
+                    "__contains__": "self, presence", "__len__": "self"},
+    },
+    "graphs": {
+        "ListGraph": {"__init__": "self, world, first, programs=None", "first": "self", "under": "self",
+                      "lists": "self", "rows": "self", "row_to": "self, value", "walk": "self",
+                      "is_before": "one, other", "__len__": "self", "__contains__": "self, value"},
+    },
+    "marks": {
+        "MarkedList": {"kind": "self", "entries": "self", "end": "self", "mark": "self", "settable": "self",
+                       "shows": "self, document, value", "alike": "self, other", "__eq__": "self, other"},
+    },
+    "wishes": {
+        "Wishes": {"__init__": "self, world, wishes, beginnings", "world": "self", "beginnings": "self",
+                   "all_wishes": "self", "fault": "self, position, world=None", "first_fault": "self, world=None",
+                   "__len__": "self"},
+    },
+    "offers": {
+        "Adapters": {"__init__": "self, wishes, offers", "wishes": "self", "chosen": "self", "offers": "self",
+                     "fault": "self, choice", "least": "self", "smaller": "self"},
+    },
 }
 
 BASES = {"Numbers": ["ValueSet"], "Texts": ["ValueSet"], "NumberMap": ["Map"], "TextMap": ["Map"]}
@@ -68,7 +110,9 @@ PROPERTIES = {
     "ValueSet": ["is_empty", "kind", "size"], "Numbers": [], "Texts": ["others"], "Map": ["kind"], "NumberMap": [],
     "TextMap": ["rest"], "Own": ["default", "kind", "removable", "settable", "sources"],
     "Write": ["leaves", "mapping", "own"], "Program": ["keeps", "name"], "World": [],
-    "SourceList": ["end", "entries", "kind"],
+    "SourceList": ["end", "entries", "kind"], "Beginnings": ["anything", "new"], "Reached": ["beginnings", "world"],
+    "ListGraph": ["first", "under"], "MarkedList": ["end", "entries", "kind", "mark", "settable"],
+    "Wishes": ["beginnings", "world"], "Adapters": ["chosen", "wishes"],
 }
 
 CLASS_VALUES = {"Program": {"MAX_OWN": 4}, "World": {"MAX_FIELDS": 8, "MAX_PROGRAMS": 8}}
@@ -114,7 +158,14 @@ class InterfaceTest(unittest.TestCase):
                 told = sorted(one.name for one in methods if "property" in decorated(one))
                 self.assertEqual(told, PROPERTIES[name], name)
                 for one in methods:
-                    self.assertIs("classmethod" in decorated(one), one.args.args[0].arg == "cls", one.name)
+                    first = one.args.args[0].arg
+                    self.assertIs("classmethod" in decorated(one), first == "cls", one.name)
+                    self.assertIs("staticmethod" in decorated(one), first not in ("self", "cls"), one.name)
+
+    def test_generators(self):
+        found = {f"{file.stem}.{one.name}" for file in PACKAGE.glob("*.py") for one in ast.walk(ast.parse(file.read_text()))
+                 if isinstance(one, ast.FunctionDef) and any(isinstance(part, ast.Yield) for part in ast.walk(one))}
+        self.assertEqual(found, {"passes.run_all", "graphs.walk", "offers.smaller"})
 
     def test_class_values(self):
         for file, classes in CLASSES.items():

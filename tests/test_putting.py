@@ -16,6 +16,7 @@ from tests.helpers import KeptCase, drawn_document, drawn_list, drawn_world, odd
 SAME = NumberMap.same()
 TEXT = TextMap.same()
 LOW = NumberMap.cut(0, 9)
+FIELDS = "abcdefgh"
 
 
 def always(value):
@@ -177,6 +178,50 @@ class DrawnTest(KeptCase):
         for name in row:
             behind = passed(world, name, behind)
         self.assertEqual(over_row(world, row, first).at(document), behind.get("u"))
+
+
+class LongRowsTest(KeptCase):
+    """Rows of 199 names over eight fields, eight sources for each own field, and a list of eight entries."""
+
+    def setUp(self):
+        programs = []
+        for k, name in enumerate("pqrs"):
+            own = {one: Own("number", [(FIELDS[(i + j + k) % 8], self.mapping(j + k)) for i in range(8)])
+                   for j, one in enumerate("xyz")}
+            programs.append(Program(name, own, {FIELDS[i]: Write("xyz"[(i + k) % 3], self.mapping(i + k)) for i in range(8)}))
+        self.world = World({field: "number" for field in FIELDS}, programs)
+        self.first = numbers([(FIELDS[i], self.mapping(i)) for i in range(8)], 3)
+        self.row = ["pqrs"[at % 4] for at in range(199)]
+
+    @staticmethod
+    def mapping(i):
+        """Return a map of four pieces."""
+        return NumberMap([(None, i - 10, 0), (i - 9, i + 4, None), (i + 5, i + 9, i), (i + 10, None, None)])
+
+    def test_the_list_over_the_row(self):
+        same = NumberMap([(None, -5, 0), (-4, 4, None), (5, 9, 0), (10, 12, 3), (13, 14, 0), (15, None, None)])
+        found = over_row(self.world, self.row, self.first)
+        self.assertEqual(found, numbers([(field, same) for field in FIELDS], 3))
+        # Over the row said twice, the list is put back over the row once more.
+        self.assertEqual(over_row(self.world, self.row + self.row, self.first), over_row(self.world, self.row, found))
+
+    def test_values_behind_the_row(self):
+        draw = random.Random(15)
+        found = over_row(self.world, self.row, self.first)
+        for _ in range(40):
+            document = {field: draw.randint(-12, 25) for field in draw.sample(FIELDS, draw.randint(0, 8))}
+            behind = document
+            for name in self.row:
+                behind = passed(self.world, name, behind)
+            self.assertEqual(found.at(document), self.first.at(behind))
+
+    def test_rows_that_begin_and_end_alike(self):
+        draw = random.Random(16)
+        for _ in range(10):
+            row = [draw.choice("pqrs") for _ in range(draw.randint(160, 199))]
+            cut = draw.randint(0, len(row))
+            behind = over_row(self.world, row[cut:], self.first)
+            self.assertEqual(over_row(self.world, row, self.first), over_row(self.world, row[:cut], behind))
 
 
 if __name__ == "__main__":
