@@ -13,6 +13,9 @@ BUILTINS = set("""len range enumerate zip min max sum abs sorted reversed int st
     IndexError LookupError ZeroDivisionError ArithmeticError OverflowError RuntimeError NotImplementedError
     AttributeError StopIteration NotImplemented property staticmethod classmethod super iter next map""".split())
 
+# The examples of another test may have left a builtin _ behind.
+ALL_BUILTINS = set(dir(builtins)) - {"_"}
+
 METHODS = set("""append clear copy count endswith extend find get index insert isalnum isalpha isdigit islower isspace
     isupper items join keys ljust lower lstrip partition pop remove replace reverse rfind rjust rpartition rsplit rstrip
     setdefault split splitlines startswith strip update upper values zfill bit_length add discard""".split())
@@ -98,7 +101,7 @@ def folder_faults():
             found.append(f"L14 {path.name}")
         if path.is_file() and (path.suffix != ".py" or not re.fullmatch(r"[a-z0-9_]+", path.stem)):
             found.append(f"L1 {path.name}")
-        if path.stem in dir(builtins) or re.match(r"law_|test|site|conftest|usercustomize", path.stem):
+        if path.stem in ALL_BUILTINS or re.match(r"law_|test|site|conftest|usercustomize", path.stem):
             found.append(f"L14 {path.name}")
     return found
 
@@ -154,7 +157,7 @@ def module_faults(source):
             bound += [one.name for one in node.names]
         elif not is_docstring(node):
             found.append(f"L3 line {node.lineno}")
-    found += [f"L15 {name}" for name in bound if bound.count(name) > 1 or name in dir(builtins)]
+    found += [f"L15 {name}" for name in bound if bound.count(name) > 1 or name in ALL_BUILTINS]
     if source.name == "__init__" and bound:
         found.append("L16 __init__")
     return found
@@ -184,7 +187,7 @@ def function_faults(source):
     """L4, L15, L21: decorators, defaults, parameters, annotations."""
     found = []
     taken = {name.name for node in source.nodes(ast.ImportFrom) for name in node.names}
-    taken |= {node.name for node in source.nodes(ast.ClassDef)} | set(dir(builtins))
+    taken |= {node.name for node in source.nodes(ast.ClassDef)} | set(ALL_BUILTINS)
     for node in source.nodes(ast.FunctionDef):
         in_class = isinstance(node.parent, ast.ClassDef)
         for one in node.decorator_list:
@@ -216,7 +219,7 @@ def statement_faults(source):
     for node in source.nodes(ast.ExceptHandler):
         names = node.type.elts if isinstance(node.type, ast.Tuple) else [node.type]
         for one in names:
-            own = isinstance(one, ast.Name) and one.id not in dir(builtins)
+            own = isinstance(one, ast.Name) and one.id not in ALL_BUILTINS
             if not own and not (isinstance(one, ast.Name) and one.id in ("KeyError", "ZeroDivisionError")):
                 found.append(f"L19 line {node.lineno}")
     for node in source.nodes(ast.Raise):
@@ -299,7 +302,7 @@ def name_faults(source):
                 found.append(f"L12 {name}")
             if name in NOWHERE:
                 found.append(f"L17 {name}")
-        if isinstance(node, ast.Name) and node.id in dir(builtins) and node.id not in BUILTINS:
+        if isinstance(node, ast.Name) and node.id in ALL_BUILTINS and node.id not in BUILTINS:
             found.append(f"L8 {node.id} line {node.lineno}")
         if isinstance(node, ast.Name) and node.id == "_" and isinstance(node.ctx, ast.Load):
             found.append(f"L12 _ line {node.lineno}")
