@@ -5,19 +5,38 @@ from keptedits.moves import can_go_together
 from keptedits.spread import Fact
 
 
+class Bundle:
+    """Pairs that are sent together: all pairs of each block (bits, bits of partners), and equal values of equal.
+
+    The blocks may overlap. Pieces are blocks, or (bits, None) for equal values.
+    """
+
+    def __init__(self, pieces):
+        by_partners, by_bits = {}, {}
+        self.equal = 0
+        for bits, partners in pieces:
+            if partners is None:
+                self.equal |= bits
+            elif bits and partners:
+                by_partners[partners] = by_partners.get(partners, 0) | bits
+        for partners, bits in by_partners.items():
+            by_bits[bits] = by_bits.get(bits, 0) | partners
+        self.blocks = list(by_bits.items())
+
+    def pieces(self):
+        """Return the pieces."""
+        return self.blocks + ([(self.equal, None)] if self.equal else [])
+
+
 class Relation:
-    """Pairs of atoms: all pairs of each block (bits, bits of partners), and equal values of the atoms of equal."""
+    """All pairs of two fields: blocks (bits, bits of partners), which do not overlap, and equal values of equal."""
 
     def __init__(self):
         self.blocks = []
         self.equal = 0
 
-    def pieces(self):
-        """Return the tuples (bits, partners), with None as partners for equal values."""
-        return self.blocks + ([(self.equal, None)] if self.equal else [])
-
     def widen(self, bits, partners):
-        """Add all pairs of two sets of atoms, or (partners is None) of equal values; return the bits with new pairs."""
+        """Add a piece; return the bits that then have new pairs."""
         rest = bits & ~self.equal if partners is None else bits
         for row, known in self.blocks:
             if partners is None:
@@ -26,9 +45,9 @@ class Relation:
                 rest &= ~row
         if partners is None:
             self.equal |= rest
-        elif rest and partners:
+        elif rest:
             self.blocks = _with_block(self.blocks, rest, partners)
-        return rest if partners != 0 else 0
+        return rest
 
 
 class Pairs:
@@ -94,19 +113,16 @@ class Pairs:
                 one, other = other, one
             self._links.setdefault((start[1], one.source, other.source), []).append((start, ends, one, other))
             return
-        given = Relation()
         joined = one.source == other.source and (one.source is not None or one.by_own == other.by_own)
-        given.widen(self._bits_for(start[1], one), None if joined else self._bits_for(start[1], other))
-        self._send(start, ends, (one, other), given)
+        piece = (self._bits_for(start[1], one), None if joined else self._bits_for(start[1], other))
+        self._send(start, ends, (one, other), Bundle([piece]))
 
     def _bits_for(self, presence, route):
         return route.raw if route.source is None else self._spread.values_bits(presence, route.source)
 
     def _send_on(self, asked, found):
         """Send new pairs through the steps of all programs."""
-        given = Relation()
-        for bits, partners in found:
-            given.widen(bits, partners)
+        given = Bundle(found)
         for start, ends, one, other in self._links.get(asked, []):
             self._send(start, ends, (one, other), given)
 
@@ -148,24 +164,15 @@ def _with_block(blocks, rest, other):
 
 def _taken(routes, given):
     """Return the pairs of the results of pairs that two routes take, the field first in sorted order first."""
-    found = Relation()
     one, other = routes[0].taking, routes[1].taking
-    turned = routes[0].target > routes[1].target
-    for bits, partners in list(given.blocks):
-        _widen_turned(found, image(one, bits), image(other, partners), turned)
     bits = given.equal
-    found.widen(bits & one[0] & other[0], None)
+    found = [(image(one, row), image(other, partners)) for row, partners in given.blocks]
     for taken, result in one[1]:
         if bits & taken:
-            _widen_turned(found, result, image(other, bits & taken), turned)
+            found.append((result, image(other, bits & taken)))
     for taken, result in other[1]:
         if bits & taken & one[0]:
-            _widen_turned(found, bits & taken & one[0], result, turned)
-    return found
-
-
-def _widen_turned(relation, bits, partners, turned):
-    if turned:
-        relation.widen(partners, bits)
-    else:
-        relation.widen(bits, partners)
+            found.append((bits & taken & one[0], result))
+    if routes[0].target > routes[1].target:
+        found = [(partners, row) for row, partners in found]
+    return Bundle(found + [(bits & one[0] & other[0], None)])
