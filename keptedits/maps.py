@@ -1,7 +1,7 @@
 """Maps, which take each value of a kind to a value of this kind and never change."""
 
 from keptedits.errors import InvalidMap, InvalidValue, Unlike
-from keptedits.sets import Numbers, Texts, check_set, full_set, is_name, is_number, is_stretch, is_value
+from keptedits.sets import Numbers, Texts, check_set, is_name, is_number, is_stretch, is_value, is_within
 
 
 class Map:
@@ -45,9 +45,10 @@ class Map:
     def apart(self, other, among=None):
         """Return the least value of a set at which the maps differ, None if there is none."""
         check_map(other, self.KIND)
-        values = full_set(self.KIND) if among is None else among
-        check_set(values, self.KIND)
-        return values.shared(self._differing(other)).least()
+        if among is None:
+            return self._differing(other).least()
+        check_set(among, self.KIND)
+        return among.shared(self._differing(other)).least()
 
     def __eq__(self, other):
         return isinstance(other, Map) and self.KIND == other.KIND and self._content() == other._content()
@@ -366,7 +367,10 @@ def _stretches_apart(first, last, one, other):
     if one is not None and other is not None:
         return [(first, last)]
     fixed = other if one is None else one
-    return Numbers([(first, last)]).without(Numbers.of(fixed)).stretches()
+    if not is_within(fixed, first, last):
+        return [(first, last)]
+    found = [] if first == fixed else [(first, fixed - 1)]
+    return found if last == fixed else found + [(fixed + 1, last)]
 
 
 def _usually_apart(special, one, other):

@@ -17,7 +17,7 @@ class Bundle:
         for bits, partners in pieces:
             if partners is None:
                 self.equal |= bits
-            elif bits and partners:
+            else:
                 by_partners[partners] = by_partners.get(partners, 0) | bits
         for partners, bits in by_partners.items():
             by_bits[bits] = by_bits.get(bits, 0) | partners
@@ -71,20 +71,16 @@ class Pairs:
                     self._send_on(asked, found)
 
     def relation(self, presence, one, other):
-        """Return the pairs of two different fields, the first one in sorted order first."""
+        """Return the pairs of two different fields of a presence, the first one in sorted order first."""
         if self._spread.can_be_any():
             found = Relation()
             everything = self._spread.values_bits(presence, one)
-            if everything and self._spread.values_bits(presence, other):
-                found.widen(everything, everything)
+            found.widen(everything, everything)
             return found
         return self._relations.get((presence, one, other), Relation())
 
     def reasons(self, presence, one, other):
-        """Return the facts that tell these pairs, as they were found."""
-        if self._spread.can_be_any():
-            everything = self._spread.values_bits(presence, one)
-            return [Fact(everything, everything, ("any",))]
+        """Return the facts that tell these pairs, as they were found, where not all documents come about."""
         return list(self._reasons[(presence, one, other)])
 
     def _seed_documents(self):

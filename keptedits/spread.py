@@ -103,9 +103,7 @@ class Spread:
         return self._known_bits.get((presence, field), 0)
 
     def fact_about(self, presence, field, bit):
-        """Return the fact that first tells an atom of a field."""
-        if self._anything:
-            return Fact(bit, None, ("any",))
+        """Return the fact that first tells an atom of a field, where not all documents come about."""
         self._spread_values()
         for fact in self._reasons[(presence, field)]:
             if fact.one_bits & bit:

@@ -33,9 +33,9 @@ def _any_document(world, fields, wanted):
 
 
 def _fact_about(spread, pairs, presence, wanted):
-    """Return the first fact that tells the wanted values, None if nothing is wanted."""
+    """Return the first fact that tells the wanted values, None if nothing is wanted or all documents come about."""
     fields = sorted(wanted)
-    if len(fields) == 0:
+    if len(fields) == 0 or spread.can_be_any():
         return None
     atoms = spread.atoms_for(fields[0])
     bits = [atoms.bit_of(wanted[field]) for field in fields]
@@ -79,12 +79,12 @@ def _values_given(spread, fact, wanted):
     both = origins[0].shared(origins[1]).shared(atoms.values_of(fact.given.equal))
     if not both.is_empty:
         return [both.least(), both.least()]
+    found = []
     for bits, partners in fact.given.blocks:
-        values = origins[0].shared(atoms.values_of(bits))
-        others = origins[1].shared(atoms.values_of(partners))
-        if not values.is_empty and not others.is_empty:
-            return [values.least(), others.least()]
-    return []
+        shared = [origins[0].shared(atoms.values_of(bits)), origins[1].shared(atoms.values_of(partners))]
+        if not any([values.is_empty for values in shared]):
+            found.append([values.least() for values in shared])
+    return found[0]
 
 
 def _origins(route, value):

@@ -92,7 +92,7 @@ class Answers:
         if kind == "sure":
             return way_without(self._reached, parts[0], parts[1])
         if kind == "within":
-            return self._outside(parts)
+            return self._exceeding(parts)
         if kind == "alike":
             return way_unlike(self._reached, parts[0], parts[1], parts[2], parts[3])
         return self._change(parts)
@@ -126,7 +126,7 @@ class Answers:
             return echo_in(self._world, graph, writer, edited)
         return echo_here_in(self._reached, graph, writer, edited)
 
-    def _outside(self, parts):
+    def _exceeding(self, parts):
         name, own, values = parts
         outside = shown(self._reached, name, own).without(values)
         return None if outside.is_empty else way_showing(self._reached, name, own, outside.least())

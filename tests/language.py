@@ -35,6 +35,9 @@ WORDS = re.compile(r"\b(type|typing|typing_extensions|enum|Enum|IntEnum|StrEnum|
 
 PLAIN = re.compile(r"_?[A-Za-z][A-Za-z0-9_]*\Z|_\Z")
 
+BARRED = re.compile(r"(_(pe|dcw|enum|cm|twin_re|lay|law|stub)_|_sre|_wall(?!s\Z)|_WallAttr)|"
+                    r"_(cold|tuplegetter|outside|record|written_out|member_names)[0-9_]*\Z")
+
 STATEMENTS = (ast.Assign, ast.AugAssign, ast.If, ast.While, ast.For, ast.Return, ast.Break, ast.Continue, ast.Pass,
               ast.Raise, ast.Assert, ast.Delete, ast.Nonlocal, ast.Match, ast.With, ast.Try, ast.Expr, ast.FunctionDef,
               ast.ClassDef, ast.ImportFrom)
@@ -299,6 +302,8 @@ def name_faults(source):
         for name in names:
             dunder = name in DUNDERS or name in ("__class__", "__name__")
             if not dunder and not isinstance(node, ast.alias) and not PLAIN.match(name):
+                found.append(f"L12 {name}")
+            if not isinstance(node, ast.alias) and BARRED.match(name):
                 found.append(f"L12 {name}")
             if name in NOWHERE:
                 found.append(f"L17 {name}")

@@ -35,6 +35,13 @@ class LanguageTest(unittest.TestCase):
                     found = " ".join(language.faults())
             self.assertRegex(found, rf"\b{rule}\b", text)
 
+    def test_barred_names(self):
+        for name in ["_outside", "_record_1", "_law_of", "_sre", "_walled"]:
+            with tempfile.TemporaryDirectory() as folder:
+                Path(folder, "a.py").write_text(f"def {name}():\n    return 1\n", encoding="utf-8")
+                with mock.patch.object(language, "PACKAGE", Path(folder)):
+                    self.assertEqual(language.faults(), [f"a: L12 {name}"])
+
     def test_what_properties_run_changes_nothing(self):
         text = "class A:\n    @property\n    def x(self):\n        return self._f()\n\n    def _f(self):\n        self.y = 1\n"
         with tempfile.TemporaryDirectory() as folder:

@@ -262,7 +262,7 @@ class DocumentOfTest(KeptCase):
         for wrong in odd_values() + [{"gone": 1}, {"len": "a"}, {"len": True}, [("len", 1)]]:
             if wrong != {}:
                 self.assert_error(InvalidStep(-1), everything.document_of, (("any", wrong), []))
-        for wrong in [("any",), ("any", {}, {}), ("document", 0), ("new", "old", {})]:
+        for wrong in [("any",), ("any", {}, {}), ("document", 0), ("new", "old", {}), ("old", {}), ("Any", {}), ("", {})]:
             self.assert_error(InvalidStep(-1), everything.document_of, (wrong, []))
 
     def test_the_told_document_is_free(self):
@@ -362,6 +362,29 @@ class DrawnTest(KeptCase):
 
 
 class LargeTest(KeptCase):
+    def test_pairs_that_come_from_several_pairs(self):
+        draw = random.Random(25)
+        for _ in range(40):
+            programs = []
+            for name in "pqr":
+                own = {one: Own("number", [(field, drawn_map(draw, "number")) for field in draw.sample("abcd", 3)])
+                       for one in "xyz"}
+                writes = {field: Write(draw.choice("xyz"), drawn_map(draw, "number")) for field in draw.sample("abcd", 3)}
+                programs.append(Program(name, own, writes, keeps=draw.random() < 0.8))
+            world = World({field: "number" for field in "abcd"}, programs)
+            documents = [{field: draw.randint(-9, 9) for field in "abcd"} for _ in range(6)]
+            reached = Reached(world, Beginnings(documents=documents))
+            for presence in reached.presences():
+                for one in presence:
+                    for other in presence:
+                        maps = [draw.choice([SAME, SAME, drawn_map(draw, "number")]) for _ in "ab"]
+                        way = reached.way_parting(presence, one, maps[0], other, maps[1])
+                        self.assertIs(way is not None, reached.can_part(presence, one, maps[0], other, maps[1]))
+                        if way is not None:
+                            document = reached.document_of(way)
+                            self.assertEqual(tuple(sorted(document)), presence)
+                            self.assertNotEqual(maps[0].at(document[one]), maps[1].at(document[other]))
+
     def test_eight_fields_and_programs(self):
         fields, programs = "abcdefgh", []
         for k, name in enumerate("pqrstuvw"):
