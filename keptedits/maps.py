@@ -99,6 +99,10 @@ class NumberMap(Map):
         """Return the normal pieces."""
         return list(self._pieces)
 
+    def parts(self):
+        """Return a tuple that tells maps of numbers apart."""
+        return self._pieces
+
     def __repr__(self):
         return f"NumberMap({list(self._pieces)!r})"
 
@@ -175,6 +179,10 @@ class TextMap(Map):
     def exceptions(self):
         """Return the normal exceptions, sorted."""
         return {old: self._exceptions[old] for old in self._exceptions}
+
+    def parts(self):
+        """Return a tuple that tells maps of texts apart."""
+        return (tuple(self._exceptions.items()), self._rest)
 
     def __repr__(self):
         return f"TextMap({self._exceptions!r}, {self._rest!r})"

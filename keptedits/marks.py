@@ -4,7 +4,7 @@ from keptedits.errors import InvalidValue, NotRemovable, NotSettable, Unlike
 from keptedits.lists import SourceList, normal_entries
 from keptedits.maps import NumberMap, TextMap, pieces_within
 from keptedits.putting import check_list, pass_lists
-from keptedits.tables import MapTable, map_key
+from keptedits.tables import MapTable
 
 
 class MarkedList:
@@ -20,7 +20,7 @@ class MarkedList:
         self._mark = mark
         self._settable = settable
         # Marks count at the settable values alone.
-        self._mark_told = None if mark is None else map_key(_confined(mark, settable))
+        self._mark_told = None if mark is None else _confined(mark, settable).parts()
 
     @property
     def kind(self):

@@ -15,7 +15,7 @@ class MapTable:
 
     def number_of(self, mapping):
         """Return the number of a map."""
-        told = map_key(mapping)
+        told = mapping.parts()
         if told not in self._numbers:
             self._numbers[told] = len(self._maps)
             self._maps.append(mapping)
@@ -114,13 +114,6 @@ class ListTable:
         return self._normal(entries, end)
 
 
-def map_key(mapping):
-    """Return a tuple that tells maps of one kind apart."""
-    if mapping.kind == "number":
-        return tuple(mapping.pieces())
-    return (tuple(mapping.exceptions().items()), mapping.rest)
-
-
 def list_key(told):
     """Return a tuple that tells source lists of one kind apart."""
-    return (tuple([(field, map_key(mapping)) for field, mapping in told.entries]), told.end)
+    return (tuple([(field, mapping.parts()) for field, mapping in told.entries]), told.end)
