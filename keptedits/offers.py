@@ -5,7 +5,7 @@ from keptedits.maps import Map
 from keptedits.programs import Own, Program, Write
 from keptedits.sets import is_name, is_number
 from keptedits.sure import parts_by_size
-from keptedits.wishes import own_or_none
+from keptedits.wishes import copied_fault, own_or_none
 
 
 class Adapters:
@@ -50,7 +50,7 @@ class Adapters:
             raise InvalidChoice(choice)
         if choice not in self._faults:
             return self._found_fault(choice)
-        return _copied(self._faults[choice])
+        return copied_fault(self._faults[choice])
 
     def least(self):
         """Return the least adapters, sorted."""
@@ -60,7 +60,7 @@ class Adapters:
         """Yield the tuples (choice, fault) of all choices with fewer offers than the least adapters."""
         for choice, fault in self._faults.items():
             if not self._least or len(choice) < len(self._least[0]):
-                yield (choice, _copied(fault))
+                yield (choice, copied_fault(fault))
 
     def _is_choice(self, choice):
         if not isinstance(choice, tuple) or not all([is_number(position) for position in choice]):
@@ -160,13 +160,3 @@ def _with_offer(world, offer):
 def _reading(own, source, place):
     sources = (source,) + own.sources if place == "first" else own.sources + (source,)
     return Own(own.kind, sources, default=own.default, settable=own.settable, removable=own.removable)
-
-
-def _copied(value):
-    """Return a copy of a fault, with new lists and dicts inside it, too."""
-    if isinstance(value, (list, tuple)):
-        found = [_copied(part) for part in value]
-        return found if isinstance(value, list) else tuple(found)
-    if isinstance(value, dict):
-        return {one: _copied(value[one]) for one in value}
-    return value

@@ -35,7 +35,7 @@ def passed(world, name, document):
     """Return the document behind a pass of the program."""
     program = world.program(name)
     check_document(world, document)
-    return _written(world, program, document, {})
+    return written(world, program, document, {})
 
 
 def effect(world, name, document, edit):
@@ -43,7 +43,7 @@ def effect(world, name, document, edit):
     program = world.program(name)
     check_document(world, document)
     check_edit(program, edit)
-    return _changes(program, document, edit)
+    return changes_of(program, document, edit)
 
 
 def edited(world, name, document, edit):
@@ -51,7 +51,7 @@ def edited(world, name, document, edit):
     program = world.program(name)
     check_document(world, document)
     check_edit(program, edit)
-    return _written(world, program, document, _changes(program, document, edit))
+    return written(world, program, document, changes_of(program, document, edit))
 
 
 def made_new(world, name, edit=None):
@@ -61,7 +61,7 @@ def made_new(world, name, edit=None):
 
 def run(world, steps, document):
     """Return the document behind all steps."""
-    taken = _taken_steps(world, steps)
+    taken = taken_steps(world, steps)
     check_document(world, document)
     current = _copy_of(document)
     for name, edit in taken:
@@ -71,7 +71,7 @@ def run(world, steps, document):
 
 def run_all(world, steps, document):
     """Yield the document, then the one behind each step."""
-    taken = _taken_steps(world, steps)
+    taken = taken_steps(world, steps)
     check_document(world, document)
     current = _copy_of(document)
     yield _copy_of(current)
@@ -80,7 +80,7 @@ def run_all(world, steps, document):
         yield _copy_of(current)
 
 
-def _taken_steps(world, steps):
+def taken_steps(world, steps):
     """Return a copy of a list of steps, behind its check."""
     if not isinstance(steps, (list, tuple)):
         raise InvalidStep(-1)
@@ -100,7 +100,7 @@ def _copy_of(document):
     return {field: document[field] for field in document}
 
 
-def _value_read(own, document):
+def value_read(own, document):
     """Return what an own field has of a document, None for nothing."""
     for field, mapping in own.sources:
         if field in document:
@@ -108,41 +108,38 @@ def _value_read(own, document):
     return own.default
 
 
-def _all_read(program, document):
-    """Return the dict from all own fields to what the program reads, None for nothing."""
-    own_fields = program.own_fields()
-    return {own: _value_read(own_fields[own], document) for own in own_fields}
-
-
-def _changes(program, document, edit):
+def changes_of(program, document, edit):
     """Return the entries of an edit that give something else than what the program reads, sorted."""
     worth = _all_read(program, document)
     return {own: edit[own] for own in sorted(edit) if edit[own] != worth[own]}
 
 
-def _written(world, program, document, changes):
-    """Return the document that the program writes behind these changes of what it reads."""
+def written(world, program, document, given):
+    """Return the document that a program writes where some own fields are given values, None for removed ones."""
     worth = _all_read(program, document)
-    worth.update(changes)
+    worth.update(given)
+    writes = program.writes()
     found = {}
     for field in world.fields():
-        value = _value_behind(program, field, document, worth, changes)
+        if field in writes:
+            value = _value_written(writes[field], document.get(field), worth, given)
+        else:
+            value = document.get(field) if program.keeps else None
         if value is not None:
             found[field] = value
     return found
 
 
-def _value_behind(program, field, document, worth, changes):
-    """Return the value that a field has behind a pass, None if it is absent then."""
-    writes = program.writes()
-    if field not in writes:
-        return document.get(field) if program.keeps else None
-    write = writes[field]
+def _all_read(program, document):
+    """Return the dict from all own fields to what the program reads, None for nothing."""
+    return {own: value_read(told, document) for own, told in program.own_fields().items()}
+
+
+def _value_written(write, was, worth, given):
+    """Return the value that a known field has behind a pass, None if it is absent then."""
     if write is None:
         return None
     if worth[write.own] is not None:
         return write.mapping.at(worth[write.own])
     # A removed own field takes its fields away, also where the write leaves what it knows nothing of.
-    if write.leaves and write.own not in changes:
-        return document.get(field)
-    return None
+    return was if write.leaves and write.own not in given else None

@@ -11,25 +11,25 @@ from keptedits.sets import full_set
 
 def problem(world, writer, edited, name, own):
     """Return the tuple (kind, row, document, value) of the problem of an edit, None if the reader sees it."""
-    graph = _graph_for_edit(world, writer, edited, name, own)
+    graph = ListGraph(world, checked_edit(world, writer, edited, name, own))
     return problem_in(world, graph, writer, edited)
 
 
 def problem_here(reached, writer, edited, name, own):
     """Return the tuple (kind, row, presence) of the problem of an edit where something comes about, or None."""
-    graph = _graph_for_edit(reached.world, writer, edited, name, own)
+    graph = ListGraph(reached.world, checked_edit(reached.world, writer, edited, name, own))
     return problem_here_in(reached, graph, writer, edited)
 
 
 def echo(world, writer, edited, name, own):
     """Return the tuple (row, document) of the echo of a removal, None if it is kept for the reader."""
-    graph = _graph_for_removal(world, writer, edited, name, own)
+    graph = ListGraph(world, checked_removal(world, writer, edited, name, own))
     return echo_in(world, graph, writer, edited)
 
 
 def echo_here(reached, writer, edited, name, own):
     """Return the tuple (row, presence) of the echo of a removal where something comes about, or None."""
-    graph = _graph_for_removal(reached.world, writer, edited, name, own)
+    graph = ListGraph(reached.world, checked_removal(reached.world, writer, edited, name, own))
     return echo_here_in(reached, graph, writer, edited)
 
 
@@ -95,20 +95,22 @@ def echo_here_in(reached, graph, writer, edited):
     return None
 
 
-def _graph_for_edit(world, writer, edited, name, own):
+def checked_edit(world, writer, edited, name, own):
+    """Return the list of a reader, behind the checks of an edit that it may see."""
     own_field = world.program(writer).own_field(edited)
     first = own_list(world, name, own)
     if own_field.settable.is_empty:
         raise NotSettable(edited)
-    return ListGraph(world, first)
+    return first
 
 
-def _graph_for_removal(world, writer, edited, name, own):
+def checked_removal(world, writer, edited, name, own):
+    """Return the list of a reader, behind the checks of a removal that may be kept for it."""
     own_field = world.program(writer).own_field(edited)
     first = own_list(world, name, own)
     if not own_field.removable:
         raise NotRemovable(edited)
-    return ListGraph(world, first)
+    return first
 
 
 def _first_kind(step, first):

@@ -23,7 +23,8 @@ class Wishes:
         for position, wish in enumerate(wishes):
             if not is_wish(world, wish):
                 raise InvalidWish(position)
-        self._own_answers = Answers(world, Reached(world, beginnings))
+        self._own_answers = Answers(world, world, beginnings)
+        self._own_answers.reached()
         self._world = world
         self._beginnings = beginnings
         self._wishes = list(wishes)
@@ -50,9 +51,17 @@ class Wishes:
 
     def first_fault(self, world=None):
         """Return the tuple (position, fault) of the first wish that does not hold, None if all hold."""
-        answers = self._answers_in(world)
-        for position, wish in enumerate(self._wishes):
-            found = answers.fault(wish)
+        return self._first_fault(self._answers_in(world), list(range(len(self._wishes))))
+
+    def first_fault_among(self, names):
+        """Return the first fault, as above, of the wishes that name these programs only, in the world of only these."""
+        world = self._world.only(*names)
+        positions = [position for position, wish in enumerate(self._wishes) if is_wish(world, wish)]
+        return self._first_fault(self._answers_in(world), positions)
+
+    def _first_fault(self, answers, positions):
+        for position in positions:
+            found = answers.fault(self._wishes[position])
             if found is not None:
                 return (position, found)
         return None
@@ -68,17 +77,25 @@ class Wishes:
         new = [name for name in self._beginnings.new if name in world]
         documents = self._beginnings.documents()
         beginnings = Beginnings(new=new, documents=documents, anything=self._beginnings.anything)
-        return Answers(self._world, Reached(world, beginnings))
+        return Answers(self._world, world, beginnings)
 
 
 class Answers:
     """The faults of wishes in a world, beside an elder one."""
 
-    def __init__(self, elder, reached):
+    def __init__(self, elder, world, beginnings):
         self._elder = elder
-        self._reached = reached
-        self._world = reached.world
+        self._world = world
+        self._beginnings = beginnings
+        self._reached = None
         self._graphs = {}
+
+    def reached(self):
+        """Return what comes about in the world."""
+        # Many wishes are about all documents.
+        if self._reached is None:
+            self._reached = Reached(self._world, self._beginnings)
+        return self._reached
 
     def fault(self, wish):
         """Return the fault of a wish of the elder world, None if it holds."""
@@ -90,11 +107,11 @@ class Answers:
         if kind in ("seen", "seen here", "kept", "kept here"):
             return self._loss(kind, parts)
         if kind == "sure":
-            return way_without(self._reached, parts[0], parts[1])
+            return way_without(self.reached(), parts[0], parts[1])
         if kind == "within":
             return self._exceeding(parts)
         if kind == "alike":
-            return way_unlike(self._reached, parts[0], parts[1], parts[2], parts[3])
+            return way_unlike(self.reached(), parts[0], parts[1], parts[2], parts[3])
         return self._change(parts)
 
     def _graph(self, name, own):
@@ -107,7 +124,7 @@ class Answers:
     def _harm(self, kind, parts):
         graph = self._graph(parts[0], parts[1])
         if kind == "safe here":
-            return first_harm_here(self._reached, graph)
+            return first_harm_here(self.reached(), graph)
         if len(graph) == 1:
             return None
         return (graph.rows()[1], parting(graph.first, graph.lists()[1]))
@@ -120,16 +137,16 @@ class Answers:
             found = problem_in(self._world, graph, writer, edited)
             return None if found is None else (found[1], found[2])
         if kind == "seen here":
-            found = problem_here_in(self._reached, graph, writer, edited)
+            found = problem_here_in(self.reached(), graph, writer, edited)
             return None if found is None else (found[1], found[2])
         if kind == "kept":
             return echo_in(self._world, graph, writer, edited)
-        return echo_here_in(self._reached, graph, writer, edited)
+        return echo_here_in(self.reached(), graph, writer, edited)
 
     def _exceeding(self, parts):
         name, own, values = parts
-        outside = shown(self._reached, name, own).without(values)
-        return None if outside.is_empty else way_showing(self._reached, name, own, outside.least())
+        outside = shown(self.reached(), name, own).without(values)
+        return None if outside.is_empty else way_showing(self.reached(), name, own, outside.least())
 
     def _change(self, parts):
         elder, later = own_list(self._elder, parts[0], parts[1]), own_list(self._world, parts[0], parts[1])
@@ -154,6 +171,16 @@ def is_wish(world, wish):
     if kind in ("kept", "kept here"):
         return first.removable
     return kind == "alike" and own_or_none(world, wish[3], wish[4]).kind == first.kind
+
+
+def copied_fault(value):
+    """Return a copy of a fault, with new lists and dicts inside it, too."""
+    if isinstance(value, (list, tuple)):
+        found = [copied_fault(part) for part in value]
+        return found if isinstance(value, list) else tuple(found)
+    if isinstance(value, dict):
+        return {one: copied_fault(value[one]) for one in value}
+    return value
 
 
 def own_or_none(world, name, own):

@@ -27,6 +27,8 @@ DUNDERS = set("""__init__ __eq__ __repr__ __str__ __len__ __enter__ __exit__ __c
 
 PURE = set("__eq__ __repr__ __str__ __len__ __contains__ __lt__ __le__ __gt__ __ge__ __ne__ __bool__".split())
 
+HEAP = {"heappush", "heappop", "heapify"}
+
 NOWHERE = set("""register mro elements open input law version_info with_traceback add_note""".split())
 
 WORDS = re.compile(r"\b(type|typing|typing_extensions|enum|Enum|IntEnum|StrEnum|Flag|IntFlag|Generic|Protocol|ABC|"
@@ -129,6 +131,8 @@ def import_faults(source, defined):
         if isinstance(node, ast.ImportFrom):
             if seen_other or node.level or any(one.asname for one in node.names):
                 found.append(f"L2 line {node.lineno}")
+            if node.module == "heapq" and {one.name for one in node.names} <= HEAP:
+                continue
             if not node.module.startswith("keptedits."):
                 found.append(f"L2 line {node.lineno}")
             elif not {one.name for one in node.names} <= defined.get(node.module[len("keptedits."):], set()):
@@ -137,6 +141,9 @@ def import_faults(source, defined):
             seen_other = True
     if source.nodes(ast.Import):
         found.append("L2 import")
+    for node in source.nodes(ast.Name):
+        if node.id in HEAP and (called(node.parent) != node.id or function_of(node) is None or node.parent.keywords):
+            found.append(f"L2 line {node.lineno}")
     return found
 
 
