@@ -32,6 +32,21 @@ FUNCTIONS = {
              "echo": "world, writer, edited, name, own", "echo_here": "reached, writer, edited, name, own"},
     "wishes": {},
     "offers": {"fits": "world, offer", "applied": "world, offers"},
+    "lets": {}, "copies": {}, "joins": {}, "store": {}, "desk": {},
+    "peace": {"disturbance": "world, name, first, own, second, other",
+              "disturbs": "world, name, first, own, value, second, other, other_value, root"},
+    "toldback": {"verdict": "world, base, copy, name, own", "least_costs": "world, base, copy, name, own",
+                 "past": "world, base, copy, name, own, by_hand",
+                 "is_by_hand": "world, base, copy, name, own, steps", "drifts": "world, document",
+                 "told_open": "world, name, base, documents",
+                 "told_joined": "world, name, base, documents, choices=None"},
+    "texts": {"value_text": "value", "map_text": "mapping", "set_text": "values", "document_text": "document",
+              "world_text": "world", "parse_map": "text, kind", "parse_set": "text, kind",
+              "parse_document": "world, text", "parse_world": "text"},
+    "papers": {"safe_paper": "world, name, own", "seen_paper": "world, writer, edited, name, own",
+               "kept_paper": "world, writer, edited, name, own", "is_safe_paper": "world, name, own, lists",
+               "is_seen_paper": "world, writer, edited, name, own, lists",
+               "is_kept_paper": "world, writer, edited, name, own, lists"},
 }
 
 CLASSES = {
@@ -102,6 +117,28 @@ CLASSES = {
         "Adapters": {"__init__": "self, wishes, offers", "wishes": "self", "chosen": "self", "offers": "self",
                      "fault": "self, choice", "least": "self", "smaller": "self"},
     },
+    "lets": {
+        "Admission": {"__init__": "self, wishes", "wishes": "self", "is_let": "self, names", "bad_sets": "self",
+                      "greatest_sets": "self", "admits": "self, names, name"},
+    },
+    "copies": {
+        "Copy": {"__init__": "self, world, document", "world": "self", "known": "self", "document": "self",
+                 "root": "self", "origin": "self, field", "stepped": "self, name, edit=None, *, number=None",
+                 "shown": "self, name, own", "__eq__": "self, other"},
+    },
+    "joins": {
+        "Join": {"__init__": "self, world, name, copies", "world": "self", "name": "self", "copies": "self",
+                 "sides": "self, reading", "readings": "self", "split_readings": "self", "asked": "self",
+                 "joined": "self, choices=None, *, number=None", "mixed": "self, choices=None, *, number=None",
+                 "due": "self, name, own", "unseen": "self"},
+    },
+    "store": {
+        "Store": {"__init__": "self, world", "world": "self", "last": "self", "put": "self, name, document",
+                  "copy_of": "self, name", "step": "self, name, program, edit=None", "fork": "self, name, new",
+                  "drop": "self, name", "merge": "self, new, program, names, choices=None", "undo": "self",
+                  "names": "self", "__len__": "self", "__contains__": "self, name", "__iter__": "self"},
+    },
+    "desk": {"Desk": {"__init__": "self, world", "store": "self", "run": "self, command"}},
 }
 
 BASES = {"Numbers": ["ValueSet"], "Texts": ["ValueSet"], "NumberMap": ["Map"], "TextMap": ["Map"]}
@@ -112,7 +149,8 @@ PROPERTIES = {
     "Write": ["leaves", "mapping", "own"], "Program": ["keeps", "name"], "World": [],
     "SourceList": ["end", "entries", "kind"], "Beginnings": ["anything", "new"], "Reached": ["beginnings", "world"],
     "ListGraph": ["first", "under"], "MarkedList": ["end", "entries", "kind", "mark", "settable"],
-    "Wishes": ["beginnings", "world"], "Adapters": ["chosen", "wishes"],
+    "Wishes": ["beginnings", "world"], "Adapters": ["chosen", "wishes"], "Admission": ["wishes"],
+    "Copy": ["known", "world"], "Join": ["name", "world"], "Store": ["last", "world"], "Desk": ["store"],
 }
 
 CLASS_VALUES = {"Program": {"MAX_OWN": 4}, "World": {"MAX_FIELDS": 8, "MAX_PROGRAMS": 8}}
