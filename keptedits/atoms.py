@@ -3,7 +3,7 @@
 All values of an atom are taken to themselves by a map of the world, or all to one value.
 """
 
-from keptedits.sets import Numbers, Texts
+from keptedits.sets import Texts, numbers_of_stretches
 
 
 class NumberAtoms:
@@ -34,7 +34,8 @@ class NumberAtoms:
 
     def values_of(self, bits):
         """Return the set of the values of some atoms."""
-        return Numbers([stretch for spot, stretch in enumerate(self._stretches) if bits >> spot & 1])
+        found = [stretch for spot, stretch in enumerate(self._stretches) if bits >> spot & 1]
+        return numbers_of_stretches(found)
 
     def bit_of(self, value):
         """Return the bit of the atom of an integer."""

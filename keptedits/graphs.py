@@ -1,12 +1,10 @@
 """List graphs: all lists that come from one by putting it back over rows of any length."""
 
 from keptedits.checks import check_row
-from keptedits.errors import TooMany, UnknownList
+from keptedits.errors import UnknownList
 from keptedits.lists import SourceList, parting
 from keptedits.putting import check_list, field_list
-from keptedits.tables import ListTable, list_key
-
-MOST_LISTS = 3000
+from keptedits.tables import table_for
 
 
 class ListGraph:
@@ -16,11 +14,8 @@ class ListGraph:
         check_list(world, first)
         self._first = first
         self._under = names_under(world, programs)
-        table = ListTable(world, first.kind)
-        found = _rows_of_lists(table, self._under, table.short(first))
-        self._rows = [list(row) for row in found.values()]
-        self._lists = [table.list_of(short) for short in found]
-        self._places = {list_key(told): place for place, told in enumerate(self._lists)}
+        self._table = table_for(world, first)
+        self._found = self._table.rows_of_lists(self._under, self._table.short(first))
 
     @property
     def first(self):
@@ -34,22 +29,30 @@ class ListGraph:
 
     def lists(self):
         """Return all lists, by their rows."""
-        return list(self._lists)
+        return [self._table.list_of(short) for short in self._found]
 
     def rows(self):
         """Return the rows of the lists, by length, then in sorted order."""
-        return [list(row) for row in self._rows]
+        return [list(row) for row in self._found.values()]
 
     def row_to(self, value):
         """Return the row of a list."""
         if value not in self:
             raise UnknownList(value)
-        return list(self._rows[self._places[list_key(value)]])
+        return list(self._found[self._table.known_short(value)])
 
     def walk(self):
         """Yield the tuples (row, list), by the rows."""
-        for place, row in enumerate(self._rows):
-            yield (list(row), self._lists[place])
+        for short, row in self._found.items():
+            yield (list(row), self._table.list_of(short))
+
+    def table(self):
+        """Return the table that tells the lists."""
+        return self._table
+
+    def shorts(self):
+        """Return the tuples (row, list in the short form of the table), by the rows."""
+        return [(list(row), short) for short, row in self._found.items()]
 
     @staticmethod
     def is_before(one, other):
@@ -57,12 +60,12 @@ class ListGraph:
         return (len(one), list(one)) < (len(other), list(other))
 
     def __len__(self):
-        return len(self._lists)
+        return len(self._found)
 
     def __contains__(self, value):
         if not isinstance(value, SourceList) or value.kind != self._first.kind:
             return False
-        return list_key(value) in self._places
+        return self._table.known_short(value) in self._found
 
 
 def names_under(world, programs):
@@ -88,30 +91,10 @@ def parting_rows(world, one, other):
 
 
 def _first_apart(world, one, other):
-    tables = {kind: ListTable(world, kind) for kind in ("number", "text")}
     for field, kind in world.fields().items():
-        table = tables[kind]
+        table = world.list_table(kind)
         start = table.short(field_list(world, field))
         here, there = table.over(one, start), table.over(other, start)
         if here != there:
             return (field, parting(table.list_of(here), table.list_of(there)))
     return None
-
-
-def _rows_of_lists(table, names, start):
-    """Return the dict from all lists, in their short form, to their rows, in the sequence of the rows."""
-    found = {start: ()}
-    level = [start]
-    while level:
-        further = []
-        # Names, then lists by their rows, both ascending: so the first row of a list is the first in sorted order.
-        for name in names:
-            for short in level:
-                back = table.before(name, short)
-                if back not in found:
-                    if len(found) == MOST_LISTS:
-                        raise TooMany("lists", MOST_LISTS)
-                    found[back] = (name,) + found[short]
-                    further.append(back)
-        level = further
-    return found

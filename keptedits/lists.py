@@ -78,9 +78,19 @@ class SourceList:
         return (self._kind, self._entries, self._end)
 
 
+def normal_list(kind, entries, end):
+    """Return the source list of entries and an end that are known to be normal."""
+    found = SourceList(kind)
+    found._entries = tuple(entries)
+    found._end = end
+    return found
+
+
 def normal_entries(entries, constants, end):
     """Return the normal ones of some entries, which begin with a field, with the constants of their maps."""
     count = len(entries)
+    if constants.count(None) == count:
+        return list(entries)
     while end is not None and count > 0 and constants[count - 1] == end:
         count -= 1
     found = list(entries[:count])

@@ -1,7 +1,8 @@
 """Maps, which take each value of a kind to a value of this kind and never change."""
 
 from keptedits.errors import InvalidMap, InvalidValue, Unlike
-from keptedits.sets import Numbers, Texts, check_set, is_name, is_number, is_stretch, is_value, is_within
+from keptedits.sets import (
+    Texts, check_set, is_name, is_number, is_stretch, is_value, is_within, numbers_of_stretches)
 
 
 class Map:
@@ -126,11 +127,11 @@ class NumberMap(Map):
         for stretch in values.stretches():
             for first, last, what in pieces_within(self._pieces, stretch[0], stretch[1]):
                 found.append((first, last) if what is None else (what, what))
-        return Numbers(found)
+        return numbers_of_stretches(found)
 
     def _origins(self, values):
-        untouched = Numbers([(first, last) for first, last, what in self._pieces if what is None])
-        fixed = Numbers([(first, last) for first, last, what in self._pieces if what in values])
+        untouched = numbers_of_stretches([(first, last) for first, last, what in self._pieces if what is None])
+        fixed = numbers_of_stretches([(first, last) for first, last, what in self._pieces if what in values])
         return fixed.united(untouched.shared(values))
 
     def _differing(self, other):
@@ -138,7 +139,7 @@ class NumberMap(Map):
         for first, last, what in self._pieces:
             for low, high, other_what in pieces_within(other._pieces, first, last):
                 found.extend(_stretches_apart(low, high, what, other_what))
-        return Numbers(found)
+        return numbers_of_stretches(found)
 
     def _content(self):
         return self._pieces

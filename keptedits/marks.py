@@ -1,10 +1,9 @@
 """Marked lists: source lists put back before an edited pass, which know what the edit gives."""
 
 from keptedits.errors import InvalidValue, NotRemovable, NotSettable, Unlike
-from keptedits.lists import SourceList, normal_entries
 from keptedits.maps import NumberMap, TextMap, pieces_within
-from keptedits.putting import check_list, pass_lists
-from keptedits.tables import MapTable
+from keptedits.putting import check_list
+from keptedits.tables import table_for
 
 
 class MarkedList:
@@ -13,8 +12,8 @@ class MarkedList:
     Its objects are made by edited_list.
     """
 
-    def __init__(self, first, entries, end, mark, settable):
-        self._kind = first.kind
+    def __init__(self, kind, entries, end, mark, settable):
+        self._kind = kind
         self._entries = tuple(entries)
         self._end = end
         self._mark = mark
@@ -56,10 +55,6 @@ class MarkedList:
                 return mapping.at(document[field])
         return self._end if self._mark is None else self._mark.at(value)
 
-    def has_mark_of(self, other):
-        """Tell whether both marks take each settable value to the same one, or both have none."""
-        return self._mark_told == other._mark_told
-
     def alike(self, other):
         """Tell whether both have the same value at all documents and set values."""
         if not isinstance(other, MarkedList) or self._settable != other._settable:
@@ -76,57 +71,81 @@ class MarkedList:
 
 
 class EditedPass:
-    """A pass of a program in which one own field is edited, before which lists are put."""
+    """A pass of a program in which one own field is edited, before which lists in the short form of a table are put.
 
-    def __init__(self, world, name, own):
+    A marked list is a tuple (entries, end, number of the mark) here, of which the end or the mark is None.
+    """
+
+    def __init__(self, world, name, own, table):
         program = world.program(name)
-        self._settable = program.own_field(own).settable
-        self._lists = pass_lists(world, name)
+        own_field = program.own_field(own)
+        self._writer = name
+        self._settable = own_field.settable
+        self._table = table
         self._written = {}
+        self._is_unwritten = True
         for field, write in program.writes().items():
             if write is not None and write.own == own:
-                self._written[field] = write.mapping
-        self._maps = MapTable()
+                self._is_unwritten = False
+                # None for a write of another kind than that of the table, whose lists do not have its field.
+                self._written[field] = table.number_of_map(write.mapping) if table.kind == own_field.kind else None
+        self._marks = {}
 
     def writes_nothing(self):
         """Tell whether the program writes no field from the edited own field."""
-        return len(self._written) == 0
+        return self._is_unwritten
 
-    def marked(self, first):
-        """Return the marked list of a source list, put before an edit that gives a value."""
-        found, end, mark = self._put_through(first, True)
-        fixed = end if mark is None else mark.constant(self._settable)
-        if mark is not None and fixed is None:
-            constants = [mapping.constant() for _, mapping in found]
-            return MarkedList(first, normal_entries(found, constants, None), None, mark, self._settable)
-        told = SourceList(first.kind, found, fixed)
-        return MarkedList(first, told.entries, fixed, None, self._settable)
+    def settable_values(self):
+        """Return the settable values of the edited own field."""
+        return self._settable
 
-    def without(self, first):
-        """Return a source list, put before a removal."""
-        found, end, _ = self._put_through(first, False)
-        return SourceList(first.kind, found, end)
+    def marked(self, short):
+        """Return a list, put before an edit that gives a value."""
+        found, end, mark = self._put_through(short, True)
+        if mark is not None:
+            fixed = self._mark_parts(mark)[0]
+            end, mark = (None, mark) if fixed is None else (fixed, None)
+        entries, end = self._table.normal(found, end)
+        return (entries, end, mark)
 
-    def _put_through(self, first, is_given):
+    def without(self, short):
+        """Return a list, put before a removal, in its short form."""
+        found, end, _ = self._put_through(short, False)
+        return self._table.normal(found, end)
+
+    def mark_told(self, mark):
+        """Return what tells marks apart at the settable values, None for no mark."""
+        return None if mark is None else self._mark_parts(mark)[1]
+
+    def list_of(self, marked):
+        """Return the marked list of a tuple."""
+        entries = [(field, self._table.map_at(number)) for field, number in marked[0]]
+        mark = None if marked[2] is None else self._table.map_at(marked[2])
+        return MarkedList(self._table.kind, entries, marked[1], mark, self._settable)
+
+    def _mark_parts(self, mark):
+        """Return the one value to which a mark takes all settable values, or None, and what tells it apart."""
+        if mark not in self._marks:
+            mapping = self._table.map_at(mark)
+            self._marks[mark] = (mapping.constant(self._settable), _confined(mapping, self._settable).parts())
+        return self._marks[mark]
+
+    def _put_through(self, short, is_given):
         """Return the entries, the end and the mark of a list put before the edit, which gives a value or removes."""
         found, seen = [], {}
-        for field, mapping in first.entries:
+        for field, number in short[0]:
             if field in self._written:
                 if is_given:
-                    return found, None, self._followed(self._written[field], mapping)
+                    return found, None, self._table.followed(self._written[field], number)
                 continue
-            for source, behind in self._lists[field].entries:
-                if source not in seen:
-                    seen[source] = True
-                    found.append((source, self._followed(behind, mapping)))
-            end = self._lists[field].end
+            put_back, end = self._table.entries_before(self._writer, field, number)
+            for entry in put_back:
+                if entry[0] not in seen:
+                    seen[entry[0]] = True
+                    found.append(entry)
             if end is not None:
-                return found, mapping.at(end), None
-        return found, first.end, None
-
-    def _followed(self, one, other):
-        # Many lists are put before one edit, with few maps.
-        return self._maps.map_at(self._maps.followed(self._maps.number_of(one), self._maps.number_of(other)))
+                return found, end, None
+        return found, short[1], None
 
 
 def edited_list(world, name, own, first):
@@ -135,7 +154,9 @@ def edited_list(world, name, own, first):
     if own_field.settable.is_empty:
         raise NotSettable(own)
     check_list(world, first)
-    return EditedPass(world, name, own).marked(first)
+    table = table_for(world, first)
+    step = EditedPass(world, name, own, table)
+    return step.list_of(step.marked(table.short(first)))
 
 
 def removed_list(world, name, own, first):
@@ -144,7 +165,8 @@ def removed_list(world, name, own, first):
     if not own_field.removable:
         raise NotRemovable(own)
     check_list(world, first)
-    return EditedPass(world, name, own).without(first)
+    table = table_for(world, first)
+    return table.list_of(EditedPass(world, name, own, table).without(table.short(first)))
 
 
 def _confined(mapping, values):

@@ -132,7 +132,7 @@ class Program:
 
     def own_field(self, own):
         """Return the own field of a name."""
-        if not is_name(own) or own not in self._own_fields:
+        if not isinstance(own, str) or own not in self._own_fields:
             raise UnknownOwn(own)
         return self._own_fields[own]
 

@@ -4,7 +4,7 @@ from keptedits.checks import check_row
 from keptedits.errors import InvalidList
 from keptedits.lists import SourceList
 from keptedits.maps import same_map
-from keptedits.tables import ListTable
+from keptedits.tables import table_for
 
 
 def own_list(world, name, own):
@@ -22,9 +22,11 @@ def field_list(world, field):
 def pass_lists(world, name):
     """Return the dict from the fields to the lists of their values behind a pass, sorted."""
     world.program(name)
-    fields = world.fields()
-    tables = {kind: ListTable(world, kind) for kind in sorted(set(list(fields.values())))}
-    return {field: tables[kind].list_of(tables[kind].behind(name, field)) for field, kind in fields.items()}
+    found = {}
+    for field, kind in world.fields().items():
+        table = world.list_table(kind)
+        found[field] = table.list_of(table.behind(name, field))
+    return found
 
 
 def put_back(world, name, first):
@@ -52,5 +54,5 @@ def check_list(world, first):
 
 
 def _over(row, world, first):
-    table = ListTable(world, first.kind)
+    table = table_for(world, first)
     return table.list_of(table.over(row, table.short(first)))

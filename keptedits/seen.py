@@ -35,17 +35,18 @@ def echo_here(reached, writer, edited, name, own):
 
 def problem_in(world, graph, writer, edited):
     """Return the problem of an edit for the reader of a list graph under all programs."""
-    step = EditedPass(world, writer, edited)
-    first = step.marked(graph.first)
+    step = EditedPass(world, writer, edited, graph.table())
+    shorts = graph.shorts()
+    first = step.marked(shorts[0][1])
     kind = _first_kind(step, first)
     if kind is not None:
-        return (kind, [], {}, first.settable.least())
-    for row, told in graph.walk():
-        found = step.marked(told)
-        kind = _kind_of(found, first)
+        return (kind, [], {}, step.settable_values().least())
+    for row, short in shorts:
+        found = step.marked(short)
+        kind = _kind_of(step, found, first)
         if kind is not None:
-            document = _least_masked(found) if kind == "masked" else {}
-            return (kind, row, document, _least_missed(found, first, document))
+            document = _least_masked(found, graph.first.kind) if kind == "masked" else {}
+            return (kind, row, document, _least_missed(step.list_of(found), step.list_of(first), document))
     return None
 
 
@@ -54,13 +55,14 @@ def problem_here_in(reached, graph, writer, edited):
     if len(reached) == 0:
         return None
     here = Here(reached)
-    step = EditedPass(reached.world, writer, edited)
-    first = step.marked(graph.first)
+    step = EditedPass(reached.world, writer, edited, graph.table())
+    shorts = graph.shorts()
+    first = step.marked(shorts[0][1])
     kind = _first_kind(step, first)
     if kind is not None:
         return (kind, [], here.presence_at(0))
-    for row, told in graph.walk():
-        kind, place = _kind_here(here, step.marked(told), first)
+    for row, short in shorts:
+        kind, place = _kind_here(here, step, step.marked(short), first)
         if kind is not None:
             return (kind, row, here.presence_at(place))
     return None
@@ -71,9 +73,9 @@ def echo_in(world, graph, writer, edited):
     own_field = world.program(writer).own_field(edited)
     if own_field.default is None and len(own_field.sources) == 0:
         return None
-    step = EditedPass(world, writer, edited)
-    for row, told in graph.walk():
-        fields = step.without(told).fields()
+    step = EditedPass(world, writer, edited, graph.table())
+    for row, short in graph.shorts():
+        fields = [field for field, _ in step.without(short)[0]]
         if fields:
             presence = _least_echoed(own_field, sorted(fields))
             return (row, {field: full_set(world.kind_of_field(field)).least() for field in presence})
@@ -87,9 +89,9 @@ def echo_here_in(reached, graph, writer, edited):
     having = here.everywhere()
     if own_field.default is None:
         having = here.places_with([field for field, _ in own_field.sources])
-    step = EditedPass(reached.world, writer, edited)
-    for row, told in graph.walk():
-        places = having & here.places_with(step.without(told).fields())
+    step = EditedPass(reached.world, writer, edited, graph.table())
+    for row, short in graph.shorts():
+        places = having & here.places_with([field for field, _ in step.without(short)[0]])
         if places:
             return (row, here.presence_at(first_place(places)))
     return None
@@ -117,32 +119,35 @@ def _first_kind(step, first):
     """Return the kind of problem that the edit has without any row, None if it has none."""
     if step.writes_nothing():
         return "unwritten"
-    return "unread" if first.mark is None else None
+    return "unread" if first[2] is None else None
 
 
-def _kind_of(found, first):
+def _kind_of(step, found, first):
     """Return the kind of problem of a marked list beside that of the empty row, None if it has none."""
-    if found.mark is None:
+    entries, _, mark = found
+    if mark is None:
         return "lost"
-    if len(found.entries) > 0:
+    if entries:
         return "masked"
-    return None if found.alike(first) else "changed"
+    # The list of the empty row has a mark and no entry where a list behind it is looked at.
+    return None if step.mark_told(mark) == step.mark_told(first[2]) else "changed"
 
 
-def _kind_here(here, found, first):
+def _kind_here(here, step, found, first):
     """Return the kind of problem of a marked list and the first place that has it, (None, None) if it has none."""
-    if found.mark is None:
+    entries, _, mark = found
+    if mark is None:
         return "lost", 0
-    masked = here.places_with([field for field, _ in found.entries])
-    if not found.has_mark_of(first):
+    masked = here.places_with([field for field, _ in entries])
+    if step.mark_told(mark) != step.mark_told(first[2]):
         # Every presence has a problem, the first one, too.
         return ("masked", 0) if masked & 1 else ("changed", 0)
     return ("masked", first_place(masked)) if masked else (None, None)
 
 
-def _least_masked(found):
+def _least_masked(found, kind):
     """Return the document with only the first field of an entry, with its least value."""
-    return {min([field for field, _ in found.entries]): full_set(found.kind).least()}
+    return {min([field for field, _ in found[0]]): full_set(kind).least()}
 
 
 def _least_missed(found, first, document):

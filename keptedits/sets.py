@@ -14,9 +14,9 @@ def is_number(value):
 
 def is_word(value, most):
     """Tell whether a value is a string of one to so many letters from a to z."""
-    if not isinstance(value, str) or not 1 <= len(value) <= most:
+    if not isinstance(value, str) or len(value) > most:
         return False
-    return all(["a" <= letter <= "z" for letter in value])
+    return value.isascii() and value.isalpha() and value.islower()
 
 
 def is_name(value):
@@ -85,12 +85,12 @@ class ValueSet:
     def shared(self, other):
         """Return the set of the values that are in both sets."""
         check_set(other, self.KIND)
-        return self._missing()._joined(other._missing())._missing()
+        return self._common(other)
 
     def without(self, other):
         """Return the set of the values that are not in the other set."""
         check_set(other, self.KIND)
-        return self._missing()._joined(other)._missing()
+        return self._common(other._missing())
 
     def __contains__(self, value):
         return is_value(value, self.KIND) and self._has(value)
@@ -141,10 +141,13 @@ class Numbers(ValueSet):
         return min([_nearest(first, last) for first, last in self._stretches], key=natural, default=None)
 
     def _missing(self):
-        return Numbers(_gaps(self._stretches))
+        return numbers_of_stretches(_gaps(self._stretches))
 
     def _joined(self, other):
-        return Numbers(self._stretches + other._stretches)
+        return numbers_of_stretches(self._stretches + other._stretches)
+
+    def _common(self, other):
+        return numbers_of_stretches(_shared_stretches(self._stretches, other._stretches))
 
     def _has(self, value):
         return any([is_within(value, first, last) for first, last in self._stretches])
@@ -212,11 +215,21 @@ class Texts(ValueSet):
             return Texts([word for word in other._words if word not in self._words], others=True)
         return Texts(self._words + other._words)
 
+    def _common(self, other):
+        return self._missing()._joined(other._missing())._missing()
+
     def _has(self, value):
         return (value in self._words) != self._others
 
     def _content(self):
         return (self._words, self._others)
+
+
+def numbers_of_stretches(stretches):
+    """Return the set of numbers of what is known to be a list of stretches."""
+    found = Numbers()
+    found._stretches = _merged(stretches)
+    return found
 
 
 def full_set(kind):
@@ -242,9 +255,9 @@ def check_set(value, kind):
 
 def is_stretch(first, last):
     """Tell whether two values are the bounds of a stretch."""
-    if not all([bound is None or is_number(bound) for bound in (first, last)]):
-        return False
-    return first is None or last is None or first <= last
+    if first is None:
+        return last is None or is_number(last)
+    return is_number(first) and (last is None or (is_number(last) and first <= last))
 
 
 def is_within(value, first, last):
@@ -258,6 +271,8 @@ def _is_stretch_tuple(value):
 
 def _merged(stretches):
     """Return the longest stretches, ascending, of stretches that may touch and overlap."""
+    if len(stretches) < 2:
+        return tuple(stretches)
     found = []
     for first, last in sorted(stretches, key=_place):
         if found and _reaches(found[-1][1], first):
@@ -280,6 +295,25 @@ def _reaches(last, first):
 
 def _later(one, other):
     return None if one is None or other is None else max(one, other)
+
+
+def _shared_stretches(stretches, others):
+    """Return the stretches that lie in stretches of both of two ascending lists."""
+    found = []
+    at, other_at = 0, 0
+    while at < len(stretches) and other_at < len(others):
+        first, last = stretches[at]
+        other_first, other_last = others[other_at]
+        low = other_first if first is None or (other_first is not None and other_first > first) else first
+        is_first_done = last is not None and (other_last is None or last <= other_last)
+        high = last if is_first_done else other_last
+        if low is None or high is None or low <= high:
+            found.append((low, high))
+        if is_first_done:
+            at += 1
+        else:
+            other_at += 1
+    return found
 
 
 def _gaps(stretches):

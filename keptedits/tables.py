@@ -1,15 +1,17 @@
 """Maps and source lists in a short form, for putting lists back many times before the passes of one world."""
 
-from keptedits.lists import SourceList, normal_entries
-from keptedits.maps import same_map
+from keptedits.cells import cells_for
+from keptedits.errors import TooMany
+from keptedits.lists import normal_entries, normal_list
+
+MOST_LISTS = 3000
 
 
 class MapTable:
-    """Maps of one kind, each with a number; two of them are put one behind the other just once."""
+    """Maps, each with a number; two of them are put one behind the other just once."""
 
     def __init__(self):
         self._maps = []
-        self._constants = []
         self._numbers = {}
         self._composed = {}
 
@@ -19,16 +21,11 @@ class MapTable:
         if told not in self._numbers:
             self._numbers[told] = len(self._maps)
             self._maps.append(mapping)
-            self._constants.append(mapping.constant())
         return self._numbers[told]
 
     def map_at(self, number):
         """Return the map of a number."""
         return self._maps[number]
-
-    def constant_at(self, number):
-        """Return the one value to which the map of a number takes all values, None if there is none."""
-        return self._constants[number]
 
     def followed(self, one, other):
         """Return the number of the map of one number, then that of the other."""
@@ -39,23 +36,84 @@ class MapTable:
 
 
 class ListTable:
-    """Normal lists of one kind, in a short form: a tuple (tuple of (field, number of a map), end)."""
+    """Normal lists of one kind, in a short form: a tuple (tuple of (field, number of a map), end).
 
-    def __init__(self, world, kind):
+    Maps are kept as the tuples of places of their cells, which are quickly put one behind the other.
+    """
+
+    def __init__(self, world, kind, lists=()):
         self._world = world
         self._list_kind = kind
-        self._maps = MapTable()
-        self._same = self._maps.number_of(same_map(kind))
+        self._cells = cells_for(world, kind, lists)
+        self._takings = []
+        self._constants = []
+        self._numbers = {}
+        self._maps = {}
+        self._same = self._number_of(tuple(range(self._cells.count_cells())))
         self._lists_behind = {}
         self._lists_before = {}
+        self._entries_before = {}
+        self._lists = {}
+
+    @property
+    def kind(self):
+        """The kind of the lists."""
+        return self._list_kind
+
+    def known_short(self, told):
+        """Return the short form of a source list, None if the table has no number for one of its maps."""
+        found = []
+        for field, mapping in told.entries:
+            found = found + [(field, self._numbers.get(self._cells.places_taken(mapping)))]
+        if None in [number for _, number in found]:
+            return None
+        return (tuple(found), told.end)
 
     def short(self, told):
-        """Return the short form of a source list."""
-        return (tuple([(field, self._maps.number_of(mapping)) for field, mapping in told.entries]), told.end)
+        """Return the short form of a source list, None if the cells of the table do not suffice to tell it."""
+        found = []
+        for field, mapping in told.entries:
+            number = self.number_of_map(mapping)
+            if number is None:
+                return None
+            found.append((field, number))
+        return None if self._is_strange(told.end) else (tuple(found), told.end)
 
     def list_of(self, short):
         """Return the source list of a short form."""
-        return SourceList(self._list_kind, [(field, self._maps.map_at(number)) for field, number in short[0]], short[1])
+        if short not in self._lists:
+            entries = [(field, self.map_at(number)) for field, number in short[0]]
+            self._lists[short] = normal_list(self._list_kind, entries, short[1])
+        return self._lists[short]
+
+    def number_of_map(self, mapping):
+        """Return the number of a map, None if the cells of the table do not suffice to tell it."""
+        taking = self._cells.places_taken(mapping)
+        return None if taking is None else self._number_of(taking)
+
+    def map_at(self, number):
+        """Return the map of a number."""
+        if number not in self._maps:
+            self._maps[number] = self._cells.map_of(self._takings[number])
+        return self._maps[number]
+
+    def constant_at(self, number):
+        """Return the one value to which the map of a number takes all values, None if there is none."""
+        return self._constants[number]
+
+    def value_taken(self, number, value):
+        """Return the value to which the map of a number takes a value of the table."""
+        return self._cells.value_at(self._takings[number][self._cells.place_of(value)])
+
+    def followed(self, one, other):
+        """Return the number of the map of one number, then that of the other."""
+        behind = self._takings[other]
+        return self._number_of(tuple([behind[place] for place in self._takings[one]]))
+
+    def normal(self, entries, end):
+        """Return the short form of a list with some entries and an end."""
+        constants = [self._constants[number] for _, number in entries]
+        return (tuple(normal_entries(entries, constants, end)), end)
 
     def behind(self, name, field):
         """Return the list of the value of a field behind a pass."""
@@ -78,22 +136,60 @@ class ListTable:
             found = self.before(name, found)
         return found
 
-    def _put_through(self, name, short):
-        found, seen = [], {}
-        for field, number in short[0]:
-            sources, end = self.behind(name, field)
-            for source, behind in sources:
-                if source not in seen:
-                    seen[source] = True
-                    found.append((source, self._maps.followed(behind, number)))
-            if end is not None:
-                # Behind the pass this field is always present, so no later entry decides.
-                return self._normal(found, self._maps.map_at(number).at(end))
-        return self._normal(found, short[1])
+    def rows_of_lists(self, names, start):
+        """Return the dict from all lists that come from one to their rows, in the sequence of the rows."""
+        found = {start: ()}
+        level = [start]
+        while level:
+            further = []
+            # Names, then lists by their rows, both ascending: so the first row of a list is the first in sorted order.
+            for name in names:
+                for short in level:
+                    back = self._put_through(name, short)
+                    if back not in found:
+                        if len(found) == MOST_LISTS:
+                            raise TooMany("lists", MOST_LISTS)
+                        found[back] = (name,) + found[short]
+                        further.append(back)
+            level = further
+        return found
 
-    def _normal(self, entries, end):
-        constants = [self._maps.constant_at(number) for _, number in entries]
-        return (tuple(normal_entries(entries, constants, end)), end)
+    def entries_before(self, name, field, number):
+        """Return what an entry becomes when it is put back: the entries, and the end or None."""
+        asked = (name, field, number)
+        if asked not in self._entries_before:
+            entries, end = self.behind(name, field)
+            taken = None if end is None else self.value_taken(number, end)
+            self._entries_before[asked] = ([(source, self.followed(one, number)) for source, one in entries], taken)
+        return self._entries_before[asked]
+
+    def _put_through(self, name, short):
+        entries, end = short
+        if len(entries) == 1:
+            found, taken = self.entries_before(name, entries[0][0], entries[0][1])
+            return self.normal(found, end if taken is None else taken)
+        found, seen = [], {}
+        for field, number in entries:
+            put_back, taken = self.entries_before(name, field, number)
+            for entry in put_back:
+                if entry[0] not in seen:
+                    seen[entry[0]] = True
+                    found.append(entry)
+            if taken is not None:
+                # Behind the pass this field is always present, so no later entry decides.
+                return self.normal(found, taken)
+        return self.normal(found, end)
+
+    def _number_of(self, taking):
+        if taking not in self._numbers:
+            self._numbers[taking] = len(self._takings)
+            self._takings.append(taking)
+            is_constant = taking.count(taking[0]) == len(taking)
+            self._constants.append(self._cells.value_at(taking[0]) if is_constant else None)
+        return self._numbers[taking]
+
+    def _is_strange(self, end):
+        return end is not None and self._cells.place_of(end) is None
 
     def _list_behind(self, program, field):
         writes = program.writes()
@@ -106,14 +202,15 @@ class ListTable:
 
     def _list_written(self, own, write, field):
         """Return the list of what a program writes into a field."""
-        last = self._maps.number_of(write.mapping)
-        entries = [(source, self._maps.followed(self._maps.number_of(one), last)) for source, one in own.sources]
-        end = None if own.default is None else write.mapping.at(own.default)
+        last = self.number_of_map(write.mapping)
+        entries = [(source, self.followed(self.number_of_map(one), last)) for source, one in own.sources]
+        end = None if own.default is None else self.value_taken(last, own.default)
         if write.leaves and end is None and field not in [source for source, _ in entries]:
             entries.append((field, self._same))
-        return self._normal(entries, end)
+        return self.normal(entries, end)
 
 
-def list_key(told):
-    """Return a tuple that tells source lists of one kind apart."""
-    return (tuple([(field, mapping.parts()) for field, mapping in told.entries]), told.end)
+def table_for(world, told):
+    """Return a table of a world that can tell a source list."""
+    table = world.list_table(told.kind)
+    return ListTable(world, told.kind, [told]) if table.short(told) is None else table

@@ -7,7 +7,7 @@ from keptedits.lists import parting
 from keptedits.putting import own_list
 from keptedits.reached import Beginnings, Reached
 from keptedits.seen import echo_here_in, echo_in, problem_here_in, problem_in
-from keptedits.sets import is_name, is_number, is_set
+from keptedits.sets import is_number, is_set
 from keptedits.sure import shown, way_showing, way_unlike, way_without
 from keptedits.worlds import World
 
@@ -28,6 +28,7 @@ class Wishes:
         self._world = world
         self._beginnings = beginnings
         self._wishes = list(wishes)
+        self._other_answers = None
 
     @property
     def world(self):
@@ -47,7 +48,7 @@ class Wishes:
         """Return the fault of a wish in this or another world, None if it holds there."""
         if not is_number(position) or not 0 <= position < len(self._wishes):
             raise InvalidChoice(position)
-        return self._answers_in(world).fault(self._wishes[position])
+        return copied_fault(self._answers_in(world).fault_at(position, self._wishes[position]))
 
     def first_fault(self, world=None):
         """Return the tuple (position, fault) of the first wish that does not hold, None if all hold."""
@@ -61,9 +62,9 @@ class Wishes:
 
     def _first_fault(self, answers, positions):
         for position in positions:
-            found = answers.fault(self._wishes[position])
+            found = answers.fault_at(position, self._wishes[position])
             if found is not None:
-                return (position, found)
+                return (position, copied_fault(found))
         return None
 
     def __len__(self):
@@ -74,6 +75,12 @@ class Wishes:
             return self._own_answers
         if not isinstance(world, World) or world.fields() != self._world.fields():
             raise Unlike()
+        # One world is often asked for all wishes.
+        if self._other_answers is None or self._other_answers.world_asked() != world:
+            self._other_answers = self._made_answers(world)
+        return self._other_answers
+
+    def _made_answers(self, world):
         new = [name for name in self._beginnings.new if name in world]
         documents = self._beginnings.documents()
         beginnings = Beginnings(new=new, documents=documents, anything=self._beginnings.anything)
@@ -89,6 +96,11 @@ class Answers:
         self._beginnings = beginnings
         self._reached = None
         self._graphs = {}
+        self._faults = {}
+
+    def world_asked(self):
+        """Return the world in which the wishes are looked at."""
+        return self._world
 
     def reached(self):
         """Return what comes about in the world."""
@@ -97,8 +109,13 @@ class Answers:
             self._reached = Reached(self._world, self._beginnings)
         return self._reached
 
-    def fault(self, wish):
-        """Return the fault of a wish of the elder world, None if it holds."""
+    def fault_at(self, position, wish):
+        """Return the fault of the wish at a position, None if it holds."""
+        if position not in self._faults:
+            self._faults[position] = self._found_fault(wish)
+        return self._faults[position]
+
+    def _found_fault(self, wish):
         if not is_wish(self._world, wish):
             return ()
         kind, parts = wish[0], wish[1:]
@@ -185,6 +202,6 @@ def copied_fault(value):
 
 def own_or_none(world, name, own):
     """Return the own field of these names, None for any two values that name none."""
-    if name not in world or not is_name(own):
+    if name not in world or not isinstance(own, str):
         return None
     return world.program(name).own_fields().get(own)

@@ -3,6 +3,7 @@
 from keptedits.errors import InvalidWorld, UnknownField, UnknownProgram
 from keptedits.programs import Program
 from keptedits.sets import is_kind, is_name
+from keptedits.tables import ListTable
 
 
 class World:
@@ -19,6 +20,7 @@ class World:
         _check_programs(programs, fields)
         self._fields = {field: fields[field] for field in sorted(fields)}
         self._programs = {program.name: program for program in programs}
+        self._tables = {}
 
     def fields(self):
         """Return the dict from the fields to their kinds, sorted."""
@@ -40,9 +42,16 @@ class World:
 
     def kind_of_field(self, field):
         """Return the kind of a field."""
-        if not is_name(field) or field not in self._fields:
+        if not isinstance(field, str) or field not in self._fields:
             raise UnknownField(field)
         return self._fields[field]
+
+    def list_table(self, kind):
+        """Return the table for putting lists of a kind back before passes of this world."""
+        # The world never changes, so what was found once can be used again.
+        if kind not in self._tables:
+            self._tables[kind] = ListTable(self, kind)
+        return self._tables[kind]
 
     def only(self, *names):
         """Return the world with just these programs, in the sequence of this world."""
@@ -58,7 +67,7 @@ class World:
         return World(self._fields, [program if one.name == program.name else one for one in self.programs()])
 
     def __contains__(self, name):
-        return is_name(name) and name in self._programs
+        return isinstance(name, str) and name in self._programs
 
     def __len__(self):
         return len(self._programs)

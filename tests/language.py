@@ -18,7 +18,7 @@ ALL_BUILTINS = set(dir(builtins)) - {"_"}
 
 METHODS = set("""append clear copy count endswith extend find get index insert isalnum isalpha isdigit islower isspace
     isupper items join keys ljust lower lstrip partition pop remove replace reverse rfind rjust rpartition rsplit rstrip
-    setdefault split splitlines startswith strip update upper values zfill bit_length add discard""".split())
+    setdefault split splitlines startswith strip update upper values zfill bit_length add discard isascii""".split())
 
 MODIFYING = set("append clear extend insert pop remove reverse setdefault update add discard".split())
 

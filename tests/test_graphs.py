@@ -2,14 +2,17 @@
 
 import random
 import unittest
+from itertools import product
 from unittest import mock
 
 from keptedits.errors import InvalidList, InvalidRow, TooMany, UnknownList
 from keptedits.graphs import ListGraph, alike, parting_rows
+from keptedits.harms import harms, harms_here, is_safe, is_safe_here
 from keptedits.lists import SourceList, parting
 from keptedits.maps import NumberMap, TextMap
 from keptedits.programs import Own, Program, Write
 from keptedits.putting import field_list, over_row, own_list, put_back
+from keptedits.reached import Beginnings, Reached
 from keptedits.worlds import World
 from tests.brute import behind_row, rows_up_to, small_documents
 from tests.helpers import EqualToAll, KeptCase, drawn_list, drawn_world, odd_values
@@ -196,6 +199,68 @@ class AlikeTest(KeptCase):
                 here, there = [behind_row(world, row, document) for row in (one, other)]
                 self.assertNotEqual(here.get(field), there.get(field))
         self.assertEqual(set(told), {True, False})
+
+
+def three_programs(ring):
+    """Return a world of three programs that turn texts: one in a ring, one in another one, and one just a text."""
+    programs = []
+    for name, exceptions in [("ring", ring), ("two", {"a": "b", "b": "a"}), ("one", {"a": "b"})]:
+        programs.append(Program(name, {"f": Own("text", [("a", TEXT)])}, {"a": Write("f", TextMap(exceptions))}))
+    return World({"a": "text", "b": "text"}, programs)
+
+
+class AllFunctionsTest(KeptCase):
+    """Lists with all functions of a few texts."""
+
+    def test_more_than_3000_lists(self):
+        world = three_programs({"a": "b", "b": "ab", "ab": "zz", "zz": "c", "c": "a"})
+        here = Reached(world, Beginnings(documents=[{}]))
+        for call in (lambda: ListGraph(world, own_list(world, "ring", "f")), lambda: harms(world, "two", "f"),
+                     lambda: is_safe(world, "ring", "f", None), lambda: harms_here(here, "one", "f"),
+                     lambda: is_safe_here(here, "one", "f")):
+            self.assert_error(TooMany("lists", 3000), call)
+
+    def test_256_lists(self):
+        world = three_programs({"a": "b", "b": "ab", "ab": "zz", "zz": "a"})
+        first = own_list(world, "ring", "f")
+        graph = ListGraph(world, first)
+        self.assertEqual((len(graph), len({repr(one) for one in graph.lists()})), (256, 256))
+        for row, one in graph.walk():
+            self.assertEqual(over_row(world, row, first), one)
+            self.assertEqual(graph.row_to(one), row)
+            for name in world.names():
+                back = put_back(world, name, one)
+                self.assertTrue(back in graph)
+                self.assertFalse(ListGraph.is_before([name] + row, graph.row_to(back)))
+        # All functions of four texts are there: each text may be taken to each one.
+        texts = ["a", "b", "ab", "zz"]
+        found = {tuple(one.at({"a": text}) for text in texts) for one in graph.lists()}
+        self.assertEqual(found, set(product(texts, repeat=4)))
+        self.assertEqual(harms(world, "two", "f"), [("changed", ["one"], {"a": "a"}, "a", "b")])
+
+
+class StrangeListsTest(KeptCase):
+    """Lists with maps and ends of which the world knows nothing."""
+
+    def test_lists_beside_the_world(self):
+        world = three_programs({"a": "b", "b": "a"})
+        strange = SourceList("text", [("a", TextMap({"q": "r"}, "s")), ("b", TextMap({"a": "q"}))], "t")
+        graph = ListGraph(world, strange)
+        self.assertIn(strange, graph)
+        for row, one in graph.walk():
+            self.assertEqual(over_row(world, row, strange), one)
+        for other in [SourceList("text", [("a", TextMap({"q": "x"}, "s")), ("b", TEXT)], "t"), SourceList("text", (), "x"), SourceList("text"),
+                      SourceList("number"), SourceList("text", [("gone", TEXT)])]:
+            self.assertNotIn(other, graph)
+            self.assert_error(UnknownList(other), graph.row_to, other)
+        numbers = World({"a": "number"}, [Program("cut", {"x": Own("number", [("a", LOW)])}, {"a": Write("x", SAME)})])
+        first = SourceList("number", [("a", NumberMap([(None, -5, 7), (-4, 3, None), (4, None, -9)]))], 1000)
+        graph = ListGraph(numbers, first)
+        self.assertEqual(graph.rows(), [[], ["cut"]])
+        self.assertEqual(graph.lists()[1], SourceList("number", [("a", NumberMap([(None, 0, 0), (1, 3, None), (4, None, -9)]))], 1000))
+        for other in [SourceList("number", [("a", NumberMap([(None, -5, 7), (-4, 2, None), (3, None, -9)]))], 1000),
+                      SourceList("number", [("a", NumberMap([(None, -5, 8), (-4, 3, None), (4, None, -9)]))], 1000)]:
+            self.assertNotIn(other, graph)
 
 
 if __name__ == "__main__":
