@@ -133,18 +133,13 @@ class EditedPass:
     def _put_through(self, short, is_given):
         """Return the entries, the end and the mark of a list put before the edit, which gives a value or removes."""
         found, seen = [], {}
-        for field, number in short[0]:
-            if field in self._written:
-                if is_given:
-                    return found, None, self._table.followed(self._written[field], number)
-                continue
-            put_back, end = self._table.entries_before(self._writer, field, number)
-            for entry in put_back:
-                if entry[0] not in seen:
-                    seen[entry[0]] = True
-                    found.append(entry)
-            if end is not None:
-                return found, end, None
+        for entry in short[0]:
+            if entry[0] not in self._written:
+                end = self._table.put_entry_back(self._writer, entry, found, seen)
+                if end is not None:
+                    return found, end, None
+            elif is_given:
+                return found, None, self._table.followed(self._written[entry[0]], entry[1])
         return found, short[1], None
 
 

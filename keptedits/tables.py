@@ -49,10 +49,10 @@ class ListTable:
         self._constants = []
         self._numbers = {}
         self._maps = {}
+        self._composed = {}
         self._same = self._number_of(tuple(range(self._cells.count_cells())))
         self._lists_behind = {}
         self._lists_before = {}
-        self._entries_before = {}
         self._lists = {}
 
     @property
@@ -107,8 +107,11 @@ class ListTable:
 
     def followed(self, one, other):
         """Return the number of the map of one number, then that of the other."""
-        behind = self._takings[other]
-        return self._number_of(tuple([behind[place] for place in self._takings[one]]))
+        pair = (one, other)
+        if pair not in self._composed:
+            behind = self._takings[other]
+            self._composed[pair] = self._number_of(tuple([behind[place] for place in self._takings[one]]))
+        return self._composed[pair]
 
     def normal(self, entries, end):
         """Return the short form of a list with some entries and an end."""
@@ -154,31 +157,23 @@ class ListTable:
             level = further
         return found
 
-    def entries_before(self, name, field, number):
-        """Return what an entry becomes when it is put back: the entries, and the end or None."""
-        asked = (name, field, number)
-        if asked not in self._entries_before:
-            entries, end = self.behind(name, field)
-            taken = None if end is None else self.value_taken(number, end)
-            self._entries_before[asked] = ([(source, self.followed(one, number)) for source, one in entries], taken)
-        return self._entries_before[asked]
+    def put_entry_back(self, name, entry, found, seen):
+        """Add what an entry becomes, put back, to entries with other fields; return the end that it has then, or None."""
+        sources, end = self.behind(name, entry[0])
+        for source, number in sources:
+            if source not in seen:
+                seen[source] = True
+                found.append((source, self.followed(number, entry[1])))
+        return None if end is None else self.value_taken(entry[1], end)
 
     def _put_through(self, name, short):
-        entries, end = short
-        if len(entries) == 1:
-            found, taken = self.entries_before(name, entries[0][0], entries[0][1])
-            return self.normal(found, end if taken is None else taken)
         found, seen = [], {}
-        for field, number in entries:
-            put_back, taken = self.entries_before(name, field, number)
-            for entry in put_back:
-                if entry[0] not in seen:
-                    seen[entry[0]] = True
-                    found.append(entry)
-            if taken is not None:
+        for entry in short[0]:
+            end = self.put_entry_back(name, entry, found, seen)
+            if end is not None:
                 # Behind the pass this field is always present, so no later entry decides.
-                return self.normal(found, taken)
-        return self.normal(found, end)
+                return self.normal(found, end)
+        return self.normal(found, short[1])
 
     def _number_of(self, taking):
         if taking not in self._numbers:
