@@ -272,7 +272,7 @@ def _is_stretch_tuple(value):
 def _merged(stretches):
     """Return the longest stretches, ascending, of stretches that may touch and overlap."""
     if len(stretches) < 2:
-        return tuple(stretches)
+        return tuple([(first, last) for first, last in stretches])
     found = []
     for first, last in sorted(stretches, key=_place):
         if found and _reaches(found[-1][1], first):

@@ -158,7 +158,7 @@ class ListTable:
         return found
 
     def put_entry_back(self, name, entry, found, seen):
-        """Add what an entry becomes, put back, to entries with other fields; return the end that it has then, or None."""
+        """Add what an entry becomes to entries with other fields; return the end that it brings, or None."""
         sources, end = self.behind(name, entry[0])
         for source, number in sources:
             if source not in seen:
