@@ -97,10 +97,6 @@ class ListTable:
             self._maps[number] = self._cells.map_of(self._takings[number])
         return self._maps[number]
 
-    def constant_at(self, number):
-        """Return the one value to which the map of a number takes all values, None if there is none."""
-        return self._constants[number]
-
     def value_taken(self, number, value):
         """Return the value to which the map of a number takes a value of the table."""
         return self._cells.value_at(self._takings[number][self._cells.place_of(value)])
