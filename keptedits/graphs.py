@@ -14,8 +14,8 @@ class ListGraph:
         check_list(world, first)
         self._first = first
         self._under = names_under(world, programs)
-        self._table = table_for(world, first)
-        self._found = self._table.rows_of_lists(self._under, self._table.short(first))
+        self._table, short = table_for(world, first)
+        self._found = self._table.rows_of_lists(self._under, short)
 
     @property
     def first(self):

@@ -83,11 +83,11 @@ class Join:
 
     def unseen(self):
         """Return the numbers that some copy knows and no own field of the world shows of any copy, sorted."""
-        seen = set()
+        seen = {}
         for program in self._world.programs():
             for own in program.own_fields():
                 for copy in self._copies:
-                    seen.add(copy.shown(program.name, own)[1])
+                    seen[copy.shown(program.name, own)[1]] = True
         return [number for number in self._all_known() if ("hand", number) not in seen]
 
     def _all_known(self):

@@ -149,9 +149,9 @@ def edited_list(world, name, own, first):
     if own_field.settable.is_empty:
         raise NotSettable(own)
     check_list(world, first)
-    table = table_for(world, first)
+    table, short = table_for(world, first)
     step = EditedPass(world, name, own, table)
-    return step.list_of(step.marked(table.short(first)))
+    return step.list_of(step.marked(short))
 
 
 def removed_list(world, name, own, first):
@@ -160,8 +160,8 @@ def removed_list(world, name, own, first):
     if not own_field.removable:
         raise NotRemovable(own)
     check_list(world, first)
-    table = table_for(world, first)
-    return table.list_of(EditedPass(world, name, own, table).without(table.short(first)))
+    table, short = table_for(world, first)
+    return table.list_of(EditedPass(world, name, own, table).without(short))
 
 
 def _confined(mapping, values):

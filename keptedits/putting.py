@@ -2,7 +2,7 @@
 
 from keptedits.checks import check_row
 from keptedits.errors import InvalidList
-from keptedits.lists import SourceList
+from keptedits.lists import SourceList, normal_entries, normal_list
 from keptedits.maps import same_map
 from keptedits.tables import table_for
 
@@ -10,7 +10,9 @@ from keptedits.tables import table_for
 def own_list(world, name, own):
     """Return the list of an own field of a program."""
     own_field = world.program(name).own_field(own)
-    return SourceList(own_field.kind, own_field.sources, own_field.default)
+    constants = [mapping.constant() for _, mapping in own_field.sources]
+    entries = normal_entries(own_field.sources, constants, own_field.default)
+    return normal_list(own_field.kind, entries, own_field.default)
 
 
 def field_list(world, field):
@@ -54,5 +56,5 @@ def check_list(world, first):
 
 
 def _over(row, world, first):
-    table = table_for(world, first)
-    return table.list_of(table.over(row, table.short(first)))
+    table, short = table_for(world, first)
+    return table.list_of(table.over(row, short))

@@ -202,6 +202,10 @@ class ListTable:
 
 
 def table_for(world, told):
-    """Return a table of a world that can tell a source list."""
+    """Return a table of a world that can tell a source list, and the short form of this list in it."""
     table = world.list_table(told.kind)
-    return ListTable(world, told.kind, [told]) if table.short(told) is None else table
+    short = table.short(told)
+    if short is None:
+        table = ListTable(world, told.kind, [told])
+        short = table.short(told)
+    return table, short
