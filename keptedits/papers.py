@@ -92,7 +92,7 @@ class PaperLists:
         self._first_kind = first.kind
         self._is_list = isinstance(lists, (list, tuple)) and all([_suits(world, told) for told in lists])
         if self._is_list:
-            for kind in self._shorts:
+            for kind in list(self._shorts):
                 some = [told for told in lists if told.kind == kind]
                 self._tables[kind] = ListTable(world, kind, some)
                 self._shorts[kind] = {self._tables[kind].short(told): True for told in some}

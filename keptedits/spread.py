@@ -122,7 +122,7 @@ class Spread:
             level.extend(self._found_by("new", name, 0))
         while level:
             further = []
-            for presence in level:
+            for presence in list(level):
                 for name in self._world.names():
                     further.extend(self._found_by("step", name, presence))
             level = further

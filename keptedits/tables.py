@@ -143,7 +143,7 @@ class ListTable:
             further = []
             # Names, then lists by their rows, both ascending: so the first row of a list is the first in sorted order.
             for name in names:
-                for short in level:
+                for short in list(level):
                     back = self._put_through(name, short)
                     if back not in found:
                         if len(found) == MOST_LISTS:

@@ -362,6 +362,59 @@ def is_iterated(node):
     return isinstance(owner, ast.Call) and isinstance(owner.func, ast.Attribute) and owner.func.attr == "join"
 
 
+def walked(node):
+    """Return the texts of what a loop goes over: names, attributes and items, through enumerate, items and choices."""
+    if isinstance(node, (ast.Name, ast.Attribute, ast.Subscript)):
+        return [ast.unparse(node)]
+    if called(node) in ("zip", "enumerate", "reversed"):
+        parts = node.args
+    elif isinstance(node, ast.Call) and isinstance(node.func, ast.Attribute):
+        parts = [node.func.value] if node.func.attr in ("items", "keys", "values") else []
+    else:
+        parts = [node.body, node.orelse] if isinstance(node, ast.IfExp) else getattr(node, "values", [])
+    return [text for part in parts for text in walked(part)]
+
+
+def shared_names(function):
+    """Return the dict from texts to the set of all texts that can be names of the same thing in a function."""
+    groups = {}
+    for node in ast.walk(function):
+        for target in getattr(node, "targets", []) if isinstance(node, ast.Assign) else []:
+            pairs = [(target, node.value)]
+            if isinstance(target, ast.Tuple) and isinstance(node.value, ast.Tuple):
+                pairs = zip(target.elts, node.value.elts)
+            for one, value in pairs:
+                for text in [] if isinstance(value, ast.Call) else walked(value):
+                    joined = {ast.unparse(one), text} | groups.get(ast.unparse(one), set()) | groups.get(text, set())
+                    groups.update({name: joined for name in joined})
+    return groups
+
+
+def changed(node):
+    """Return what a statement or a call changes, None if it changes nothing."""
+    if isinstance(node, ast.Subscript) and not isinstance(node.ctx, ast.Load):
+        return node.value
+    if isinstance(node, ast.AugAssign):
+        return node.target
+    if isinstance(node, ast.Call) and isinstance(node.func, ast.Attribute) and node.func.attr in MODIFYING | {"sort"}:
+        return node.func.value
+    return node.args[0] if called(node) in HEAP else None
+
+
+def loop_faults(source):
+    """L23: what a loop goes over is not changed in it, nor what can be the same by another name."""
+    found = []
+    for function in source.nodes(ast.FunctionDef):
+        groups = shared_names(function)
+        for node in ast.walk(function):
+            loops = [node] if isinstance(node, ast.For) else getattr(node, "generators", [])
+            told = {name for loop in loops for text in walked(loop.iter) for name in groups.get(text, {text})}
+            for inner in ast.walk(node) if told else []:
+                if changed(inner) is not None and ast.unparse(changed(inner)) in told:
+                    found.append(f"L23 line {inner.lineno}")
+    return found
+
+
 def class_use_faults(source, classes):
     """L18: a class is called, a base, or named in isinstance, except or raise."""
     found = []
@@ -444,5 +497,6 @@ def faults():
         told = size_faults(source) + import_faults(source, defined) + module_faults(source) + class_faults(source)
         told += function_faults(source) + statement_faults(source) + value_faults(source) + stored_set_faults(source)
         told += name_faults(source) + call_faults(source, own_methods) + class_use_faults(source, classes)
+        told += loop_faults(source)
         found += [f"{source.name}: {one}" for one in told]
     return found

@@ -42,6 +42,19 @@ class LanguageTest(unittest.TestCase):
                 with mock.patch.object(language, "PACKAGE", Path(folder)):
                     self.assertEqual(language.faults(), [f"a: L12 {name}"])
 
+    def test_what_loops_go_over_is_not_changed(self):
+        for thing, lines in [("x", ["for k in (thing):", "    x[k] = 1"]), ("x.items()", ["for k, v in (thing):", "    del x[k]"]),
+                             ("x.y", ["for k, v in enumerate((thing)):", "    if k:", "        x.y.append(v)"]),
+                             ("z", ["z = x", "while z:", "    y = []", "    for k in (thing):", "        y.extend(k)", "    z = y"]),
+                             ("x", ["return [x.pop() for k in (thing)]"])]:
+            for told, wanted in [(thing, 1), (f"list({thing})", 0)]:
+                text = "\n    ".join(["def f(x):"] + lines).replace("(thing)", told) + "\n"
+                with tempfile.TemporaryDirectory() as folder:
+                    Path(folder, "a.py").write_text(text, encoding="utf-8")
+                    with mock.patch.object(language, "PACKAGE", Path(folder)):
+                        found = [one for one in language.faults() if one.startswith("a: L23")]
+                self.assertEqual(len(found), wanted, text)
+
     def test_what_properties_run_changes_nothing(self):
         text = "class A:\n    @property\n    def x(self):\n        return self._f()\n\n    def _f(self):\n        self.y = 1\n"
         with tempfile.TemporaryDirectory() as folder:
