@@ -2,14 +2,14 @@
 
 from keptedits.checks import check_document
 from keptedits.copies import Copy, copy_behind
-from keptedits.errors import InvalidCopies, TooMany
+from keptedits.errors import InvalidCopies
 from keptedits.joins import are_apart, checked_choices
 from keptedits.passes import is_document, taken_steps, value_read, written
 from keptedits.sets import is_name
+from keptedits.states import FieldStates, rows_of_states
 from keptedits.tracks import Tracks
 from keptedits.trails import Link, Trail, bits_in, origins
 
-MOST_DOCUMENTS = 3000
 MOST_JOINED = 6
 
 
@@ -50,23 +50,10 @@ def is_by_hand(world, base, copy, name, own, steps):
 def drifts(world, document):
     """Return the tuples (row, document) of all documents that rows make of one, by the rows."""
     check_document(world, document)
+    states = FieldStates(world.fields())
     programs = [world.program(name) for name in sorted(world.names())]
-    start = {field: document[field] for field in document}
-    seen = set()
-    seen.add(_key_of(start))
-    found = [([], start)]
-    place = 0
-    while place < len(found):
-        row, ahead = found[place]
-        place += 1
-        for program in programs:
-            behind = written(world, program, ahead, {})
-            if _key_of(behind) not in seen:
-                if len(found) == MOST_DOCUMENTS:
-                    raise TooMany("documents", MOST_DOCUMENTS)
-                seen.add(_key_of(behind))
-                found.append((row + [program.name], behind))
-    return found
+    found = rows_of_states(programs, states, states.state_of(document))
+    return [(row, states.document_of(state)) for state, row in found.items()]
 
 
 def told_open(world, name, base, documents):
@@ -194,7 +181,3 @@ def _first_source(own_field, document):
         if field in document:
             return field
     return None
-
-
-def _key_of(document):
-    return tuple([(field, document[field]) for field in sorted(document)])

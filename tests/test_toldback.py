@@ -10,11 +10,12 @@ from keptedits.maps import NumberMap, TextMap
 from keptedits.passes import passed
 from keptedits.programs import Own, Program, Write
 from keptedits.sets import Numbers, Texts
+from keptedits.texts import parse_world
 from keptedits.toldback import drifts, is_by_hand, least_costs, past, told_joined, told_open, verdict
 from keptedits.worlds import World
 from tests import brute_copies
 from tests.brute import all_edits, all_own, behind_row, rows_up_to, small_world, told
-from tests.helpers import KeptCase, LikeName, drawn_document, drawn_value, odd_values
+from tests.helpers import KeptCase, LikeName, drawn_document, drawn_value, drawn_world, odd_values
 from tests.test_graphs import turning
 
 SAME = NumberMap.same()
@@ -203,6 +204,30 @@ class DriftsTest(KeptCase):
         self.assertEqual(len(drifts(fits, {"a": "aa", "b": "aa"})), 3000)
         self.assertEqual(len(drifts(turning(40), {"a": "aaa", "b": 1})), 40)
 
+    def test_many_documents(self):
+        world, document = rings_of_numbers([2, 2, 2, 3, 5, 5, 5])
+        found = drifts(world, document)
+        last = [f"k{letter}" for letter, size in zip("abcdefg", [2, 2, 2, 3, 5, 5, 5]) for _ in range(size - 1)]
+        self.assertEqual((len(found), found[0], found[-1]), (3000, ([], document), (last, {
+            "ka": 1, "kb": 1, "kc": 1, "kd": 2, "ke": 4, "kf": 4, "kg": 4})))
+        # A document is the sum of the passes that its row has of each ring.
+        for row, one in found:
+            self.assertEqual(one, {field: row.count(field) for field in document})
+            self.assertEqual(row, sorted(row))
+        self.assertEqual(found, sorted(found, key=lambda one: (len(one[0]), one[0])))
+        self.assertEqual(len({told(one) for _, one in found}), 3000)
+        for sizes in [[2, 2, 2, 3, 5, 5, 6], [3, 2, 2, 3, 5, 5, 5], [2, 2, 2, 2, 3, 3, 4, 6]]:
+            self.assert_error(TooMany("documents", 3000), drifts, *rings_of_numbers(sizes))
+
+    def test_what_is_returned_is_free(self):
+        world, document = rings_of_numbers([2, 3, 2])
+        found = drifts(world, document)
+        for row, one in found:
+            row.append("ka")
+            one.clear()
+        self.assertEqual(len({id(row) for row, _ in found} | {id(one) for _, one in found}), 24)
+        self.assertEqual([row for row, _ in drifts(world, document)][:4], [[], ["ka"], ["kb"], ["kc"]])
+
     def test_wrong_documents(self):
         for wrong in odd_values() + [{"gone": 1}]:
             if wrong != {}:
@@ -225,6 +250,39 @@ class DriftsTest(KeptCase):
                 self.assertEqual(behind_row(world, row, document), one)
                 for name in world.names():
                     self.assertIn(told(passed(world, name, one)), kept)
+
+    def test_drawn_worlds_pass_by_pass(self):
+        many = []
+        for seed in range(400):
+            draw = random.Random(seed)
+            world = drawn_world(draw)
+            document = drawn_document(draw, world)
+            wanted = {told(document): []}
+            for key, row in longer(wanted):
+                for name in sorted(world.names()):
+                    wanted.setdefault(told(passed(world, name, dict(key))), row + [name])
+            self.assertEqual(drifts(world, document), [(row, dict(key)) for key, row in wanted.items()])
+            many.append(len(wanted))
+        self.assertGreater(max(many), 20)
+
+
+def longer(found):
+    """Yield the items of a dict, also those that are added meanwhile."""
+    place = 0
+    while place < len(found):
+        yield list(found.items())[place]
+        place += 1
+
+
+def rings_of_numbers(sizes):
+    """Return a world in which each program turns a number of its own in a ring of one of the sizes, and all zeros."""
+    fields = [f"k{chr(97 + place)}" for place in range(len(sizes))]
+    lines = [f"field {field} number" for field in fields]
+    for field, size in zip(fields, sizes):
+        pieces = ["*..-1=0"] + [f"{at}..{at}={at + 1}" for at in range(size - 1)] + [f"{size - 1}..*=0"]
+        lines += [f"program {field} keep", "own f number none - no", f"source {field} *..*=same",
+                  f"write {field} f {','.join(pieces)} go"]
+    return parse_world("\n".join(lines) + "\n"), {field: 0 for field in fields}
 
 
 def ring(size):
