@@ -3,7 +3,7 @@
 All values of an atom are taken to themselves by a map of the world, or all to one value.
 """
 
-from keptedits.sets import Texts, numbers_of_stretches
+from keptedits.sets import numbers_of_stretches, texts_of_words
 
 
 class NumberAtoms:
@@ -20,6 +20,10 @@ class NumberAtoms:
             self._stretches.append((special, special))
             start = special + 1
         self._stretches.append((start, None))
+
+    def has_specials(self, values):
+        """Tell whether these integers are among the special ones."""
+        return all([value in self._spots for value in values])
 
     def everything(self):
         """Return the bits of all atoms."""
@@ -72,6 +76,10 @@ class TextAtoms:
         self._words = sorted(set(specials))
         self._spots = {word: spot for spot, word in enumerate(self._words)}
 
+    def has_specials(self, values):
+        """Tell whether these texts are among the special ones."""
+        return all([value in self._spots for value in values])
+
     def everything(self):
         """Return the bits of all atoms."""
         return (1 << (len(self._words) + 1)) - 1
@@ -85,7 +93,7 @@ class TextAtoms:
         """Return the set of the values of some atoms."""
         others = bits >> len(self._words) & 1 == 1
         told = [word for spot, word in enumerate(self._words) if (bits >> spot & 1 == 1) != others]
-        return Texts(told, others=others)
+        return texts_of_words(told, others)
 
     def bit_of(self, value):
         """Return the bit of the atom of a text."""
@@ -127,27 +135,46 @@ def taking_both(one, other):
 
 def atoms_of(world, documents):
     """Return the dict from the kinds to their atoms, for a world and some documents of it."""
+    kinds = world.fields()
+    return atoms_of_specials([specials_of_program(program) for program in world.programs()] +
+                             [specials_of_document(document, kinds) for document in documents])
+
+
+def atoms_of_specials(told):
+    """Return the dict from the kinds to their atoms, for some dicts from the kinds to special values."""
+    numbers = [special for one in told for special in one.get("number", [])]
+    texts = [special for one in told for special in one.get("text", [])]
+    return {"number": NumberAtoms(numbers), "text": TextAtoms(texts)}
+
+
+def specials_of_program(program):
+    """Return the dict from the kinds to the values that tell the maps, defaults and settable values of a program."""
     found = {"number": [], "text": []}
-    for program in world.programs():
-        for own in program.own_fields().values():
-            found[own.kind].extend(_told_by_own(own))
-        for write in program.writes().values():
-            if write is not None:
-                found[write.mapping.kind].extend(_told_by_map(write.mapping))
-    for document in documents:
-        for field, value in document.items():
-            found[world.kind_of_field(field)].append(value)
-    return {"number": NumberAtoms(found["number"]), "text": TextAtoms(found["text"])}
+    for own in program.own_fields().values():
+        found[own.kind].extend(_told_by_own(own))
+    for write in program.writes().values():
+        if write is not None:
+            found[write.mapping.kind].extend(specials_of_map(write.mapping))
+    return found
+
+
+def specials_of_document(document, kinds):
+    """Return the dict from the kinds to the values of a document."""
+    found = {"number": [], "text": []}
+    for field, value in document.items():
+        found[kinds[field]].append(value)
+    return found
 
 
 def _told_by_own(own):
     found = [] if own.default is None else [own.default]
     for _, mapping in own.sources:
-        found.extend(_told_by_map(mapping))
+        found.extend(specials_of_map(mapping))
     return found + _told_by_set(own.settable)
 
 
-def _told_by_map(mapping):
+def specials_of_map(mapping):
+    """Return the values that tell a map."""
     if mapping.kind == "text":
         told = mapping.exceptions()
         return list(told) + list(told.values()) + ([] if mapping.rest is None else [mapping.rest])

@@ -21,6 +21,10 @@ class NumberCells:
             self._stretches.append((firsts[place - 1] if place > 0 else None, first - 1))
         self._stretches.append((firsts[-1] if firsts else None, None))
 
+    def has_cuts(self, cuts):
+        """Tell whether these cuts are among those of the cells."""
+        return all([cut in self._begins for cut in cuts])
+
     def count_cells(self):
         """Return how many cells there are."""
         return len(self._stretches)
@@ -46,6 +50,11 @@ class NumberCells:
         return tuple([place if what is None else self._begins[what] for first, last, what in parts
                       for place in range(self._begins[first], self._finishes[last] + 1)])
 
+    def places_within(self, values):
+        """Return the places of the cells of a set, whose bounds are bounds of cells."""
+        return [place for first, last in values.stretches()
+                for place in range(self._begins[first], self._finishes[last] + 1)]
+
     def map_of(self, taking):
         """Return the map of a tuple of places."""
         pieces = []
@@ -64,6 +73,10 @@ class TextCells:
     def __init__(self, words):
         self._words = sorted(set(words))
         self._places = {word: place for place, word in enumerate(self._words)}
+
+    def has_cuts(self, words):
+        """Tell whether these texts are among those that have cells."""
+        return all([word in self._places for word in words])
 
     def count_cells(self):
         """Return how many cells there are."""
@@ -87,6 +100,13 @@ class TextCells:
         results = [exceptions.get(word, word if rest is None else rest) for word in self._words]
         return tuple([self._places[result] for result in results] + [others])
 
+    def places_within(self, values):
+        """Return the places of the cells of a set, whose words have cells of their own."""
+        places = [self._places[word] for word in values.words()]
+        if not values.others:
+            return places
+        return [place for place in range(len(self._words) + 1) if place not in places]
+
     def map_of(self, taking):
         """Return the map of a tuple of places."""
         others = taking[len(self._words)]
@@ -94,19 +114,16 @@ class TextCells:
         return TextMap(exceptions, None if others == len(self._words) else self._words[others])
 
 
-def cells_for(world, kind, lists):
-    """Return the cells of a kind that suffice for the maps and defaults of a world and for some lists."""
-    cuts = []
-    for program in world.programs():
-        for own in program.own_fields().values():
-            if own.kind == kind:
-                cuts.extend(cuts_of_entries(own.sources, own.default))
-        for write in program.writes().values():
-            if write is not None and write.mapping.kind == kind:
-                cuts.extend(cuts_of_map(write.mapping))
-    for told in lists:
-        cuts.extend(cuts_of_entries(told.entries, told.end))
-    return NumberCells(cuts) if kind == "number" else TextCells(cuts)
+def cuts_of_program(program, kind):
+    """Return the cuts, or words, that tell the maps, defaults and settable values of a kind of a program."""
+    found = []
+    for own in program.own_fields().values():
+        if own.kind == kind:
+            found.extend(cuts_of_entries(own.sources, own.default) + cuts_of_set(own.settable))
+    for write in program.writes().values():
+        if write is not None and write.mapping.kind == kind:
+            found.extend(cuts_of_map(write.mapping))
+    return found
 
 
 def cuts_of_entries(entries, end):
@@ -124,6 +141,16 @@ def cuts_of_map(mapping):
     for piece in mapping.parts():
         if piece[2] is not None:
             found.extend([piece[2], piece[2] + 1])
+    return found
+
+
+def cuts_of_set(values):
+    """Return the cuts, or words, that tell the bounds of a set."""
+    if values.kind == "text":
+        return values.words()
+    found = []
+    for first, last in values.stretches():
+        found.extend(([] if first is None else [first]) + ([] if last is None else [last + 1]))
     return found
 
 

@@ -7,6 +7,36 @@ from keptedits.putting import check_list, field_list
 from keptedits.tables import table_for
 
 
+class FoundLists:
+    """The lists of a list graph: a dict from their numbers in a table to their rows, in the sequence of these."""
+
+    def __init__(self, table, names, number):
+        self.table = table
+        self.start = number
+        self.row_table = table.rows_of_lists(names, number)
+
+    def many(self):
+        """Return how many lists there are."""
+        return len(self.row_table)
+
+    def first_list(self):
+        """Return the list from which all others come."""
+        return self.table.list_of(self.start)
+
+    def second_list(self):
+        """Return the tuple (row, list) behind the first one, of several lists."""
+        number = list(self.row_table)[1]
+        return (list(self.row_table[number]), self.table.list_of(number))
+
+    def lists(self):
+        """Return all lists, by their rows."""
+        return [self.table.list_of(number) for number in self.row_table]
+
+    def row_of(self, told):
+        """Return the row of a list as a tuple, None if it is none of the lists."""
+        return self.row_table.get(self.table.known_number(told))
+
+
 class ListGraph:
     """All normal lists that come from a list by putting it back before passes of some programs; it never changes."""
 
@@ -14,8 +44,8 @@ class ListGraph:
         check_list(world, first)
         self._first = first
         self._under = names_under(world, programs)
-        self._table, short = table_for(world, first)
-        self._found = self._table.rows_of_lists(self._under, short)
+        table, number = table_for(world, first)
+        self._lists_found = FoundLists(table, self._under, number)
 
     @property
     def first(self):
@@ -29,30 +59,22 @@ class ListGraph:
 
     def lists(self):
         """Return all lists, by their rows."""
-        return [self._table.list_of(short) for short in self._found]
+        return self._lists_found.lists()
 
     def rows(self):
         """Return the rows of the lists, by length, then in sorted order."""
-        return [list(row) for row in self._found.values()]
+        return [list(row) for row in self._lists_found.row_table.values()]
 
     def row_to(self, value):
         """Return the row of a list."""
         if value not in self:
             raise UnknownList(value)
-        return list(self._found[self._table.known_short(value)])
+        return list(self._lists_found.row_of(value))
 
     def walk(self):
         """Yield the tuples (row, list), by the rows."""
-        for short, row in self._found.items():
-            yield (list(row), self._table.list_of(short))
-
-    def table(self):
-        """Return the table that tells the lists."""
-        return self._table
-
-    def shorts(self):
-        """Return the tuples (row, list in the short form of the table), by the rows."""
-        return [(list(row), short) for short, row in self._found.items()]
+        for number, row in self._lists_found.row_table.items():
+            yield (list(row), self._lists_found.table.list_of(number))
 
     @staticmethod
     def is_before(one, other):
@@ -60,12 +82,12 @@ class ListGraph:
         return (len(one), list(one)) < (len(other), list(other))
 
     def __len__(self):
-        return len(self._found)
+        return len(self._lists_found.row_table)
 
     def __contains__(self, value):
         if not isinstance(value, SourceList) or value.kind != self._first.kind:
             return False
-        return self._table.known_short(value) in self._found
+        return self._lists_found.row_of(value) is not None
 
 
 def names_under(world, programs):
@@ -74,6 +96,14 @@ def names_under(world, programs):
         return tuple(sorted(world.names()))
     check_row(world, programs)
     return tuple(sorted(set(programs)))
+
+
+def lists_of_own(world, name, own, programs=None):
+    """Return the lists of the list graph of an own field."""
+    kind = world.program(name).own_field(own).kind
+    names = names_under(world, programs)
+    table = world.list_table(kind)
+    return FoundLists(table, names, table.pass_of(name).own_number(own))
 
 
 def alike(world, one, other):
@@ -93,7 +123,7 @@ def parting_rows(world, one, other):
 def _first_apart(world, one, other):
     for field, kind in world.fields().items():
         table = world.list_table(kind)
-        start = table.short(field_list(world, field))
+        start = table.number_of_list(field_list(world, field))
         here, there = table.over(one, start), table.over(other, start)
         if here != there:
             return (field, parting(table.list_of(here), table.list_of(there)))

@@ -1,10 +1,9 @@
 """Harms: what is read behind rows of programs in another way than directly."""
 
 from keptedits.errors import Unlike
-from keptedits.graphs import ListGraph
+from keptedits.graphs import lists_of_own
 from keptedits.here import Here
 from keptedits.maps import values_apart
-from keptedits.putting import own_list
 from keptedits.readings import reading_of_list, way_apart
 from keptedits.sets import full_set, natural
 
@@ -28,48 +27,49 @@ def least_of_kind(direct, behind, kind):
 
 def harms(world, name, own, programs=None):
     """Return a tuple (kind, row, document, value, later) for each kind of harm that occurs."""
-    direct = own_list(world, name, own)
-    graph = ListGraph(world, direct, programs)
+    lists = lists_of_own(world, name, own, programs)
+    direct = lists.first_list()
     found = {}
-    for row, behind in graph.walk():
+    for number, row in lists.row_table.items():
+        behind = lists.table.list_of(number)
         missing = [kind for kind in KINDS if kind not in found]
         for kind, document in _least_documents(direct, behind, missing).items():
-            found[kind] = (kind, row, document, direct.at(document), behind.at(document))
+            found[kind] = (kind, list(row), document, direct.at(document), behind.at(document))
     return [found[kind] for kind in KINDS if kind in found]
 
 
 def is_safe(world, name, own, programs=None):
     """Tell whether an own field has no harm at any document."""
-    return len(ListGraph(world, own_list(world, name, own), programs)) == 1
+    return lists_of_own(world, name, own, programs).many() == 1
 
 
 def harms_here(reached, name, own):
     """Return a tuple (kind, row, way, document) for each kind of harm that documents which come about show."""
-    direct = own_list(reached.world, name, own)
-    graph = ListGraph(reached.world, direct)
+    lists = lists_of_own(reached.world, name, own)
     here = Here(reached)
     found = {}
-    for row, behind in graph.walk():
+    for number, row in lists.row_table.items():
         missing = [kind for kind in KINDS if kind not in found]
-        for kind, (place, one, other) in _places_by_kind(here, direct, behind, missing).items():
+        told = _places_by_kind(here, lists.first_list(), lists.table.list_of(number), missing)
+        for kind, (place, one, other) in told.items():
             way = way_apart(reached, here.presence_at(place), one, other)
-            found[kind] = (kind, row, way, reached.document_of(way))
+            found[kind] = (kind, list(row), way, reached.document_of(way))
     return [found[kind] for kind in KINDS if kind in found]
 
 
 def is_safe_here(reached, name, own):
     """Tell whether no document that comes about shows a harm of an own field."""
-    graph = ListGraph(reached.world, own_list(reached.world, name, own))
-    return first_harm_here(reached, graph) is None
+    lists = lists_of_own(reached.world, name, own)
+    return first_harm_here(Here(reached), lists) is None
 
 
-def first_harm_here(reached, graph):
+def first_harm_here(here, lists):
     """Return the first row, and the first presence, at which a document that comes about shows a harm, or None."""
-    here = Here(reached)
-    for row, behind in graph.walk():
-        found = _places_by_kind(here, graph.first, behind, KINDS)
+    direct = lists.first_list()
+    for number, row in lists.row_table.items():
+        found = _places_by_kind(here, direct, lists.table.list_of(number), KINDS)
         if found:
-            return (row, here.presence_at(min([place for place, _, _ in found.values()])))
+            return (list(row), here.presence_at(min([place for place, _, _ in found.values()])))
     return None
 
 

@@ -2,7 +2,7 @@
 
 from keptedits.errors import InvalidMap, InvalidValue, Unlike
 from keptedits.sets import (
-    Texts, check_set, is_name, is_number, is_stretch, is_value, is_within, numbers_of_stretches)
+    Texts, check_set, is_name, is_number, is_stretch, is_value, is_within, numbers_of_stretches, texts_of_words)
 
 
 class Map:
@@ -204,13 +204,13 @@ class TextMap(Map):
         return self._rest if len(self._exceptions) == 0 else None
 
     def _ordinary(self):
-        return Texts(list(self._exceptions), others=True)
+        return texts_of_words(list(self._exceptions), True)
 
     def _results(self, values):
         usual = values.shared(self._ordinary())
         if self._rest is not None and not usual.is_empty:
             usual = Texts.of(self._rest)
-        return usual.united(Texts([new for old, new in self._exceptions.items() if old in values]))
+        return usual.united(texts_of_words([new for old, new in self._exceptions.items() if old in values], False))
 
     def _origins(self, values):
         usual = self._ordinary()
@@ -218,11 +218,11 @@ class TextMap(Map):
             usual = usual.shared(values)
         elif self._rest not in values:
             usual = Texts()
-        return usual.united(Texts([old for old, new in self._exceptions.items() if new in values]))
+        return usual.united(texts_of_words([old for old, new in self._exceptions.items() if new in values], False))
 
     def _differing(self, other):
         special = list(self._exceptions) + list(other._exceptions)
-        unlike = Texts([text for text in special if self._result(text) != other._result(text)])
+        unlike = texts_of_words([text for text in special if self._result(text) != other._result(text)], False)
         return unlike.united(_usually_apart(special, self._rest, other._rest))
 
     def _content(self):
@@ -387,6 +387,6 @@ def _usually_apart(special, one, other):
     if one == other:
         return Texts()
     if one is not None and other is not None:
-        return Texts(special, others=True)
+        return texts_of_words(special, True)
     fixed = other if one is None else one
-    return Texts(special + [fixed], others=True)
+    return texts_of_words(special + [fixed], True)

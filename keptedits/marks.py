@@ -70,88 +70,15 @@ class MarkedList:
         return (self._entries, self._end, self._mark_told)
 
 
-class EditedPass:
-    """A pass of a program in which one own field is edited, before which lists in the short form of a table are put.
-
-    A marked list is a tuple (entries, end, number of the mark) here, of which the end or the mark is None.
-    """
-
-    def __init__(self, world, name, own, table):
-        program = world.program(name)
-        own_field = program.own_field(own)
-        self._writer = name
-        self._settable = own_field.settable
-        self._table = table
-        self._written = {}
-        self._is_unwritten = True
-        for field, write in program.writes().items():
-            if write is not None and write.own == own:
-                self._is_unwritten = False
-                # None for a write of another kind than that of the table, whose lists do not have its field.
-                self._written[field] = table.number_of_map(write.mapping) if table.kind == own_field.kind else None
-        self._marks = {}
-
-    def writes_nothing(self):
-        """Tell whether the program writes no field from the edited own field."""
-        return self._is_unwritten
-
-    def settable_values(self):
-        """Return the settable values of the edited own field."""
-        return self._settable
-
-    def marked(self, short):
-        """Return a list, put before an edit that gives a value."""
-        found, end, mark = self._put_through(short, True)
-        if mark is not None:
-            fixed = self._mark_parts(mark)[0]
-            end, mark = (None, mark) if fixed is None else (fixed, None)
-        entries, end = self._table.normal(found, end)
-        return (entries, end, mark)
-
-    def without(self, short):
-        """Return a list, put before a removal, in its short form."""
-        found, end, _ = self._put_through(short, False)
-        return self._table.normal(found, end)
-
-    def mark_told(self, mark):
-        """Return what tells marks apart at the settable values, None for no mark."""
-        return None if mark is None else self._mark_parts(mark)[1]
-
-    def list_of(self, marked):
-        """Return the marked list of a tuple."""
-        entries = [(field, self._table.map_at(number)) for field, number in marked[0]]
-        mark = None if marked[2] is None else self._table.map_at(marked[2])
-        return MarkedList(self._table.kind, entries, marked[1], mark, self._settable)
-
-    def _mark_parts(self, mark):
-        """Return the one value to which a mark takes all settable values, or None, and what tells it apart."""
-        if mark not in self._marks:
-            mapping = self._table.map_at(mark)
-            self._marks[mark] = (mapping.constant(self._settable), _confined(mapping, self._settable).parts())
-        return self._marks[mark]
-
-    def _put_through(self, short, is_given):
-        """Return the entries, the end and the mark of a list put before the edit, which gives a value or removes."""
-        found, seen = [], {}
-        for entry in short[0]:
-            if entry[0] not in self._written:
-                end = self._table.put_entry_back(self._writer, entry, found, seen)
-                if end is not None:
-                    return found, end, None
-            elif is_given:
-                return found, None, self._table.followed(self._written[entry[0]], entry[1])
-        return found, short[1], None
-
-
 def edited_list(world, name, own, first):
     """Return the marked list of a source list, put before an edit of an own field."""
     own_field = world.program(name).own_field(own)
     if own_field.settable.is_empty:
         raise NotSettable(own)
     check_list(world, first)
-    table, short = table_for(world, first)
-    step = EditedPass(world, name, own, table)
-    return step.list_of(step.marked(short))
+    table, number = table_for(world, first)
+    step = table.edited_pass(name, own)
+    return marked_list_of(table, step, step.marked(number))
 
 
 def removed_list(world, name, own, first):
@@ -160,8 +87,15 @@ def removed_list(world, name, own, first):
     if not own_field.removable:
         raise NotRemovable(own)
     check_list(world, first)
-    table, short = table_for(world, first)
-    return table.list_of(EditedPass(world, name, own, table).without(short))
+    table, number = table_for(world, first)
+    return table.list_of(table.edited_pass(name, own).without(number))
+
+
+def marked_list_of(table, step, marked):
+    """Return the marked list of a tuple that an edited pass tells of a table."""
+    entries = [(field, table.map_at(number)) for field, number in marked[0]]
+    mark = None if marked[2] is None else table.map_at(marked[2])
+    return MarkedList(table.kind, entries, marked[1], mark, step.settable_values())
 
 
 def _confined(mapping, values):

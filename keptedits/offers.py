@@ -5,7 +5,7 @@ from keptedits.maps import Map
 from keptedits.programs import Own, Program, Write
 from keptedits.sets import is_name, is_number
 from keptedits.sure import parts_by_size
-from keptedits.wishes import copied_fault, own_or_none
+from keptedits.wishes import copied_fault
 
 
 class Adapters:
@@ -21,6 +21,10 @@ class Adapters:
                 raise InvalidOffer(position)
         self._wishes = wishes
         self._offers = list(offers)
+        self._world = wishes.world.with_room()
+        self._world.shared().expect([offer[4] for offer in offers if offer[0] in ("read", "write")])
+        self._behind = {(): self._world.program_numbers()}
+        self._variants = {}
         self._faults = {}
         self._least = []
         for choice in parts_by_size(list(range(len(offers)))):
@@ -48,9 +52,9 @@ class Adapters:
         """Return the fault of a choice, None if it has none."""
         if not self._is_choice(choice):
             raise InvalidChoice(choice)
-        if choice not in self._faults:
-            return self._found_fault(choice)
-        return copied_fault(self._faults[choice])
+        if choice in self._faults:
+            return copied_fault(self._faults[choice])
+        return self._found_fault(choice)
 
     def least(self):
         """Return the least adapters, sorted."""
@@ -70,21 +74,46 @@ class Adapters:
         return all([0 <= position < len(self._offers) for position in choice])
 
     def _found_fault(self, choice):
-        world = self._wishes.world
-        for position in choice:
-            if not fits(world, self._offers[position]):
-                return ("offer", position)
-            world = _with_offer(world, self._offers[position])
-        found = self._wishes.first_fault(world)
+        numbers = self._numbers_behind(choice)
+        if isinstance(numbers, tuple):
+            return numbers
+        found = self._wishes.first_fault(self._world.numbered(numbers))
         return None if found is None else ("wish", found[0], found[1])
+
+    def _numbers_behind(self, choice):
+        """Return the dict from the programs behind a choice to their numbers, or the fault of an offer."""
+        if choice not in self._behind:
+            ahead = self._numbers_behind(choice[:-1])
+            self._behind[choice] = ahead if isinstance(ahead, tuple) else self._with_offer(ahead, choice[-1])
+        return self._behind[choice]
+
+    def _with_offer(self, numbers, position):
+        name = self._offers[position][1]
+        # Many choices make the same program.
+        asked = (numbers[name], position)
+        if asked not in self._variants:
+            self._variants[asked] = self._number_changed(numbers[name], self._offers[position])
+        if self._variants[asked] is None:
+            return ("offer", position)
+        return {one: self._variants[asked] if one == name else numbers[one] for one in numbers}
+
+    def _number_changed(self, number, offer):
+        """Return the number of the program that an offer makes of one, None if it does not fit."""
+        shared = self._world.shared()
+        program = shared.program_at(number)
+        if not is_fit(self._world.fields(), program, offer):
+            return None
+        return shared.number_of(program_with_offer(program, offer))
 
 
 def fits(world, offer):
     """Tell whether a value is an offer that fits a world."""
-    if not is_offer(world, offer):
-        return False
-    kind, program = offer[0], world.program(offer[1])
-    writes = program.writes()
+    return is_offer(world, offer) and is_fit(world.fields(), world.program(offer[1]), offer)
+
+
+def is_fit(kinds, program, offer):
+    """Tell whether an offer fits its program, for a dict from the fields of the world to their kinds."""
+    kind, writes = offer[0], program.writes()
     if kind == "keep":
         return not program.keeps
     if kind == "clear":
@@ -94,7 +123,7 @@ def fits(world, offer):
     own = program.own_field(offer[2])
     if kind == "no default":
         return own.default is not None
-    if world.kind_of_field(offer[3]) != own.kind or offer[4].kind != own.kind:
+    if kinds[offer[3]] != own.kind or offer[4].kind != own.kind:
         return False
     if kind == "write":
         return offer[3] not in writes
@@ -109,7 +138,7 @@ def applied(world, offers):
     for position, offer in enumerate(offers):
         if not fits(found, offer):
             raise InvalidOffer(position)
-        found = _with_offer(found, offer)
+        found = found.with_program(program_with_offer(found.program(offer[1]), offer))
     return found
 
 
@@ -122,7 +151,7 @@ def is_offer(world, offer):
         return many == 2
     if kind in ("clear", "leave"):
         return many == 3 and _is_field(world, offer[2])
-    if many < 3 or own_or_none(world, offer[1], offer[2]) is None:
+    if many < 3 or world.own_or_none(offer[1], offer[2]) is None:
         return False
     if kind == "no default":
         return many == 3
@@ -137,10 +166,9 @@ def _is_field(world, value):
     return is_name(value) and value in world.fields()
 
 
-def _with_offer(world, offer):
-    """Return the world that an offer which fits makes."""
-    kind, program = offer[0], world.program(offer[1])
-    own_fields, writes = program.own_fields(), program.writes()
+def program_with_offer(program, offer):
+    """Return the program that an offer which fits makes of one."""
+    kind, own_fields, writes = offer[0], program.own_fields(), program.writes()
     if kind == "read":
         own_fields[offer[2]] = _reading(own_fields[offer[2]], (offer[3], offer[4]), offer[5])
     elif kind == "write":
@@ -154,7 +182,7 @@ def _with_offer(world, offer):
         own = own_fields[offer[2]]
         own_fields[offer[2]] = Own(own.kind, own.sources, settable=own.settable, removable=own.removable)
     keeps = program.keeps or kind == "keep"
-    return world.with_program(Program(program.name, own_fields, writes, keeps=keeps))
+    return Program(program.name, own_fields, writes, keeps=keeps)
 
 
 def _reading(own, source, place):

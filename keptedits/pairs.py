@@ -2,7 +2,7 @@
 
 from keptedits.atoms import image
 from keptedits.moves import can_go_together
-from keptedits.spread import Fact
+from keptedits.spread import Fact, Spread
 
 
 class Bundle:
@@ -93,10 +93,11 @@ class Pairs:
     def _seed_move(self, how, name, presence):
         """Find the pairs that the values of single fields and the edits make, and link those that pairs make."""
         move = self._spread.move(presence, name)
-        for at, (one, ends) in enumerate(move.routes):
-            for other, more in move.routes[at + 1:]:
-                if ends & more and self._are_paired(one, other):
-                    self._seed_routes((how, presence, name), ends & more, one, other)
+        routes = move.all_routes()
+        for at, (one, having) in enumerate(routes):
+            for other, more in routes[at + 1:]:
+                if having & more and self._are_paired(one, other):
+                    self._seed_routes((how, presence, name), move.ends_at(having & more), one, other)
 
     def _are_paired(self, one, other):
         if one.target == other.target or not can_go_together(one, other):
@@ -126,10 +127,9 @@ class Pairs:
         """Send pairs along two routes to all of their ends."""
         results = _taken(routes, given).pieces()
         fields = tuple(sorted([routes[0].target, routes[1].target]))
-        for end, told in enumerate(self._spread.move(start[1], start[2]).ends):
-            if ends >> end & 1:
-                for piece in results:
-                    self._tell((told[0],) + fields, piece, start + (end,), routes, given)
+        for place, end in ends:
+            for piece in results:
+                self._tell((end,) + fields, piece, start + (place,), routes, given)
 
     def _tell(self, asked, found, cause, routes=(), given=None):
         """Keep pairs (bits, partners, None for equal values) as far as they are new, with the reason."""
@@ -140,6 +140,28 @@ class Pairs:
         if rest:
             self._reasons[asked].append(Fact(rest, found[1], cause, routes, given))
             self._pending.setdefault(asked, []).append((rest, found[1]))
+
+
+class Finding:
+    """What comes about from some beginnings in a world: presences, as tuples of fields and as bits, values, pairs."""
+
+    def __init__(self, world, beginnings):
+        self.spread = Spread(world, beginnings)
+        bits = {self.spread.fields_of(presence): presence for presence in self.spread.presences()}
+        self.sorted_presences = sorted(bits, key=_by_size)
+        self.bits = bits
+        self._pairs = None
+
+    def pairs(self):
+        """Return the pairs of values."""
+        # Most questions need no pairs, which take long to find.
+        if self._pairs is None:
+            self._pairs = Pairs(self.spread)
+        return self._pairs
+
+
+def _by_size(presence):
+    return (len(presence), presence)
 
 
 def _with_block(blocks, rest, other):

@@ -136,6 +136,10 @@ class Program:
             raise UnknownOwn(own)
         return self._own_fields[own]
 
+    def own_or_none(self, own):
+        """Return the own field of a string, None if it names none."""
+        return self._own_fields.get(own)
+
     def known_fields(self):
         """Return the fields that the program knows, sorted."""
         return list(self._writes)

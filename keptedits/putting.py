@@ -27,7 +27,7 @@ def pass_lists(world, name):
     found = {}
     for field, kind in world.fields().items():
         table = world.list_table(kind)
-        found[field] = table.list_of(table.behind(name, field))
+        found[field] = table.list_of(table.pass_of(name).behind(field))
     return found
 
 
@@ -56,5 +56,5 @@ def check_list(world, first):
 
 
 def _over(row, world, first):
-    table, short = table_for(world, first)
-    return table.list_of(table.over(row, short))
+    table, number = table_for(world, first)
+    return table.list_of(table.over(row, number))

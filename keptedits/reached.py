@@ -3,10 +3,8 @@
 from keptedits.checks import check_document, check_presence, is_presence
 from keptedits.errors import InvalidBeginnings, InvalidStep, InvalidValue, UnknownProgram, Unlike
 from keptedits.maps import is_map, values_apart
-from keptedits.pairs import Pairs
 from keptedits.passes import is_document, is_edit, made_new, run
 from keptedits.sets import is_name, is_number, is_value
-from keptedits.spread import Spread
 from keptedits.ways import way_to_values
 
 
@@ -57,18 +55,13 @@ class Reached:
     """What comes about from beginnings by the steps of all programs of a world; it never changes."""
 
     def __init__(self, world, beginnings):
-        for name in beginnings.new:
-            if name not in world:
-                raise UnknownProgram(name)
-        for document in beginnings.documents():
-            check_document(world, document)
+        check_beginnings(world, beginnings)
         self._world = world
         self._beginnings = beginnings
-        self._spread = Spread(world, beginnings)
-        self._pairs = None
-        found = [self._spread.fields_of(bits) for bits in self._spread.presences()]
-        self._presences = sorted(found, key=_by_size)
-        self._places = {presence: place for place, presence in enumerate(self._presences)}
+        self._finding = world.finding(beginnings)
+        self._spread = self._finding.spread
+        self._presences = self._finding.sorted_presences
+        self._bits = self._finding.bits
 
     @property
     def world(self):
@@ -88,29 +81,37 @@ class Reached:
         """Return the set of the values that a field has in documents of a presence that come about."""
         check_presence(self._world, presence)
         self._world.kind_of_field(field)
-        return self._values(presence, field)
+        return self.values_among([presence], field)
+
+    def values_among(self, presences, field):
+        """Return the set of the values that a field has in documents of some presences, which are such, or none."""
+        bits = 0
+        for presence in presences:
+            if presence in self._bits:
+                bits |= self._spread.values_bits(self._bits[presence], field)
+        return self._spread.atoms_for(field).values_of(bits)
 
     def way_to(self, presence):
         """Return a way with the fewest steps to a document with a presence, None if there is none."""
         check_presence(self._world, presence)
-        return self._way(presence, {}) if presence in self._places else None
+        return self._way(presence, {}) if presence in self._bits else None
 
     def way_with(self, presence, field, value):
         """Return a way to a document with a presence in which a field has a value, None if there is none."""
         check_presence(self._world, presence)
         if not is_value(value, self._world.kind_of_field(field)):
             raise InvalidValue(value)
-        return self._way(presence, {field: value}) if value in self._values(presence, field) else None
+        return self._way(presence, {field: value}) if value in self.values_among([presence], field) else None
 
     def can_part(self, presence, one, first, other, second):
         """Tell whether a document with a presence comes about in which two maps of two fields' values differ."""
         self._check_parting(presence, one, first, other, second)
-        return self._parted(presence, one, first, other, second) is not None
+        return self.values_parted(presence, one, first, other, second) is not None
 
     def way_parting(self, presence, one, first, other, second):
         """Return a way to a document in which two maps of two fields' values differ, None if there is none."""
         self._check_parting(presence, one, first, other, second)
-        wanted = self._parted(presence, one, first, other, second)
+        wanted = self.values_parted(presence, one, first, other, second)
         return None if wanted is None else self._way(presence, wanted)
 
     def document_of(self, way):
@@ -126,25 +127,14 @@ class Reached:
             raise InvalidStep(-1) from None
 
     def __contains__(self, presence):
-        return is_presence(self._world, presence) and presence in self._places
+        return is_presence(self._world, presence) and presence in self._bits
 
     def __len__(self):
         return len(self._presences)
 
-    def _values(self, presence, field):
-        bits = self._spread.values_bits(self._spread.bits_of_fields(presence), field)
-        return self._spread.atoms_for(field).values_of(bits)
-
     def _way(self, presence, wanted):
-        bits = self._spread.bits_of_fields(presence)
-        pairs = self._all_pairs() if len(wanted) == 2 else None
-        return way_to_values(self._world, self._spread, pairs, bits, wanted)
-
-    def _all_pairs(self):
-        # Most questions need no pairs, which take long to find.
-        if self._pairs is None:
-            self._pairs = Pairs(self._spread)
-        return self._pairs
+        pairs = self._finding.pairs() if len(wanted) == 2 else None
+        return way_to_values(self._world, self._spread, pairs, self._bits[presence], wanted)
 
     def _check_parting(self, presence, one, first, other, second):
         check_presence(self._world, presence)
@@ -152,16 +142,16 @@ class Reached:
         if kinds[0] != kinds[1] or not is_map(first, kinds[0]) or not is_map(second, kinds[0]):
             raise Unlike()
 
-    def _parted(self, presence, one, first, other, second):
+    def values_parted(self, presence, one, first, other, second):
         """Return values of one or two fields at which two maps differ and that come about, None if there are none."""
-        if presence not in self._places or one not in presence or other not in presence:
+        if presence not in self._bits or one not in presence or other not in presence:
             return None
         if one == other:
-            value = first.apart(second, self._values(presence, one))
+            value = first.apart(second, self.values_among([presence], one))
             return None if value is None else {one: value}
         if one > other:
             one, first, other, second = other, second, one, first
-        relation = self._all_pairs().relation(self._spread.bits_of_fields(presence), one, other)
+        relation = self._finding.pairs().relation(self._bits[presence], one, other)
         atoms = self._spread.atoms_for(one)
         value = first.apart(second, atoms.values_of(relation.equal))
         if value is not None:
@@ -194,8 +184,13 @@ class Reached:
         return documents[position] if is_number(position) and 0 <= position < len(documents) else None
 
 
-def _by_size(presence):
-    return (len(presence), presence)
+def check_beginnings(world, beginnings):
+    """Raise UnknownProgram or InvalidDocument for the first beginning that is none of the world."""
+    for name in beginnings.new:
+        if name not in world:
+            raise UnknownProgram(name)
+    for document in beginnings.documents():
+        check_document(world, document)
 
 
 def _copy_of(document):

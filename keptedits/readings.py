@@ -27,7 +27,7 @@ def can_be_apart(reached, presence, one, other):
     if one[1] is None or other[1] is None:
         return one[1] != other[1]
     if one[0] is not None and other[0] is not None:
-        return reached.can_part(presence, one[0], one[1], other[0], other[1])
+        return reached.values_parted(presence, one[0], one[1], other[0], other[1]) is not None
     return one[1] != other[1] and (one[0] == other[0] or _value_apart(reached, presence, one, other) is not None)
 
 
@@ -53,4 +53,4 @@ def _reading(entries, end, kind, presence):
 def _value_apart(reached, presence, one, other):
     """Return the least value of the one field that two readings have at which they differ, None if there is none."""
     field = other[0] if one[0] is None else one[0]
-    return one[1].apart(other[1], reached.values_of(presence, field))
+    return one[1].apart(other[1], reached.values_among([presence], field))

@@ -1,118 +1,112 @@
 """Edits that are seen, and removals that are kept, by a reader behind every row of programs."""
 
 from keptedits.errors import NotRemovable, NotSettable
-from keptedits.graphs import ListGraph
+from keptedits.graphs import lists_of_own
 from keptedits.here import Here, first_place
 from keptedits.maps import constant_map_to
-from keptedits.marks import EditedPass
-from keptedits.putting import own_list
+from keptedits.marks import marked_list_of
 from keptedits.sets import full_set
 
 
 def problem(world, writer, edited, name, own):
     """Return the tuple (kind, row, document, value) of the problem of an edit, None if the reader sees it."""
-    graph = ListGraph(world, checked_edit(world, writer, edited, name, own))
-    return problem_in(world, graph, writer, edited)
+    check_edit_seen(world, writer, edited, name, own)
+    return problem_in(lists_of_own(world, name, own), writer, edited)
 
 
 def problem_here(reached, writer, edited, name, own):
     """Return the tuple (kind, row, presence) of the problem of an edit where something comes about, or None."""
-    graph = ListGraph(reached.world, checked_edit(reached.world, writer, edited, name, own))
-    return problem_here_in(reached, graph, writer, edited)
+    check_edit_seen(reached.world, writer, edited, name, own)
+    return problem_here_in(Here(reached), lists_of_own(reached.world, name, own), writer, edited)
 
 
 def echo(world, writer, edited, name, own):
     """Return the tuple (row, document) of the echo of a removal, None if it is kept for the reader."""
-    graph = ListGraph(world, checked_removal(world, writer, edited, name, own))
-    return echo_in(world, graph, writer, edited)
+    check_removal_kept(world, writer, edited, name, own)
+    return echo_in(world, lists_of_own(world, name, own), writer, edited)
 
 
 def echo_here(reached, writer, edited, name, own):
     """Return the tuple (row, presence) of the echo of a removal where something comes about, or None."""
-    graph = ListGraph(reached.world, checked_removal(reached.world, writer, edited, name, own))
-    return echo_here_in(reached, graph, writer, edited)
+    check_removal_kept(reached.world, writer, edited, name, own)
+    return echo_here_in(reached.world, Here(reached), lists_of_own(reached.world, name, own), writer, edited)
 
 
-def problem_in(world, graph, writer, edited):
-    """Return the problem of an edit for the reader of a list graph under all programs."""
-    step = EditedPass(world, writer, edited, graph.table())
-    shorts = graph.shorts()
-    first = step.marked(shorts[0][1])
+def problem_in(lists, writer, edited):
+    """Return the problem of an edit for the reader of the lists of a list graph under all programs."""
+    step = lists.table.edited_pass(writer, edited)
+    first = step.marked(lists.start)
     kind = _first_kind(step, first)
     if kind is not None:
         return (kind, [], {}, step.settable_values().least())
-    for row, short in shorts:
-        found = step.marked(short)
+    for number, row in lists.row_table.items():
+        found = step.marked(number)
         kind = _kind_of(step, found, first)
         if kind is not None:
-            document = _least_masked(found, graph.first.kind) if kind == "masked" else {}
-            return (kind, row, document, _least_missed(step.list_of(found), step.list_of(first), document))
+            document = _least_masked(found, lists.table.kind) if kind == "masked" else {}
+            here, there = marked_list_of(lists.table, step, found), marked_list_of(lists.table, step, first)
+            return (kind, list(row), document, _least_missed(here, there, document))
     return None
 
 
-def problem_here_in(reached, graph, writer, edited):
-    """Return the problem of an edit, where something comes about, for the reader of a list graph."""
-    if len(reached) == 0:
+def problem_here_in(here, lists, writer, edited):
+    """Return the problem of an edit, where something comes about, for the reader of the lists of a list graph."""
+    if here.everywhere() == 0:
         return None
-    here = Here(reached)
-    step = EditedPass(reached.world, writer, edited, graph.table())
-    shorts = graph.shorts()
-    first = step.marked(shorts[0][1])
+    step = lists.table.edited_pass(writer, edited)
+    first = step.marked(lists.start)
     kind = _first_kind(step, first)
     if kind is not None:
         return (kind, [], here.presence_at(0))
-    for row, short in shorts:
-        kind, place = _kind_here(here, step, step.marked(short), first)
+    for number, row in lists.row_table.items():
+        kind, place = _kind_here(here, step, step.marked(number), first)
         if kind is not None:
-            return (kind, row, here.presence_at(place))
+            return (kind, list(row), here.presence_at(place))
     return None
 
 
-def echo_in(world, graph, writer, edited):
-    """Return the echo of a removal for the reader of a list graph under all programs."""
+def echo_in(world, lists, writer, edited):
+    """Return the echo of a removal for the reader of the lists of a list graph under all programs."""
     own_field = world.program(writer).own_field(edited)
     if own_field.default is None and len(own_field.sources) == 0:
         return None
-    step = EditedPass(world, writer, edited, graph.table())
-    for row, short in graph.shorts():
-        fields = [field for field, _ in step.without(short)[0]]
+    step = lists.table.edited_pass(writer, edited)
+    for number, row in lists.row_table.items():
+        fields = step.fields_without(number)
         if fields:
             presence = _least_echoed(own_field, sorted(fields))
-            return (row, {field: full_set(world.kind_of_field(field)).least() for field in presence})
+            return (list(row), {field: full_set(world.kind_of_field(field)).least() for field in presence})
     return None
 
 
-def echo_here_in(reached, graph, writer, edited):
-    """Return the echo of a removal, where something comes about, for the reader of a list graph."""
-    own_field = reached.world.program(writer).own_field(edited)
-    here = Here(reached)
+def echo_here_in(world, here, lists, writer, edited):
+    """Return the echo of a removal, where something comes about, for the reader of the lists of a list graph."""
+    own_field = world.program(writer).own_field(edited)
     having = here.everywhere()
     if own_field.default is None:
         having = here.places_with([field for field, _ in own_field.sources])
-    step = EditedPass(reached.world, writer, edited, graph.table())
-    for row, short in graph.shorts():
-        places = having & here.places_with([field for field, _ in step.without(short)[0]])
+    step = lists.table.edited_pass(writer, edited)
+    for number, row in lists.row_table.items():
+        places = having & here.places_with(step.fields_without(number))
         if places:
-            return (row, here.presence_at(first_place(places)))
+            return (list(row), here.presence_at(first_place(places)))
     return None
 
 
-def checked_edit(world, writer, edited, name, own):
-    """Return the list of a reader, behind the checks of an edit that it may see."""
+def check_edit_seen(world, writer, edited, name, own):
+    """Raise an error for any values that name no edit and no reader that may see it."""
     own_field = world.program(writer).own_field(edited)
-    first = own_list(world, name, own)
+    world.program(name).own_field(own)
     if own_field.settable.is_empty:
         raise NotSettable(edited)
-    return first
 
 
-def checked_removal(world, writer, edited, name, own):
-    """Return the list of a reader, behind the checks of a removal that may be kept for it."""
+def check_removal_kept(world, writer, edited, name, own):
+    """Raise an error for any values that name no removal and no reader for which it may be kept."""
     own_field = world.program(writer).own_field(edited)
-    first = own_list(world, name, own)
+    world.program(name).own_field(own)
     if not own_field.removable:
         raise NotRemovable(edited)
-    return first
 
 
 def _first_kind(step, first):

@@ -110,7 +110,7 @@ class Numbers(ValueSet):
         for position, stretch in enumerate(stretches):
             if not _is_stretch_tuple(stretch):
                 raise InvalidSet(position)
-        self._stretches = _merged(stretches)
+        self._stretches = _merged(stretches) if stretches else ()
 
     @classmethod
     def full(cls):
@@ -141,13 +141,13 @@ class Numbers(ValueSet):
         return min([_nearest(first, last) for first, last in self._stretches], key=natural, default=None)
 
     def _missing(self):
-        return numbers_of_stretches(_gaps(self._stretches))
+        return _numbers_told(_gaps(self._stretches))
 
     def _joined(self, other):
         return numbers_of_stretches(self._stretches + other._stretches)
 
     def _common(self, other):
-        return numbers_of_stretches(_shared_stretches(self._stretches, other._stretches))
+        return _numbers_told(_shared_stretches(self._stretches, other._stretches))
 
     def _has(self, value):
         return any([is_within(value, first, last) for first, last in self._stretches])
@@ -167,7 +167,7 @@ class Texts(ValueSet):
         for position, word in enumerate(words):
             if not is_value(word, "text"):
                 raise InvalidSet(position)
-        self._words = tuple(sorted(set(words)))
+        self._words = tuple(sorted(set(words))) if words else ()
         self._others = others
 
     @classmethod
@@ -204,19 +204,25 @@ class Texts(ValueSet):
         return _text_at(index)
 
     def _missing(self):
-        return Texts(self._words, others=not self._others)
+        return texts_of_words(self._words, not self._others)
 
     def _joined(self, other):
         if self._others and other._others:
-            return Texts([word for word in self._words if word in other._words], others=True)
+            return texts_of_words([word for word in self._words if word in other._words], True)
         if self._others:
-            return Texts([word for word in self._words if word not in other._words], others=True)
+            return texts_of_words([word for word in self._words if word not in other._words], True)
         if other._others:
-            return Texts([word for word in other._words if word not in self._words], others=True)
-        return Texts(self._words + other._words)
+            return texts_of_words([word for word in other._words if word not in self._words], True)
+        return texts_of_words(self._words + other._words, False)
 
     def _common(self, other):
-        return self._missing()._joined(other._missing())._missing()
+        if self._others and other._others:
+            return texts_of_words(self._words + other._words, True)
+        if self._others:
+            return texts_of_words([word for word in other._words if word not in self._words], False)
+        if other._others:
+            return texts_of_words([word for word in self._words if word not in other._words], False)
+        return texts_of_words([word for word in self._words if word in other._words], False)
 
     def _has(self, value):
         return (value in self._words) != self._others
@@ -227,8 +233,20 @@ class Texts(ValueSet):
 
 def numbers_of_stretches(stretches):
     """Return the set of numbers of what is known to be a list of stretches."""
+    return _numbers_told(_merged(stretches))
+
+
+def _numbers_told(stretches):
+    """Return the set of numbers of what are known to be the longest stretches, ascending."""
     found = Numbers()
-    found._stretches = _merged(stretches)
+    found._stretches = tuple(stretches)
+    return found
+
+
+def texts_of_words(words, others):
+    """Return the set of texts of what are known to be texts."""
+    found = Texts((), others=others)
+    found._words = tuple(sorted(set(words)))
     return found
 
 

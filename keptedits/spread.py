@@ -1,7 +1,6 @@
 """Presences that come about, and the values that single fields have in documents with them."""
 
-from keptedits.atoms import atoms_of, image
-from keptedits.moves import Plan
+from keptedits.atoms import image
 
 
 class Fact:
@@ -24,17 +23,15 @@ class Spread:
     """The presences that come about, as integers, and, from the first question on, the values of each field."""
 
     def __init__(self, world, beginnings):
-        self._world = world
+        self._names = world.names()
         self._kinds = world.fields()
-        self._spots = {field: 1 << place for place, field in enumerate(self._kinds)}
         self._documents = beginnings.documents()
         self._new = beginnings.new
         self._anything = beginnings.anything
-        self._atoms = atoms_of(world, self._documents)
-        self._plans = {}
-        for program in world.programs():
-            self._plans[program.name] = Plan(program, self._kinds, self._spots, self._atoms)
-        self._moves = {}
+        plans = world.plans(self._documents)
+        self._spots = plans.spots
+        self._atoms = plans.atoms
+        self._plans = {name: plans.plan(number) for name, number in world.program_numbers().items()}
         self._causes = {}
         self._known_bits = {}
         self._reasons = {}
@@ -78,16 +75,13 @@ class Spread:
 
     def move(self, presence, name):
         """Return the move of a program from a presence."""
-        asked = (presence, name)
-        if asked not in self._moves:
-            self._moves[asked] = self._plans[name].move(presence)
-        return self._moves[asked]
+        return self._plans[name].move(presence)
 
     def starts(self):
         """Return the tuples (cause, name, presence ahead) of the steps that begin, and of those from all presences."""
         found = [("new", name, 0) for name in self._new]
         for presence in self._causes:
-            found.extend([("step", name, presence) for name in self._world.names()])
+            found.extend([("step", name, presence) for name in self._names])
         return found
 
     def documents_with_presences(self):
@@ -123,17 +117,17 @@ class Spread:
         while level:
             further = []
             for presence in list(level):
-                for name in self._world.names():
+                for name in self._names:
                     further.extend(self._found_by("step", name, presence))
             level = further
 
     def _found_by(self, how, name, presence):
         """Return the presences that are found first by the steps of a program from a presence."""
         found = []
-        for end, told in enumerate(self.move(presence, name).ends):
-            if told[0] not in self._causes:
-                self._causes[told[0]] = (how, presence, name, end)
-                found.append(told[0])
+        for place, end in enumerate(self.move(presence, name).ends):
+            if end not in self._causes:
+                self._causes[end] = (how, presence, name, place)
+                found.append(end)
         return found
 
     def _spread_values(self):
@@ -144,9 +138,8 @@ class Spread:
             for field, value in document.items():
                 self._tell((presence, field), self.atoms_for(field).bit_of(value), ("document", position))
         for how, name, presence in self.starts():
-            for route, ends in self.move(presence, name).routes:
-                if route.source is None:
-                    self._send((how, presence, name), route, ends, route.raw)
+            for route, ends in self.move(presence, name).routes_from(None):
+                self._send((how, presence, name), route, ends, route.raw)
         while self._pending:
             pending = self._pending
             self._pending = {}
@@ -155,17 +148,18 @@ class Spread:
 
     def _send_on(self, asked, bits):
         """Send new values of a field through the steps of all programs."""
-        for name in self._world.names():
-            for route, ends in self.move(asked[0], name).routes:
-                if route.source == asked[1]:
-                    self._send(("step", asked[0], name), route, ends, bits)
+        presence, field = asked
+        for name in self._names:
+            for route, ends in self.move(presence, name).routes_from(field):
+                self._send(("step", presence, name), route, ends, bits)
 
     def _send(self, start, route, ends, bits):
         """Send values along a route to all of its ends."""
         results = image(route.taking, bits)
-        for end, told in enumerate(self.move(start[1], start[2]).ends):
-            if ends >> end & 1:
-                self._tell((told[0], route.target), results, start + (end,), (route,), bits)
+        for place, end in ends:
+            asked = (end, route.target)
+            if results & ~self._known_bits.get(asked, 0):
+                self._tell(asked, results, start + (place,), (route,), bits)
 
     def _tell(self, asked, bits, cause, routes=(), given=None):
         """Keep values of a field as far as they are new, with the reason."""

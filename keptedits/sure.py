@@ -9,12 +9,13 @@ def shown(reached, name, own):
     """Return the set of all values that an own field has in documents that come about."""
     own_field = reached.world.program(name).own_field(own)
     found = set_of(own_field.kind)
-    for presence in reached.presences():
-        field, mapping = reading_of_own(own_field, presence)
-        if field is not None:
-            found = found.united(mapping.image(reached.values_of(presence, field)))
-        elif mapping is not None:
-            found = found.united(set_of(own_field.kind, own_field.default))
+    rest = reached.presences()
+    for field, mapping in own_field.sources:
+        having = [presence for presence in rest if field in presence]
+        found = found.united(mapping.image(reached.values_among(having, field)))
+        rest = [presence for presence in rest if field not in presence]
+    if len(rest) > 0 and own_field.default is not None:
+        found = found.united(set_of(own_field.kind, own_field.default))
     return found
 
 
@@ -43,7 +44,7 @@ def way_showing(reached, name, own, value):
         if field is None and own_field.default == value:
             return reached.way_to(presence)
         if field is not None:
-            origins = mapping.before(set_of(own_field.kind, value)).shared(reached.values_of(presence, field))
+            origins = mapping.before(set_of(own_field.kind, value)).shared(reached.values_among([presence], field))
             if not origins.is_empty:
                 return reached.way_with(presence, field, origins.least())
     return None

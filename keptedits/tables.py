@@ -1,10 +1,15 @@
-"""Maps and source lists in a short form, for putting lists back many times before the passes of one world."""
+"""Tables: source lists that are put back many times before the passes of a world, by their numbers."""
 
-from keptedits.cells import cells_for
+from keptedits.cellmaps import CellMaps
+from keptedits.cells import cuts_of_entries, cuts_of_program
+from keptedits.editing import EditedPass
 from keptedits.errors import TooMany
-from keptedits.lists import normal_entries, normal_list
 
 MOST_LISTS = 3000
+
+# How many lists, and how many list graphs, are kept before others take their place.
+MOST_KEPT = 20000
+MOST_GRAPHS = 300
 
 
 class MapTable:
@@ -35,177 +40,222 @@ class MapTable:
         return self._composed[pair]
 
 
-class ListTable:
-    """Normal lists of one kind, in a short form: a tuple (tuple of (field, number of a map), end).
+class PassLists:
+    """The pass of a program, before which lists of one kind are put back; what was found once is kept."""
 
-    Maps are kept as the tuples of places of their cells, which are quickly put one behind the other.
-    """
-
-    def __init__(self, world, kind, lists=()):
-        self._world = world
-        self._list_kind = kind
-        self._cells = cells_for(world, kind, lists)
-        self._takings = []
-        self._constants = []
-        self._numbers = {}
-        self._maps = {}
-        self._composed = {}
-        self._same = self._number_of(tuple(range(self._cells.count_cells())))
+    def __init__(self, program, maps):
+        self._program = program
+        self._writes = program.writes()
+        self._cell_maps = maps
+        self._own_lists = {}
         self._lists_behind = {}
+        self._told_behind = {}
         self._lists_before = {}
-        self._lists = {}
+
+    def own_number(self, own):
+        """Return the number of the list of an own field."""
+        if own not in self._own_lists:
+            told = self._program.own_field(own)
+            entries = tuple([(field, self._cell_maps.number_of_map(mapping)) for field, mapping in told.sources])
+            self._own_lists[own] = self._cell_maps.number_of_entries(entries, told.default)
+        return self._own_lists[own]
+
+    def behind(self, field):
+        """Return the number of the list of the value of a field behind the pass."""
+        if field not in self._lists_behind:
+            entries, end = self._list_behind(field)
+            self._lists_behind[field] = self._cell_maps.number_of_entries(entries, end)
+        return self._lists_behind[field]
+
+    def put_entry_back(self, entry, found):
+        """Add what an entry becomes to a dict from fields to maps; return the end that it brings, or None."""
+        field, last = entry
+        if field not in self._told_behind:
+            self._told_behind[field] = self._cell_maps.list_told(self.behind(field))
+        sources, end = self._told_behind[field]
+        for source, one in sources:
+            if source not in found:
+                found[source] = self._cell_maps.followed(one, last)
+        return None if end is None else self._cell_maps.value_taken(last, end)
+
+    def before(self, number):
+        """Return the number of the list of a number, put back before the pass."""
+        found = self._lists_before.get(number)
+        if found is None:
+            entries, end = self._put_back(number)
+            found = self._cell_maps.number_of_entries(entries, end)
+            self._lists_before[number] = found
+        return found
+
+    def all_before(self, numbers):
+        """Return the numbers of the lists of some numbers, put back before the pass."""
+        known = self._lists_before
+        return [known[number] if number in known else self.before(number) for number in numbers]
+
+    def _put_back(self, number):
+        entries, end = self._cell_maps.list_told(number)
+        found = {}
+        for entry in entries:
+            brought = self.put_entry_back(entry, found)
+            if brought is not None:
+                # Behind the pass this field is always present, so no later entry decides.
+                return (tuple(found.items()), brought)
+        return (tuple(found.items()), end)
+
+    def _list_behind(self, field):
+        """Return the entries and the end of the value of a field behind the pass."""
+        if field not in self._writes:
+            return (((field, self._cell_maps.same_number),) if self._program.keeps else (), None)
+        write = self._writes[field]
+        return ((), None) if write is None else self._list_written(write, field)
+
+    def _list_written(self, write, field):
+        maps, own = self._cell_maps, self._program.own_field(write.own)
+        last = maps.number_of_map(write.mapping)
+        entries = [(source, maps.followed(maps.number_of_map(one), last)) for source, one in own.sources]
+        end = None if own.default is None else maps.value_taken(last, own.default)
+        if write.leaves and end is None and field not in [source for source, _ in entries]:
+            entries.append((field, maps.same_number))
+        return (tuple(entries), end)
+
+
+class ListStock:
+    """Maps and lists of one kind, and the passes of programs, each with a number, that worlds have in common."""
+
+    def __init__(self, kind, cuts):
+        self.maps = CellMaps(kind, cuts)
+        self._programs = {}
+        self._passes = {}
+        self._edited_passes = {}
+
+    def is_full(self):
+        """Tell whether so many lists are kept that another stock should take the place of this one."""
+        return self.maps.count_lists() > MOST_KEPT
+
+    def takes(self, number, program, cuts):
+        """Take a program with its number and the cuts that tell it, if the cells suffice; tell whether they do."""
+        if number not in self._passes:
+            if not self.maps.has_cuts(cuts):
+                return False
+            self._programs[number] = program
+            self._passes[number] = PassLists(program, self.maps)
+        return True
+
+    def pass_at(self, number):
+        """Return the pass of the program of a number."""
+        return self._passes[number]
+
+    def edited_pass(self, number, own):
+        """Return the pass of the program of a number in which an own field is edited."""
+        asked = (number, own)
+        if asked not in self._edited_passes:
+            made = EditedPass(self._programs[number], own, self._passes[number], self.maps)
+            self._edited_passes[asked] = made
+        return self._edited_passes[asked]
+
+
+class ListTable:
+    """The passes of a world, before which lists of one kind are put back."""
+
+    def __init__(self, stock, numbers):
+        self._list_kind = stock.maps.kind
+        self._stock = stock
+        self._program_numbers = numbers
+        self._graphs = {}
 
     @property
     def kind(self):
         """The kind of the lists."""
         return self._list_kind
 
-    def known_short(self, told):
-        """Return the short form of a source list, None if the table has no number for one of its maps."""
-        found = []
-        for field, mapping in told.entries:
-            found = found + [(field, self._numbers.get(self._cells.places_taken(mapping)))]
-        if None in [number for _, number in found]:
-            return None
-        return (tuple(found), told.end)
-
-    def short(self, told):
-        """Return the short form of a source list, None if the cells of the table do not suffice to tell it."""
-        found = []
-        for field, mapping in told.entries:
-            number = self.number_of_map(mapping)
-            if number is None:
-                return None
-            found.append((field, number))
-        return None if self._is_strange(told.end) else (tuple(found), told.end)
-
-    def list_of(self, short):
-        """Return the source list of a short form."""
-        if short not in self._lists:
-            entries = [(field, self.map_at(number)) for field, number in short[0]]
-            self._lists[short] = normal_list(self._list_kind, entries, short[1])
-        return self._lists[short]
-
-    def number_of_map(self, mapping):
-        """Return the number of a map, None if the cells of the table do not suffice to tell it."""
-        taking = self._cells.places_taken(mapping)
-        return None if taking is None else self._number_of(taking)
+    def is_full(self):
+        """Tell whether so many lists are kept that another table should take the place of this one."""
+        return self._stock.is_full()
 
     def map_at(self, number):
         """Return the map of a number."""
-        if number not in self._maps:
-            self._maps[number] = self._cells.map_of(self._takings[number])
-        return self._maps[number]
+        return self._stock.maps.map_at(number)
 
-    def value_taken(self, number, value):
-        """Return the value to which the map of a number takes a value of the table."""
-        return self._cells.value_at(self._takings[number][self._cells.place_of(value)])
+    def list_of(self, number):
+        """Return the source list of a number."""
+        return self._stock.maps.list_of(number)
 
-    def followed(self, one, other):
-        """Return the number of the map of one number, then that of the other."""
-        pair = (one, other)
-        if pair not in self._composed:
-            behind = self._takings[other]
-            self._composed[pair] = self._number_of(tuple([behind[place] for place in self._takings[one]]))
-        return self._composed[pair]
+    def number_of_list(self, told):
+        """Return the number of a source list, None if the table cannot tell it."""
+        return self._stock.maps.number_of_list(told)
 
-    def normal(self, entries, end):
-        """Return the short form of a list with some entries and an end."""
-        constants = [self._constants[number] for _, number in entries]
-        return (tuple(normal_entries(entries, constants, end)), end)
+    def known_number(self, told):
+        """Return the number of a source list, None if it has none yet."""
+        return self._stock.maps.known_number(told)
 
-    def behind(self, name, field):
-        """Return the list of the value of a field behind a pass."""
-        asked = (name, field)
-        if asked not in self._lists_behind:
-            self._lists_behind[asked] = self._list_behind(self._world.program(name), field)
-        return self._lists_behind[asked]
+    def pass_of(self, name):
+        """Return the pass of a program."""
+        return self._stock.pass_at(self._program_numbers[name])
 
-    def before(self, name, short):
-        """Return a list put back before a pass."""
-        asked = (name, short)
-        if asked not in self._lists_before:
-            self._lists_before[asked] = self._put_through(name, short)
-        return self._lists_before[asked]
+    def edited_pass(self, name, own):
+        """Return the pass of a program in which an own field is edited."""
+        return self._stock.edited_pass(self._program_numbers[name], own)
 
-    def over(self, row, short):
-        """Return a list put back over a row, before its last pass first."""
-        found = short
+    def over(self, row, number):
+        """Return the number of a list put back over a row, before its last pass first."""
+        passes = {name: self.pass_of(name) for name in self._program_numbers}
+        found = number
         for name in reversed(row):
-            found = self.before(name, found)
+            found = passes[name].before(found)
         return found
 
     def rows_of_lists(self, names, start):
         """Return the dict from all lists that come from one to their rows, in the sequence of the rows."""
+        asked = (names, start)
+        if asked not in self._graphs:
+            if len(self._graphs) == MOST_GRAPHS:
+                self._graphs = {}
+            self._graphs[asked] = self._found_rows(names, start)
+        if self._graphs[asked] is None:
+            raise TooMany("lists", MOST_LISTS)
+        return self._graphs[asked]
+
+    def _found_rows(self, names, start):
+        """Return the rows of all lists that come from one, None if there are too many."""
         found = {start: ()}
         level = [start]
         while level:
             further = []
             # Names, then lists by their rows, both ascending: so the first row of a list is the first in sorted order.
             for name in names:
-                for short in list(level):
-                    back = self._put_through(name, short)
+                backs = self.pass_of(name).all_before(level)
+                for number, back in zip(list(level), backs):
                     if back not in found:
                         if len(found) == MOST_LISTS:
-                            raise TooMany("lists", MOST_LISTS)
-                        found[back] = (name,) + found[short]
+                            return None
+                        found[back] = (name,) + found[number]
                         further.append(back)
             level = further
         return found
 
-    def put_entry_back(self, name, entry, found, seen):
-        """Add what an entry becomes to entries with other fields; return the end that it brings, or None."""
-        sources, end = self.behind(name, entry[0])
-        for source, number in sources:
-            if source not in seen:
-                seen[source] = True
-                found.append((source, self.followed(number, entry[1])))
-        return None if end is None else self.value_taken(entry[1], end)
 
-    def _put_through(self, name, short):
-        found, seen = [], {}
-        for entry in short[0]:
-            end = self.put_entry_back(name, entry, found, seen)
-            if end is not None:
-                # Behind the pass this field is always present, so no later entry decides.
-                return self.normal(found, end)
-        return self.normal(found, short[1])
-
-    def _number_of(self, taking):
-        if taking not in self._numbers:
-            self._numbers[taking] = len(self._takings)
-            self._takings.append(taking)
-            is_constant = taking.count(taking[0]) == len(taking)
-            self._constants.append(self._cells.value_at(taking[0]) if is_constant else None)
-        return self._numbers[taking]
-
-    def _is_strange(self, end):
-        return end is not None and self._cells.place_of(end) is None
-
-    def _list_behind(self, program, field):
-        writes = program.writes()
-        if field not in writes:
-            return (((field, self._same),), None) if program.keeps else ((), None)
-        write = writes[field]
-        if write is None:
-            return ((), None)
-        return self._list_written(program.own_field(write.own), write, field)
-
-    def _list_written(self, own, write, field):
-        """Return the list of what a program writes into a field."""
-        last = self.number_of_map(write.mapping)
-        entries = [(source, self.followed(self.number_of_map(one), last)) for source, one in own.sources]
-        end = None if own.default is None else self.value_taken(last, own.default)
-        if write.leaves and end is None and field not in [source for source, _ in entries]:
-            entries.append((field, self._same))
-        return self.normal(entries, end)
+def table_for(world, first):
+    """Return a table of a world that can tell a source list, and the number of this list in it."""
+    table = world.list_table(first.kind)
+    number = table.number_of_list(first)
+    if number is None:
+        table = table_with(world, first.kind, [first])
+        number = table.number_of_list(first)
+    return table, number
 
 
-def table_for(world, told):
-    """Return a table of a world that can tell a source list, and the short form of this list in it."""
-    table = world.list_table(told.kind)
-    short = table.short(told)
-    if short is None:
-        table = ListTable(world, told.kind, [told])
-        short = table.short(told)
-    return table, short
+def table_telling(world, kind, lists):
+    """Return a table of a world that can tell some source lists."""
+    table = world.list_table(kind)
+    return table_with(world, kind, lists) if None in [table.number_of_list(told) for told in lists] else table
+
+
+def table_with(world, kind, lists):
+    """Return another table of a world that can tell some source lists."""
+    programs = dict(enumerate(world.programs()))
+    cuts = {number: cuts_of_program(program, kind) for number, program in programs.items()}
+    needed = [cut for some in cuts.values() for cut in some]
+    stock = ListStock(kind, needed + [cut for told in lists for cut in cuts_of_entries(told.entries, told.end)])
+    for number, program in programs.items():
+        stock.takes(number, program, cuts[number])
+    return ListTable(stock, {program.name: number for number, program in programs.items()})

@@ -17,7 +17,7 @@ def way_to_values(world, spread, pairs, presence, wanted):
         if cause[0] == "document":
             return (("document", cause[1]), _turned(steps))
         how, presence, name, end = cause
-        edit = _least_edit(world.program(name), spread.move(presence, name).ends[end][1])
+        edit = _least_edit(world.program(name), spread.move(presence, name).edits_at(end))
         wanted = _wanted_ahead(spread, fact, wanted, edit)
         if how == "new":
             return (("new", name, edit), _turned(steps))

@@ -1,11 +1,12 @@
 """Wishes: what shall hold in a world, and what shows that it does not hold."""
 
 from keptedits.errors import InvalidChoice, InvalidWish, Unlike
-from keptedits.graphs import ListGraph
+from keptedits.graphs import lists_of_own
 from keptedits.harms import first_harm_here, least_change
+from keptedits.here import Here
 from keptedits.lists import parting
 from keptedits.putting import own_list
-from keptedits.reached import Beginnings, Reached
+from keptedits.reached import Beginnings, Reached, check_beginnings
 from keptedits.seen import echo_here_in, echo_in, problem_here_in, problem_in
 from keptedits.sets import is_number, is_set
 from keptedits.sure import shown, way_showing, way_unlike, way_without
@@ -16,6 +17,7 @@ class Wishes:
     """Wishes of a world, with the beginnings from which documents come about; they never change."""
 
     MAX_WISHES = 12
+    MOST_KNOWN = 300
 
     def __init__(self, world, wishes, beginnings):
         if not isinstance(wishes, (list, tuple)) or len(wishes) > self.MAX_WISHES:
@@ -23,12 +25,12 @@ class Wishes:
         for position, wish in enumerate(wishes):
             if not is_wish(world, wish):
                 raise InvalidWish(position)
-        self._own_answers = Answers(world, world, beginnings)
-        self._own_answers.reached()
+        check_beginnings(world, beginnings)
         self._world = world
         self._beginnings = beginnings
         self._wishes = list(wishes)
-        self._other_answers = None
+        self._answers = None
+        self._known_faults = {}
 
     @property
     def world(self):
@@ -71,36 +73,40 @@ class Wishes:
         return len(self._wishes)
 
     def _answers_in(self, world):
-        if world is None:
-            return self._own_answers
-        if not isinstance(world, World) or world.fields() != self._world.fields():
+        asked = self._world if world is None else world
+        if not isinstance(asked, World) or not self._world.has_fields_of(asked):
             raise Unlike()
         # One world is often asked for all wishes.
-        if self._other_answers is None or self._other_answers.world_asked() != world:
-            self._other_answers = self._made_answers(world)
-        return self._other_answers
+        key = asked.world_key()
+        if self._answers is None or self._answers.key_asked() != key:
+            if len(self._known_faults) >= self.MOST_KNOWN:
+                self._known_faults = {}
+            faults = self._known_faults.setdefault(key, {})
+            self._answers = Answers(self._world, asked, self._beginnings_in(asked), faults)
+        return self._answers
 
-    def _made_answers(self, world):
+    def _beginnings_in(self, world):
+        if all([name in world for name in self._beginnings.new]):
+            return self._beginnings
         new = [name for name in self._beginnings.new if name in world]
-        documents = self._beginnings.documents()
-        beginnings = Beginnings(new=new, documents=documents, anything=self._beginnings.anything)
-        return Answers(self._world, world, beginnings)
+        return Beginnings(new=new, documents=self._beginnings.documents(), anything=self._beginnings.anything)
 
 
 class Answers:
-    """The faults of wishes in a world, beside an elder one."""
+    """The faults of wishes in a world, beside an elder one; those that are known are told by their positions."""
 
-    def __init__(self, elder, world, beginnings):
+    def __init__(self, elder, world, beginnings, faults):
         self._elder = elder
         self._world = world
         self._beginnings = beginnings
         self._reached = None
-        self._graphs = {}
-        self._faults = {}
+        self._here = None
+        self._lists = {}
+        self._faults = faults
 
-    def world_asked(self):
-        """Return the world in which the wishes are looked at."""
-        return self._world
+    def key_asked(self):
+        """Return the key of the world in which the wishes are looked at."""
+        return self._world.world_key()
 
     def reached(self):
         """Return what comes about in the world."""
@@ -108,6 +114,12 @@ class Answers:
         if self._reached is None:
             self._reached = Reached(self._world, self._beginnings)
         return self._reached
+
+    def here(self):
+        """Return what lists tell at the presences that come about in the world."""
+        if self._here is None:
+            self._here = Here(self.reached())
+        return self._here
 
     def fault_at(self, position, wish):
         """Return the fault of the wish at a position, None if it holds."""
@@ -131,34 +143,35 @@ class Answers:
             return way_unlike(self.reached(), parts[0], parts[1], parts[2], parts[3])
         return self._change(parts)
 
-    def _graph(self, name, own):
+    def _lists_read(self, name, own):
         # Several wishes often speak of one reader.
         asked = (name, own)
-        if asked not in self._graphs:
-            self._graphs[asked] = ListGraph(self._world, own_list(self._world, name, own))
-        return self._graphs[asked]
+        if asked not in self._lists:
+            self._lists[asked] = lists_of_own(self._world, name, own)
+        return self._lists[asked]
 
     def _harm(self, kind, parts):
-        graph = self._graph(parts[0], parts[1])
+        lists = self._lists_read(parts[0], parts[1])
         if kind == "safe here":
-            return first_harm_here(self.reached(), graph)
-        if len(graph) == 1:
+            return first_harm_here(self.here(), lists)
+        if lists.many() == 1:
             return None
-        return (graph.rows()[1], parting(graph.first, graph.lists()[1]))
+        row, behind = lists.second_list()
+        return (row, parting(lists.first_list(), behind))
 
     def _loss(self, kind, parts):
         """Return the row, and the document or presence, of a problem or echo, None if there is none."""
         writer, edited, name, own = parts
-        graph = self._graph(name, own)
+        lists = self._lists_read(name, own)
         if kind == "seen":
-            found = problem_in(self._world, graph, writer, edited)
+            found = problem_in(lists, writer, edited)
             return None if found is None else (found[1], found[2])
         if kind == "seen here":
-            found = problem_here_in(self.reached(), graph, writer, edited)
+            found = problem_here_in(self.here(), lists, writer, edited)
             return None if found is None else (found[1], found[2])
         if kind == "kept":
-            return echo_in(self._world, graph, writer, edited)
-        return echo_here_in(self.reached(), graph, writer, edited)
+            return echo_in(self._world, lists, writer, edited)
+        return echo_here_in(self._world, self.here(), lists, writer, edited)
 
     def _exceeding(self, parts):
         name, own, values = parts
@@ -174,34 +187,28 @@ def is_wish(world, wish):
     """Tell whether a value is a wish of a world."""
     if not isinstance(wish, tuple) or len(wish) < 3 or not isinstance(wish[0], str):
         return False
-    kind, first = wish[0], own_or_none(world, wish[1], wish[2])
+    kind, first = wish[0], world.own_or_none(wish[1], wish[2])
     if first is None:
         return False
     if kind in ("safe", "safe here", "sure", "as"):
         return len(wish) == 3
     if kind == "within":
         return len(wish) == 4 and is_set(wish[3], first.kind)
-    if len(wish) != 5 or own_or_none(world, wish[3], wish[4]) is None:
+    other = world.own_or_none(wish[3], wish[4]) if len(wish) == 5 else None
+    if other is None:
         return False
     if kind in ("seen", "seen here"):
         return not first.settable.is_empty
     if kind in ("kept", "kept here"):
         return first.removable
-    return kind == "alike" and own_or_none(world, wish[3], wish[4]).kind == first.kind
+    return kind == "alike" and other.kind == first.kind
 
 
 def copied_fault(value):
     """Return a copy of a fault, with new lists and dicts inside it, too."""
-    if isinstance(value, (list, tuple)):
-        found = [copied_fault(part) for part in value]
-        return found if isinstance(value, list) else tuple(found)
-    if isinstance(value, dict):
-        return {one: copied_fault(value[one]) for one in value}
-    return value
-
-
-def own_or_none(world, name, own):
-    """Return the own field of these names, None for any two values that name none."""
-    if name not in world or not isinstance(own, str):
-        return None
-    return world.program(name).own_fields().get(own)
+    if isinstance(value, tuple):
+        return tuple([copied_fault(part) if isinstance(part, (tuple, list, dict)) else part for part in value])
+    if isinstance(value, list):
+        return [copied_fault(part) if isinstance(part, tuple) else part for part in value]
+    # Only lists of steps contain dicts within tuples.
+    return dict(value) if isinstance(value, dict) else value

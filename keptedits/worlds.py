@@ -1,9 +1,10 @@
 """Worlds: fields with their kinds, and the programs that read and write them."""
 
 from keptedits.errors import InvalidWorld, UnknownField, UnknownProgram
+from keptedits.pairs import Finding
 from keptedits.programs import Program
 from keptedits.sets import is_kind, is_name
-from keptedits.tables import ListTable
+from keptedits.shared import Shared
 
 
 class World:
@@ -21,6 +22,10 @@ class World:
         self._fields = {field: fields[field] for field in sorted(fields)}
         self._programs = {program.name: program for program in programs}
         self._tables = {}
+        self._shared = Shared(programs)
+        self._numbers = {program.name: place for place, program in enumerate(programs)}
+        self._told_key = None
+        self._last_finding = None
 
     def fields(self):
         """Return the dict from the fields to their kinds, sorted."""
@@ -49,22 +54,85 @@ class World:
     def list_table(self, kind):
         """Return the table for putting lists of a kind back before passes of this world."""
         # The world never changes, so what was found once can be used again.
-        if kind not in self._tables:
-            self._tables[kind] = ListTable(self, kind)
+        if kind not in self._tables or self._tables[kind].is_full():
+            self._tables[kind] = self._shared.list_table(kind, self.program_numbers())
         return self._tables[kind]
+
+    def plans(self, documents):
+        """Return the set of the plans of the programs, for documents of this world."""
+        return self._shared.plan_set(self._fields, list(self.program_numbers().values()), documents)
+
+    def finding(self, beginnings):
+        """Return what comes about from beginnings that are such of this world."""
+        # Several questions often speak of the same beginnings.
+        if self._last_finding is None or self._last_finding[0] != beginnings:
+            self._last_finding = (beginnings, Finding(self, beginnings))
+        return self._last_finding[1]
+
+    def shared(self):
+        """Return what the world and worlds made of it keep of their programs."""
+        return self._shared
+
+    def world_key(self):
+        """Return a tuple that equal worlds with the same shared things have in common."""
+        if self._told_key is None:
+            self.program_numbers()
+            self._told_key = (self._shared, tuple(self._numbers.values()))
+        return self._told_key
+
+    def has_fields_of(self, other):
+        """Tell whether another world has the same fields."""
+        return self._fields == other._fields
+
+    def own_or_none(self, name, own):
+        """Return the own field of these names, None for any two values that name none."""
+        if name not in self or not isinstance(own, str):
+            return None
+        return self._programs[name].own_or_none(own)
+
+    def program_numbers(self):
+        """Return the dict from the names of the programs to their numbers in what is shared."""
+        if self._numbers is None:
+            self._numbers = {name: self._shared.number_of(program) for name, program in self._programs.items()}
+        return dict(self._numbers)
 
     def only(self, *names):
         """Return the world with just these programs, in the sequence of this world."""
         for name in names:
             if name not in self:
                 raise UnknownProgram(name)
-        return World(self._fields, [program for program in self.programs() if program.name in names])
+        return self._made({name: self._programs[name] for name in self._programs if name in names})
 
     def with_program(self, program):
         """Return the world in which a program replaces the one with its name, or follows as a last one."""
-        if not isinstance(program, Program) or program.name not in self:
-            return World(self._fields, self.programs() + [program])
-        return World(self._fields, [program if one.name == program.name else one for one in self.programs()])
+        programs = self.programs() + [program]
+        if isinstance(program, Program) and program.name in self:
+            programs = [program if one.name == program.name else one for one in self.programs()]
+        if len(programs) > self.MAX_PROGRAMS or not isinstance(program, Program) or not _suits(program, self._fields):
+            # The constructor tells what is wrong.
+            return World(self._fields, programs)
+        return self._made({one.name: one for one in programs})
+
+    def with_room(self):
+        """Return this world, or an equal one if further programs may not be told of what it shares."""
+        return self if self._shared.has_room() else World(self._fields, self.programs())
+
+    def numbered(self, numbers):
+        """Return the world with just the programs of a dict from names to numbers in what is shared."""
+        found = self._made({name: self._shared.program_at(number) for name, number in numbers.items()})
+        found._shared = self._shared
+        found._numbers = {name: numbers[name] for name in numbers}
+        return found
+
+    def _made(self, programs):
+        """Return the world with these programs, which are known to suit the fields."""
+        # Its fields are known to be right, too, so they need no check.
+        found = World({"a": "number"})
+        found._fields = self._fields
+        found._programs = programs
+        found._shared = self._shared if self._shared.has_room() else Shared(list(programs.values()))
+        found._numbers = None
+        return found
 
     def __contains__(self, name):
         return isinstance(name, str) and name in self._programs

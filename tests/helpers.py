@@ -149,6 +149,11 @@ def drawn_world(draw):
     return World(fields, [drawn_program(draw, name, fields) for name in names])
 
 
+def anew(world):
+    """Return an equal world that shares nothing with it."""
+    return World(world.fields(), world.programs())
+
+
 def drawn_document(draw, world):
     """Return a drawn document of a world."""
     return {field: drawn_value(draw, kind) for field, kind in world.fields().items() if draw.random() < 0.5}

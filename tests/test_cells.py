@@ -3,9 +3,9 @@
 import random
 import unittest
 
-from keptedits.cells import NumberCells, TextCells, cuts_around, cuts_of_map
+from keptedits.cells import NumberCells, TextCells, cuts_around, cuts_of_map, cuts_of_set
 from keptedits.maps import NumberMap, TextMap
-from tests.helpers import KeptCase, drawn_map, drawn_value, some_values
+from tests.helpers import KeptCase, drawn_map, drawn_numbers, drawn_texts, drawn_value, some_values
 
 
 class CellsTest(KeptCase):
@@ -40,6 +40,23 @@ class CellsTest(KeptCase):
         for wrong in [TextMap({"a": "d"}), TextMap({"d": "a"}), TextMap({}, "d")]:
             self.assertIsNone(texts.places_taken(wrong))
         self.assertEqual(texts.map_of(texts.places_taken(TextMap({"c": "a"}))), TextMap({"c": "a"}))
+
+    def test_places_of_drawn_sets(self):
+        for seed in range(200):
+            draw = random.Random(seed)
+            for kind, values in (("number", drawn_numbers(draw)), ("text", drawn_texts(draw))):
+                cuts = cuts_of_set(values) + [cut for value in some_values(kind)[1:6] for cut in cuts_around(value)]
+                cells = NumberCells(cuts) if kind == "number" else TextCells(cuts)
+                places = cells.places_within(values)
+                for value in some_values(kind)[1:6]:
+                    self.assertIs(cells.place_of(value) in places, value in values)
+                self.assertEqual(cells.count_cells() - 1 in places, values.size is None and self.has_last(values))
+                self.assertIs(cells.has_cuts(cuts + cuts_of_set(values)), True)
+                self.assertIs(cells.has_cuts(cuts + cuts_around(99 if kind == "number" else "z")), False)
+
+    def has_last(self, values):
+        """Tell whether a set without a bound has all values behind some value."""
+        return values.kind == "text" or values.stretches()[-1][1] is None
 
     def test_no_cuts(self):
         cells = self.made("number", [NumberMap.same()])

@@ -13,7 +13,7 @@ from keptedits.sets import Numbers
 from keptedits.wishes import Wishes
 from keptedits.worlds import World
 from tests.brute import all_own, drawn_beginnings
-from tests.helpers import KeptCase, drawn_numbers, drawn_texts, drawn_world, odd_values
+from tests.helpers import KeptCase, anew, drawn_numbers, drawn_texts, drawn_world, odd_values
 from tests.test_graphs import turning
 
 SAME = NumberMap.same()
@@ -54,7 +54,7 @@ def own_first_fault(wishes, names):
     new = [name for name in wishes.beginnings.new if name in names]
     beginnings = Beginnings(new=new, documents=wishes.beginnings.documents(), anything=wishes.beginnings.anything)
     asked = [place for place, wish in enumerate(wishes.all_wishes()) if set(named(wish)) <= set(names)]
-    smaller = Wishes(wishes.world.only(*names), [wishes.all_wishes()[place] for place in asked], beginnings)
+    smaller = Wishes(anew(wishes.world.only(*names)), [wishes.all_wishes()[place] for place in asked], beginnings)
     found = smaller.first_fault()
     return None if found is None else (asked[found[0]], found[1])
 

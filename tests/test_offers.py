@@ -13,7 +13,7 @@ from keptedits.sets import Numbers
 from keptedits.wishes import Wishes
 from keptedits.worlds import World
 from tests.brute import all_own, drawn_beginnings
-from tests.helpers import EqualToAll, KeptCase, drawn_map, drawn_world, odd_values
+from tests.helpers import EqualToAll, KeptCase, anew, drawn_map, drawn_world, odd_values
 from tests.test_graphs import turning
 
 SAME = NumberMap.same()
@@ -193,24 +193,25 @@ class AdaptersTest(ExampleCase):
         self.assert_error(TooMany("lists", 3000), Adapters, told, [])
 
 
-class DrawnTest(KeptCase):
-    def drawn_offer(self, draw, world):
-        """Return a drawn offer, which need not fit."""
-        program = draw.choice(world.programs())
-        fields = list(world.fields())
-        kind = draw.choice(["keep", "read", "write", "clear", "leave", "no default"])
-        own_fields = list(program.own_fields())
-        if kind == "keep":
-            return (kind, program.name)
-        if kind in ("clear", "leave") or not own_fields:
-            return ("clear" if kind != "leave" else kind, program.name, draw.choice(fields))
-        own = draw.choice(own_fields)
-        if kind == "no default":
-            return (kind, program.name, own)
-        field = draw.choice(fields)
-        offer = (kind, program.name, own, field, drawn_map(draw, world.kind_of_field(field)))
-        return offer + (draw.choice(["first", "last"]),) if kind == "read" else offer
+def drawn_offer(draw, world):
+    """Return a drawn offer, which need not fit."""
+    program = draw.choice(world.programs())
+    fields = list(world.fields())
+    kind = draw.choice(["keep", "read", "write", "clear", "leave", "no default"])
+    own_fields = list(program.own_fields())
+    if kind == "keep":
+        return (kind, program.name)
+    if kind in ("clear", "leave") or not own_fields:
+        return ("clear" if kind != "leave" else kind, program.name, draw.choice(fields))
+    own = draw.choice(own_fields)
+    if kind == "no default":
+        return (kind, program.name, own)
+    field = draw.choice(fields)
+    offer = (kind, program.name, own, field, drawn_map(draw, world.kind_of_field(field)))
+    return offer + (draw.choice(["first", "last"]),) if kind == "read" else offer
 
+
+class DrawnTest(KeptCase):
     def drawn_wish(self, draw, world):
         """Return a drawn wish."""
         name, own = draw.choice(all_own(world))
@@ -232,7 +233,7 @@ class DrawnTest(KeptCase):
             if not all_own(world):
                 continue
             wishes = Wishes(world, [self.drawn_wish(draw, world) for _ in range(draw.randint(1, 2))], drawn_beginnings(draw, world))
-            offers = [self.drawn_offer(draw, world) for _ in range(draw.randint(1, 5))]
+            offers = [drawn_offer(draw, world) for _ in range(draw.randint(1, 5))]
             made = Adapters(wishes, offers)
             faults = {}
             for size in range(len(offers) + 1):
@@ -250,10 +251,11 @@ class DrawnTest(KeptCase):
     def plain_fault(self, wishes, offers, choice):
         """Return the fault of a choice by the words of point 32."""
         for many in range(len(choice)):
-            world = applied(wishes.world, [offers[position] for position in choice[:many]])
+            world = anew(applied(anew(wishes.world), [offers[position] for position in choice[:many]]))
             if not fits(world, offers[choice[many]]):
                 return ("offer", choice[many])
-        found = wishes.first_fault(applied(wishes.world, [offers[position] for position in choice]))
+        plain = Wishes(anew(wishes.world), wishes.all_wishes(), wishes.beginnings)
+        found = plain.first_fault(anew(applied(plain.world, [offers[position] for position in choice])))
         return None if found is None else ("wish",) + found
 
 

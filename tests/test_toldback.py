@@ -218,6 +218,10 @@ class DriftsTest(KeptCase):
         self.assertEqual(len({told(one) for _, one in found}), 3000)
         for sizes in [[2, 2, 2, 3, 5, 5, 6], [3, 2, 2, 3, 5, 5, 5], [2, 2, 2, 2, 3, 3, 4, 6]]:
             self.assert_error(TooMany("documents", 3000), drifts, *rings_of_numbers(sizes))
+        # One document more, the one without fields, is one too many.
+        self.assert_error(TooMany("documents", 3000), drifts, world.with_program(Program("drop", keeps=False)), document)
+        world, document = rings_of_numbers([2, 2, 2, 3, 5, 5])
+        self.assertEqual(len(drifts(world.with_program(Program("drop", keeps=False)), document)), 601)
 
     def test_what_is_returned_is_free(self):
         world, document = rings_of_numbers([2, 3, 2])
