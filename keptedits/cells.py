@@ -119,7 +119,8 @@ def cuts_of_program(program, kind):
     found = []
     for own in program.own_fields().values():
         if own.kind == kind:
-            found.extend(cuts_of_entries(own.sources, own.default) + cuts_of_set(own.settable))
+            found.extend(cuts_of_entries(own.sources, own.default))
+            found.extend(cuts_of_set(own.settable))
     for write in program.writes().values():
         if write is not None and write.mapping.kind == kind:
             found.extend(cuts_of_map(write.mapping))
@@ -137,10 +138,12 @@ def cuts_of_map(mapping):
     if mapping.kind == "text":
         exceptions = mapping.exceptions()
         return list(exceptions) + list(exceptions.values()) + ([] if mapping.rest is None else [mapping.rest])
-    found = [piece[0] for piece in mapping.parts() if piece[0] is not None]
-    for piece in mapping.parts():
-        if piece[2] is not None:
-            found.extend([piece[2], piece[2] + 1])
+    found = []
+    for first, _, what in mapping.parts():
+        if first is not None:
+            found.append(first)
+        if what is not None:
+            found.extend([what, what + 1])
     return found
 
 

@@ -161,6 +161,7 @@ class ListTable:
         self._list_kind = stock.maps.kind
         self._stock = stock
         self._program_numbers = numbers
+        self._passes = {name: stock.pass_at(number) for name, number in numbers.items()}
         self._graphs = {}
 
     @property
@@ -190,7 +191,7 @@ class ListTable:
 
     def pass_of(self, name):
         """Return the pass of a program."""
-        return self._stock.pass_at(self._program_numbers[name])
+        return self._passes[name]
 
     def edited_pass(self, name, own):
         """Return the pass of a program in which an own field is edited."""
@@ -198,10 +199,9 @@ class ListTable:
 
     def over(self, row, number):
         """Return the number of a list put back over a row, before its last pass first."""
-        passes = {name: self.pass_of(name) for name in self._program_numbers}
         found = number
         for name in reversed(row):
-            found = passes[name].before(found)
+            found = self._passes[name].before(found)
         return found
 
     def rows_of_lists(self, names, start):
